@@ -1,0 +1,104 @@
+"""The examples of the document, and the names and places of its interface."""
+
+import importlib
+import inspect
+
+from toldstarts.base.amounts import Amounts
+from toldstarts.base.ticks import text_of_ticks, ticks_of
+from toldstarts.errors import Lacking, ParseError
+from toldstarts.house.choices import best_choice, fitting, is_short_set, short_set
+from toldstarts.house.formulas import plain_form, read_formula, write_formula
+from toldstarts.house.machines import Machine, fold_names, unfold_names
+from toldstarts.room.rooms import Room
+from helper import Case
+
+# For each module its functions with their parameters, and its classes with the methods that the document lists.
+FUNCTIONS = {
+    "toldstarts.base.ticks": ("is_tick(value)", "text_of_ticks(number)", "ticks_of(text)"),
+    "toldstarts.house.machines": (
+        "is_machine_name(value)", "sorted_names(names)", "fold_names(names)", "unfold_names(text)"),
+    "toldstarts.house.formulas": (
+        "is_formula(value)", "marks_in(f)", "read_formula(text)", "write_formula(f)", "holds(f, marks)",
+        "parting(f, g, marks)", "plain_form(f, marks)", "is_plain_form(f, marks, value)"),
+    "toldstarts.house.choices": (
+        "fitting(groups, crew)", "best_choice(groups, crew)", "is_choice(groups, crew, value)",
+        "choice_key(groups, crew, choice)", "short_set(groups, crew)", "is_short_set(groups, crew, value)"),
+}
+CLASSES = {
+    "toldstarts.base.amounts": ("Amounts", "(pairs=())", (
+        "of_text", "cover_of", "pairs", "kinds", "covers", "lacks", "times", "__getitem__", "__add__", "__sub__",
+        "__mul__", "__contains__", "__len__", "__bool__", "__iter__", "__eq__", "__str__")),
+    "toldstarts.room.rooms": ("Room", "(amounts, *, period=1)", (
+        "amounts", "period", "head", "claims", "windows", "with_claim", "with_window", "without_claim",
+        "without_window", "free", "least", "area_of", "steps", "fits", "earliest", "bars", "is_bars", "__len__",
+        "__eq__", "__str__")),
+    "toldstarts.house.machines": ("Machine", "(name, amounts, *, marks=(), rack='main')", (
+        "name", "amounts", "marks", "rack", "__eq__", "__str__")),
+}
+
+
+class Interface(Case):
+    def test_functions(self):
+        for module, headings in FUNCTIONS.items():
+            for heading in headings:
+                function = getattr(importlib.import_module(module), heading.partition("(")[0])
+                self.assertEqual(function.__name__ + str(inspect.signature(function)), heading)
+                self.assertEqual(function.__module__, module)
+
+    def test_classes(self):
+        for module, (name, signature, methods) in CLASSES.items():
+            made = getattr(importlib.import_module(module), name)
+            self.assertEqual(made.__module__, module)
+            self.assertEqual(str(inspect.signature(made)), signature)
+            self.assertEqual([method for method in methods if method not in made.__dict__], [])
+
+
+class Examples(Case):
+    def test_ticks(self):
+        self.assertEqual([text_of_ticks(0), text_of_ticks(93784), text_of_ticks(1000000), ticks_of("90"),
+                          ticks_of("1:05"), ticks_of("2-3")],
+                         ["00:00:00", "1-02:03:04", "11-13:46:40", 5400, 65, 183600])
+        self.refused(ParseError, ticks_of, "1:60")
+
+    def test_amounts(self):
+        have, want = Amounts((("core", 8), ("mem", 100))), Amounts.of_text(" mem 30,core 2 ")
+        self.assertEqual([str(want), have.times(want), str(have - want), str(want.lacks(have)), str(want * 0),
+                          have["core"], have["gpu"], "mem" in have],
+                         ["core 2, mem 30", 3, "core 6, mem 70", "core 6, mem 70", "nothing", 8, 0, True])
+        self.assertEqual([str(Amounts.cover_of(want, Amounts((("core", 5),)))), have.covers(want), len(have),
+                          bool(Amounts()), list(want)],
+                         ["core 5, mem 30", True, 2, False, [("core", 2), ("mem", 30)]])
+        self.refused(Lacking, lambda: want - have)
+
+    def test_rooms(self):
+        two, three, four = Amounts((("core", 2),)), Amounts((("core", 3),)), Amounts((("core", 4),))
+        room = Room(four, period=10).with_claim((0, 5, three)).with_window((8, 2, four))
+        self.assertEqual([room.head, room.earliest(two, 3, 0), room.earliest(two, 4, 0), room.earliest(two, 9, 0)],
+                         [8, 5, 10, None])
+        self.assertEqual([[tick for tick, some in room.steps(0, 20)], room.area_of("core", 0, 10), str(room)],
+                         [[0, 5, 8, 10, 18], 17, "room with 1 claims, 1 windows"])
+        paper = ((0, 5, ("short", "core", 0, 4)), (5, 10, ("short", "core", 8, 9)))
+        self.assertEqual([room.is_bars(two, 4, 0, 10, paper), room.is_bars(two, 4, 0, 5, paper[:1])], [True, True])
+
+    def test_machines(self):
+        self.assertEqual([fold_names(("m10", "m9", "m", "m1", "gpu3", "m2")), unfold_names("b,m[3,1-2],m2")],
+                         ["gpu3,m,m[1-2,9-10]", ("b", "m1", "m2", "m3")])
+        self.assertEqual(str(Machine("m17", Amounts())), "m17 in main")
+
+    def test_formulas(self):
+        a, b, c = ("mark", "a"), ("mark", "b"), ("mark", "c")
+        self.assertEqual(
+            [read_formula(" a&b | !(c|a) "), write_formula(("and", (("or", (a, b)), ("not", ("not", c)), ("all",))))],
+            [("or", (("and", (("mark", "a"), ("mark", "b"))), ("not", ("or", (("mark", "c"), ("mark", "a")))))),
+             "(a | b) & !!c & all"])
+        self.assertEqual(plain_form(("or", (("and", (a, b)), ("and", (("not", a), c)))), ("a", "b", "c")),
+                         ((("a", "b"), ()), (("b", "c"), ()), (("c",), ("a",))))
+
+    def test_choices(self):
+        core = Amounts((("core", 2),))
+        crew = tuple([(Machine("m" + str(at), core, marks=("big",) if at == 2 else (), rack="xyyx"[at]), core)
+                      for at in range(4)])
+        groups = ((1, ("mark", "big"), core), (2, ("all",), Amounts()))
+        self.assertEqual([fitting(groups, crew), best_choice(groups, crew)], [((2,), (0, 1, 2, 3)), ((2,), (0, 1))])
+        self.assertEqual([best_choice(((2, ("all",), core),), crew), short_set(((2, ("mark", "big"), core),), crew),
+                          is_short_set(groups, crew, (0, 1))], [((0, 3),), (0,), False])

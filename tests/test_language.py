@@ -1,0 +1,202 @@
+"""The form of the code: what can be seen by a program of the rules L1 to L28.
+
+Where a rule allows more than the package needs, the tests here allow less: widen them with care.
+"""
+
+import ast
+import builtins
+import pathlib
+import re
+
+from helper import Case
+
+ROOT = pathlib.Path(__file__).resolve().parent.parent / "toldstarts"
+FILES = sorted(ROOT.rglob("*.py"))
+BUILTINS = set("""len range enumerate zip min max sum abs sorted reversed int str bool list tuple dict set isinstance ord
+    repr any all divmod iter ValueError TypeError KeyError IndexError LookupError ArithmeticError OverflowError
+    NotImplemented property classmethod""".split())
+BUILTIN_METHODS = set("""append count endswith extend find get index insert isalnum isalpha isdigit items join keys ljust
+    lower lstrip partition pop remove replace rfind rjust rpartition rsplit rstrip setdefault split splitlines startswith
+    strip update upper values zfill bit_length copy clear""".split())
+BAD_NAMES = set("register mro elements open input law version_info with_traceback add_note".split())
+BAD_WORDS = set("""type typing typing_extensions enum Enum IntEnum StrEnum Flag IntFlag Generic Protocol ABC ABCMeta
+    namedtuple NamedTuple TypedDict TYPE_CHECKING abstractmethod""".split())
+DUNDERS = set("""__init__ __eq__ __repr__ __str__ __len__ __iter__ __bool__ __contains__ __getitem__ __add__ __sub__
+    __mul__""".split())
+NODES = set("""Module Expr Constant Import ImportFrom alias FunctionDef ClassDef arguments arg Return Assign For While If
+    Raise Pass Break Continue BoolOp And Or BinOp Add Sub Mult FloorDiv Mod Pow LShift RShift BitAnd BitOr BitXor UnaryOp
+    Not USub IfExp Dict ListComp DictComp comprehension Compare Eq NotEq Lt LtE Gt GtE Is IsNot In NotIn Call keyword
+    JoinedStr FormattedValue Attribute Subscript Slice Starred Name Load Store List Tuple Yield YieldFrom""".split())
+
+
+def trees():
+    return [(path, ast.parse(path.read_text())) for path in FILES]
+
+
+def all_nodes(kind):
+    return [(path, node) for path, tree in trees() for node in ast.walk(tree) if isinstance(node, kind)]
+
+
+def names_of(tree):
+    """What a file binds at module level."""
+    found = []
+    for node in tree.body:
+        if isinstance(node, (ast.FunctionDef, ast.ClassDef)):
+            found.append(node.name)
+        elif isinstance(node, ast.Assign):
+            found.append(node.targets[0].id)
+    return found
+
+
+class Form(Case):
+    def test_files(self):
+        for path in ROOT.rglob("*"):
+            if "__pycache__" in path.parts:
+                continue
+            self.assertTrue(path.is_dir() or path.suffix == ".py", path)
+            self.assertRegex(path.name, "^([a-z][a-z0-9_]*([.]py)?|__init__[.]py)$")
+            if path.is_dir():
+                self.assertTrue((path / "__init__.py").exists(), path)
+            self.assertFalse(path.stem in vars(builtins) or path.stem.startswith("test") or path.stem in BAD_WORDS)
+        self.assertLessEqual(len(FILES), 100)
+
+    def test_characters_and_sizes(self):
+        for path in FILES:
+            text = path.read_text()
+            self.assertTrue(all([" " <= sign <= "~" or sign == "\n" for sign in text]), path)
+            lines = text.splitlines()
+            self.assertLessEqual(len(lines), 399, path)
+            self.assertLessEqual(max([len(line) for line in lines]), 120, path)
+        for path, node in all_nodes(ast.FunctionDef):
+            self.assertLessEqual(node.end_lineno - node.lineno + 1, 40, (path, node.name))
+
+    def test_statements_and_expressions(self):
+        for path, node in all_nodes(ast.AST):
+            kind = type(node).__name__
+            where = (path, kind, getattr(node, "lineno", None))
+            if kind != "Set" and kind != "SetComp":
+                self.assertIn(kind, NODES, where)
+            if isinstance(node, ast.Constant):
+                self.assertIn(type(node.value).__name__, ("int", "str", "bool", "NoneType"), where)
+            if isinstance(node, ast.FunctionDef):
+                for mark in node.decorator_list:
+                    self.assertIn(ast.unparse(mark), ("property", "classmethod"), where)
+                if node.name.startswith("__"):
+                    self.assertIn(node.name, DUNDERS, where)
+            if isinstance(node, ast.BinOp) and isinstance(node.op, ast.Pow):
+                self.assertTrue(isinstance(node.right, ast.Constant) and node.right.value <= 64, where)
+            if isinstance(node, ast.Compare):
+                for sign, right in zip(node.ops, node.comparators):
+                    if isinstance(sign, (ast.Is, ast.IsNot)):
+                        self.assertIn(ast.unparse(right), ("None", "True", "False"), where)
+
+    def test_module_level(self):
+        for path, tree in trees():
+            self.assertTrue(ast.get_docstring(tree), path)
+            names = names_of(tree)
+            self.assertEqual(len(names), len(set(names)), path)
+            for node in tree.body[1:]:
+                self.assertIsInstance(node, (ast.ImportFrom, ast.FunctionDef, ast.ClassDef, ast.Assign), path)
+                if isinstance(node, ast.Assign):
+                    ast.literal_eval(node.value)
+            for node in ast.walk(tree):
+                if isinstance(node, (ast.FunctionDef, ast.ClassDef)) and not node.name.startswith("__"):
+                    self.assertTrue(ast.get_docstring(node), (path, node.name))
+
+    def test_imports(self):
+        needs = {}
+        bound = {path: names_of(tree) for path, tree in trees()}
+        for path, node in all_nodes(ast.ImportFrom):
+            self.assertEqual(node.level, 0)
+            source = ROOT.parent.joinpath(*node.module.split(".")).with_suffix(".py")
+            self.assertIn(source, FILES, node.module)
+            for alias in node.names:
+                self.assertIsNone(alias.asname)
+                self.assertIn(alias.name, bound[source], (path, alias.name))
+            needs.setdefault(path, []).append(source)
+        self.assertEqual(all_nodes(ast.Import), [])
+        done = set()
+        while len(done) < len(FILES):
+            ready = [path for path in FILES if path not in done and set(needs.get(path, [])) <= done]
+            self.assertTrue(ready, "files import from each other")
+            done.update(ready)
+
+    def test_names(self):
+        for path, tree in trees():
+            imported = [alias.name for node in tree.body if isinstance(node, ast.ImportFrom) for alias in node.names]
+            classes = [node.name for node in tree.body if isinstance(node, ast.ClassDef)]
+            known = set(imported) | set(names_of(tree)) | BUILTINS
+            read = [node.id for node in ast.walk(tree) if isinstance(node, ast.Name) and isinstance(node.ctx, ast.Load)]
+            self.assertEqual([name for name in imported if name not in read], [], path)
+            self.assertNotIn("_", read)
+            for function in [node for node in ast.walk(tree) if isinstance(node, ast.FunctionDef)]:
+                own = set([arg.arg for arg in ast.walk(function) if isinstance(arg, ast.arg)]) | set(
+                    [node.id for node in ast.walk(function) if isinstance(node, ast.Name)
+                     and isinstance(node.ctx, ast.Store)])
+                self.assertEqual(own & (set(imported) | set(classes) | set(dir(builtins))) - {"_"}, set(), path)
+                self.assertEqual(own & BAD_NAMES, set(), path)
+                for node in ast.walk(function):
+                    if isinstance(node, ast.Name) and isinstance(node.ctx, ast.Load):
+                        self.assertIn(node.id, known | own, (path, node.lineno))
+
+    def test_methods(self):
+        own = set([node.name for _, node in all_nodes(ast.FunctionDef)])
+        stored = set([node.attr for _, node in all_nodes(ast.Attribute) if isinstance(node.ctx, ast.Store)])
+        for path, node in all_nodes(ast.Call):
+            if isinstance(node.func, ast.Attribute):
+                self.assertIn(node.func.attr, own | BUILTIN_METHODS, (path, node.lineno))
+        for name in own | stored:
+            self.assertFalse(name in BAD_NAMES or name in vars(builtins), name)
+        for path, tree in trees():
+            for made in [node for node in tree.body if isinstance(node, ast.ClassDef)]:
+                methods = [node.name for node in made.body if isinstance(node, ast.FunctionDef)]
+                self.assertEqual(len(methods), len(set(methods)), made.name)
+                attributes = [node.attr for node in ast.walk(made) if isinstance(node, ast.Attribute)
+                              and isinstance(node.ctx, ast.Store)]
+                self.assertEqual(set(methods) & set(attributes), set(), made.name)
+
+    def test_sets_and_generators(self):
+        makers = set([node.name for _, node in all_nodes(ast.FunctionDef)
+                      if any([isinstance(part, (ast.Yield, ast.YieldFrom)) for part in ast.walk(node)])])
+        for path, tree in trees():
+            fine = set()
+            for node in ast.walk(tree):
+                if isinstance(node, ast.Call) and ast.unparse(node.func) in ("sorted", "len"):
+                    fine.update(map(id, node.args))
+                if isinstance(node, (ast.For, ast.comprehension)):
+                    fine.add(id(node.iter))
+                if isinstance(node, ast.YieldFrom):
+                    fine.add(id(node.value))
+            for node in ast.walk(tree):
+                name = ast.unparse(node.func).split(".")[-1] if isinstance(node, ast.Call) else ""
+                if isinstance(node, (ast.Set, ast.SetComp)) or name == "set" or name in makers:
+                    self.assertIn(id(node), fine, (path, node.lineno))
+                if name in makers:
+                    for arg in node.args + [node.func]:
+                        self.assertRegex(ast.unparse(arg), "^[A-Za-z_.]+$", (path, node.lineno))
+
+    def test_iterations_without_change(self):
+        for path, node in all_nodes(ast.For):
+            gone_over = ast.unparse(node.iter)
+            for part in ast.walk(node):
+                if isinstance(part, ast.Call) and isinstance(part.func, ast.Attribute):
+                    if part.func.attr in ("append", "extend", "pop", "setdefault", "update", "clear", "remove", "insert"):
+                        changed = ast.unparse(part.func.value)
+                        self.assertIsNone(re.search(r"(?<![\w.])%s(?![\w])" % re.escape(changed), gone_over),
+                                          (path, node.lineno))
+
+    def test_words(self):
+        for path in FILES:
+            text = path.read_text()
+            for word in ("(type)", "Meta", "metaclass=", "_wall", "_WallAttr", "dataclass", "contextmanager"):
+                self.assertNotIn(word, text, path)
+            self.assertEqual(set(re.findall(r"\w+", text)) & BAD_WORDS, set(), path)
+        for path, node in all_nodes(ast.Constant):
+            if isinstance(node.value, str):
+                self.assertNotIn("%", node.value, path)
+                self.assertFalse(node.value.endswith(("._", ".__")) or "__" in node.value, path)
+
+    def test_errors(self):
+        for path, node in all_nodes(ast.Raise):
+            self.assertTrue(isinstance(node.exc, ast.Call) and isinstance(node.exc.func, ast.Name), path)
+            self.assertIsNone(node.cause)

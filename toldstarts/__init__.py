@@ -1,0 +1,1 @@
+"""Toldstarts: a job scheduler that keeps the starts it has told."""

@@ -1,0 +1,1 @@
+"""Ticks and amounts, on which all else rests."""

@@ -1,0 +1,1 @@
+"""Machines, formulas over their marks, and choices of machines."""

@@ -1,0 +1,1 @@
+"""Rooms: amounts that claims and windows hold for some ticks."""
