@@ -197,7 +197,7 @@ class Texts(Case):
         for text, spot in (("", 0), ("  ", 2), ("1", 0), ("Core 1", 0), ("core", 4), ("core ", 5), ("core,", 4),
                            ("core  x", 6), ("core 0", 5), ("core 01", 5), ("core -1", 5), ("core 1x", 6),
                            ("core 1 2", 7), ("core 1,", 7), ("core 1, ", 8), ("core 1,,", 7), (",core 1", 0),
-                           ("core 1;", 6), ("abcdefghi 1", 8), ("abcdefgh", 8), ("core 12345678", 12), ("core\t1", 4),
+                           ("core 1;", 6), ("abcdefghi 1", 8), ("abcdefgh1", 8), ("abcdefgh5,a 1", 8), ("abcdefgh", 8), ("core 12345678", 12), ("core\t1", 4),
                            ("co-re 1", 2), ("core 1\n", 6), ("core4", 5), ("~", 0), ("core 1 ,mem", 11)):
             self.wrong_at(spot, Amounts.of_text, text)
 

@@ -109,6 +109,9 @@ class Making(Case):
         self.assertNotEqual(Room(FOUR), Room(FOUR, period=2))
         self.assertNotEqual(Room(FOUR), Room(THREE))
         self.assertNotEqual(base.with_claim((3, None, ONE)), base.with_claim((3, 4, ONE)))
+        self.assertNotEqual(base.with_claim((0, None, ONE)), base.with_claim((0, 1, ONE)))
+        self.assertEqual(base.with_claim((0, None, ONE)).with_claim((0, 1, ONE)),
+                         base.with_claim((0, 1, ONE)).with_claim((0, None, ONE)))
         for value in ODD:
             self.assertIs(one == value, False)
             self.assertIs(one != value, True)
@@ -394,6 +397,10 @@ class Runs(Case):
                             (paper[0], (5, 10, ("short", "core", 8, 8))),
                             ((0, 5, ("short", "core", -1, 4)), paper[1])):
             self.assertIs(room.is_bars(TWO, 4, 0, 10, value), False, value)
+        halves = ((0, 1, ("short", "core", 0, 4)), (1, 5, ("short", "core", 0, 4)), paper[1])
+        self.assertIs(room.is_bars(TWO, 4, 0, 10, halves), True)
+        self.assertIs(room.is_bars(TWO, 4, 0, 10, ((0, True, halves[0][2]),) + halves[1:]), False)
+        self.assertIs(room.is_bars(TWO, 4, 0, 10, (halves[0], (True, 5, halves[1][2]), paper[1])), False)
         for one in ODD:
             self.assertIs(room.is_bars(TWO, 4, 0, 10, (one,)), False)
             self.assertIs(room.is_bars(TWO, 4, 0, 10, ((0, 10, one),)), False)

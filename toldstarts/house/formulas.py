@@ -74,8 +74,7 @@ def plain_form(f, marks):
 
 def is_plain_form(f, marks, value):
     """Whether any value is the plain form of a formula over some marks."""
-    form = plain_form(f, marks)
-    return isinstance(value, tuple) and value == form
+    return value == plain_form(f, marks)
 
 
 def is_true(f, marks):
@@ -105,10 +104,8 @@ def _check_marks_in(f, marks):
 
 def _is_node(value):
     """Whether the value has the form of a formula, whatever its parts are."""
-    if not isinstance(value, tuple) or not 1 <= len(value) <= 2 or not isinstance(value[0], str):
-        return False
-    if len(value) == 1:
-        return value[0] == ALL
+    if not isinstance(value, tuple) or len(value) != 2:
+        return value == ("all",)
     word, part = value
     if word == "mark":
         return is_mark(part)

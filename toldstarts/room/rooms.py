@@ -163,7 +163,8 @@ class Room:
 
     def _key(self):
         """What is equal for equal rooms: claims and windows may have any order."""
-        claims = sorted([(begin, end is None, end or 0, held.pairs) for begin, end, held in self._claims])
+        # No claim ends at 0: there it stands for no end.
+        claims = sorted([(begin, end or 0, held.pairs) for begin, end, held in self._claims])
         windows = sorted([(begin, length, held.pairs) for begin, length, held in self._windows])
         return (self._amounts.pairs, self._period, claims, windows)
 

@@ -7,7 +7,7 @@ from toldstarts.errors import TooMany
 def search(line, want, length, since, horizon, most):
     """The earliest start of a run, or None, and the bars up to it, or up to the horizon.
 
-    What comes behind the horizon is like what comes ahead of it. More than `most` steps are refused.
+    A run that fits at the horizon or behind it fits ahead of it, too. More than `most` steps are refused.
     """
     wanted = [(at, want[kind]) for at, kind in enumerate(line.line_kinds) if kind in want]
     limit = horizon + length
@@ -24,13 +24,13 @@ def search(line, want, length, since, horizon, most):
             bars.append((start, min(stop, horizon), ("short", kind, first, stop - 1)))
         if short:
             start = stop
-        elif start < horizon and stop - start >= length:
+        elif stop - start >= length:
             return start, tuple(bars)
     return None, tuple(bars)
 
 
 def is_bar(value):
-    """Whether the value has the form of a bar, with a first tick that is at most the last one."""
+    """Whether the value has the form of a bar of some kind, whatever that is."""
     if not isinstance(value, tuple) or len(value) != 3:
         return False
     low, high, reason = value
@@ -38,10 +38,8 @@ def is_bar(value):
         return False
     if not isinstance(reason, tuple) or len(reason) != 4:
         return False
-    word, kind, first, last = reason
-    if not isinstance(word, str) or word != "short" or not isinstance(kind, str):
-        return False
-    return is_whole(first) and is_whole(last) and 0 <= first <= last
+    word, _, first, last = reason
+    return word == "short" and is_whole(first) and is_whole(last) and 0 <= first <= last
 
 
 def is_chain(value, length, since, end):
