@@ -4,6 +4,7 @@ import unittest
 
 from toldstarts.base.amounts import Amounts
 from toldstarts.house.machines import Machine
+from toldstarts.jobs.jobs import Job
 from toldstarts.room.rooms import Room
 
 
@@ -15,17 +16,25 @@ def deep(depth):
     return value
 
 
+def some(**numbers):
+    """The amounts with some numbers of some kinds."""
+    return Amounts(tuple(sorted(numbers.items())))
+
+
+def a_job(name="sim", **wishes):
+    """A small job, with some arguments of its own."""
+    arguments = {"account": "lab", "person": "ada", "doors": ("day",), "groups": ((1, ("all",), some(core=1)),),
+                 "limit": 60}
+    arguments.update(wishes)
+    return Job(name, **arguments)
+
+
 # Values of all kinds with which any parameter may be called.
 ODD = (
     True, False, None, 0, 1, -1, 7, 10 ** 59, 10 ** 60, -(10 ** 60), 10 ** 99, "", "x", "all", "nothing", "a" * 4001,
     "~" * 4001, (), (1,), ((),), ("core", 1), (("core", True),), [], [1], ["core"], {}, {"core": 1}, {1: []},
-    deep(30), Amounts(), Amounts((("core", 4),)), Room(Amounts()), Machine("m1", Amounts()),
+    deep(30), Amounts(), Amounts((("core", 4),)), Room(Amounts()), Machine("m1", Amounts()), a_job(),
 )
-
-
-def some(**numbers):
-    """The amounts with some numbers of some kinds."""
-    return Amounts(tuple(sorted(numbers.items())))
 
 
 class Case(unittest.TestCase):

@@ -9,7 +9,10 @@ from toldstarts.errors import Lacking, ParseError
 from toldstarts.house.choices import best_choice, fitting, is_short_set, short_set
 from toldstarts.house.formulas import plain_form, read_formula, write_formula
 from toldstarts.house.machines import Machine, fold_names, unfold_names
+from toldstarts.jobs.jobs import Job
+from toldstarts.jobs.reader import read_job, write_job
 from toldstarts.room.rooms import Room
+from toldstarts.wait.formulas import jobs_named, lost_tree, may_come, parting_row, read_after, sure, true_now, write_after
 from helper import Case
 
 # For each module its functions with their parameters, and its classes with the methods that the document lists.
@@ -23,6 +26,12 @@ FUNCTIONS = {
     "toldstarts.house.choices": (
         "fitting(groups, crew)", "best_choice(groups, crew)", "is_choice(groups, crew, value)",
         "choice_key(groups, crew, choice)", "short_set(groups, crew)", "is_short_set(groups, crew, value)"),
+    "toldstarts.jobs.reader": ("read_job(text)", "write_job(job)"),
+    "toldstarts.wait.fates": ("is_state(value)", "ends_of(state)", "atoms_of(state)", "may_follow(one, other)"),
+    "toldstarts.wait.formulas": (
+        "is_after_formula(value)", "jobs_named(f)", "read_after(text)", "write_after(f)", "true_now(f, known)",
+        "may_come(f, known, *, held=())", "sure(f, known)", "parting_row(f, g)", "lost_tree(f, known, *, held=())",
+        "is_lost_tree(f, known, value, *, held=())"),
 }
 CLASSES = {
     "toldstarts.base.amounts": ("Amounts", "(pairs=())", (
@@ -34,6 +43,10 @@ CLASSES = {
         "__eq__", "__str__")),
     "toldstarts.house.machines": ("Machine", "(name, amounts, *, marks=(), rack='main')", (
         "name", "amounts", "marks", "rack", "__eq__", "__str__")),
+    "toldstarts.jobs.jobs": (
+        "Job", "(name, *, account, person, doors, groups, tokens=None, limit, grade=0, after=None)", (
+            "name", "account", "person", "doors", "groups", "tokens", "limit", "grade", "after", "machines", "size", "total",
+            "changed", "__eq__", "__str__")),
 }
 
 
@@ -102,3 +115,25 @@ class Examples(Case):
         self.assertEqual([fitting(groups, crew), best_choice(groups, crew)], [((2,), (0, 1, 2, 3)), ((2,), (0, 1))])
         self.assertEqual([best_choice(((2, ("all",), core),), crew), short_set(((2, ("mark", "big"), core),), crew),
                           is_short_set(groups, crew, (0, 1))], [((0, 3),), (0,), False])
+
+    def test_jobs(self):
+        sim = Job("sim", account="physics", person="ada", doors=("fast", "slow"),
+                  groups=((2, ("mark", "gpu"), Amounts((("core", 4),))), (1, ("all",), Amounts((("mem", 10),)))), limit=3600)
+        self.assertEqual([str(sim), sim.machines, sim.size, str(sim.total), sim.grade, sim.after, sim.changed(grade=3) == sim,
+                          str(sim.changed(limit=60, tokens=Amounts((("lic", 1),))).total)],
+                         ["job sim of 3 machines for 01:00:00", 3, 18, "core 8, mem 10", 0, None, False, "core 8, lic 1, mem 10"])
+        text = ("# a test\nlimit 60 # minutes\nname sim\naccount physics\n  person ada\ndoors fast,slow\n"
+                "group 2:gpu:core 4\ngroup 1 : all : mem 10\n")
+        self.assertEqual([read_job(text) == sim, write_job(sim).splitlines()[3:6], read_job(write_job(sim)) == sim],
+                         [True, ["doors fast, slow", "group 2 : gpu : core 4", "group 1 : all : mem 10"], True])
+
+    def test_formulas_over_ends(self):
+        f = read_after("well(1) & (ill(1) | over(2))")
+        self.assertEqual([f, write_after(f), jobs_named(f)],
+                         [("and", (("well", 1), ("or", (("ill", 1), ("over", 2))))), "well(1) & (ill(1) | over(2))", (1, 2)])
+        self.assertEqual([true_now(f, {1: "well", 2: "begun"}), may_come(f, {1: "begun", 2: "waiting"}),
+                          may_come(f, {1: "ill", 2: "well"}), sure(f, {1: "well", 2: "begun"})], [False, True, False, True])
+        both = ("and", (("well", 1), ("ill", 1)))
+        self.assertEqual([may_come(both, {1: "begun"}), lost_tree(both, {1: "begun"})],
+                         [False, ("split", 1, (("well", ("lost",)), ("ill", ("lost",)), ("late", ("lost",)), ("gone", ("lost",))))])
+        self.assertEqual(parting_row(("over", 1), ("or", (("begun", 1), ("left", 1)))), ((1, 1),))

@@ -17,7 +17,8 @@ BUILTINS = set("""len range enumerate zip min max sum abs sorted reversed int st
     NotImplemented property classmethod""".split())
 BUILTIN_METHODS = set("""append count endswith extend find get index insert isalnum isalpha isdigit items join keys ljust
     lower lstrip partition pop remove replace rfind rjust rpartition rsplit rstrip setdefault split splitlines startswith
-    strip update upper values zfill bit_length copy clear""".split())
+    strip update upper values zfill bit_length copy clear isascii islower isprintable""".split())
+LIBRARY = {"heapq": ("heappush", "heappop"), "math": ("gcd", "lcm")}
 BAD_NAMES = set("register mro elements open input law version_info with_traceback add_note".split())
 BAD_WORDS = set("""type typing typing_extensions enum Enum IntEnum StrEnum Flag IntFlag Generic Protocol ABC ABCMeta
     namedtuple NamedTuple TypedDict TYPE_CHECKING abstractmethod""".split())
@@ -26,7 +27,8 @@ DUNDERS = set("""__init__ __eq__ __repr__ __str__ __len__ __iter__ __bool__ __co
 NODES = set("""Module Expr Constant Import ImportFrom alias FunctionDef ClassDef arguments arg Return Assign For While If
     Raise Pass Break Continue BoolOp And Or BinOp Add Sub Mult FloorDiv Mod Pow LShift RShift BitAnd BitOr BitXor UnaryOp
     Not USub IfExp Dict ListComp DictComp comprehension Compare Eq NotEq Lt LtE Gt GtE Is IsNot In NotIn Call keyword
-    JoinedStr FormattedValue Attribute Subscript Slice Starred Name Load Store List Tuple Yield YieldFrom""".split())
+    JoinedStr FormattedValue Attribute Subscript Slice Starred Name Load Store List Tuple Yield YieldFrom Try ExceptHandler
+    Delete Del""".split())
 
 
 def trees():
@@ -98,7 +100,13 @@ class Form(Case):
             for node in tree.body[1:]:
                 self.assertIsInstance(node, (ast.ImportFrom, ast.FunctionDef, ast.ClassDef, ast.Assign), path)
                 if isinstance(node, ast.Assign):
-                    ast.literal_eval(node.value)
+                    self.assertEqual(len(node.targets), 1)
+                    for part in ast.walk(node.value):
+                        self.assertIsInstance(part, (ast.Constant, ast.Tuple, ast.Dict, ast.Name, ast.Load, ast.BinOp, ast.Pow))
+                        if isinstance(part, ast.Name):
+                            ahead = [one.name for one in tree.body if isinstance(one, ast.FunctionDef)
+                                     and one.lineno < node.lineno]
+                            self.assertIn(part.id, ahead, path)
             for node in ast.walk(tree):
                 if isinstance(node, (ast.FunctionDef, ast.ClassDef)) and not node.name.startswith("__"):
                     self.assertTrue(ast.get_docstring(node), (path, node.name))
@@ -108,6 +116,10 @@ class Form(Case):
         bound = {path: names_of(tree) for path, tree in trees()}
         for path, node in all_nodes(ast.ImportFrom):
             self.assertEqual(node.level, 0)
+            if node.module in LIBRARY:
+                self.assertEqual([alias.asname for alias in node.names if alias.name in LIBRARY[node.module]],
+                                 [None] * len(node.names))
+                continue
             source = ROOT.parent.joinpath(*node.module.split(".")).with_suffix(".py")
             self.assertIn(source, FILES, node.module)
             for alias in node.names:
@@ -132,7 +144,8 @@ class Form(Case):
             for function in [node for node in ast.walk(tree) if isinstance(node, ast.FunctionDef)]:
                 own = set([arg.arg for arg in ast.walk(function) if isinstance(arg, ast.arg)]) | set(
                     [node.id for node in ast.walk(function) if isinstance(node, ast.Name)
-                     and isinstance(node.ctx, ast.Store)])
+                     and isinstance(node.ctx, ast.Store)]) | set(
+                    [node.name for node in ast.walk(function) if isinstance(node, ast.ExceptHandler) and node.name])
                 self.assertEqual(own & (set(imported) | set(classes) | set(dir(builtins))) - {"_"}, set(), path)
                 self.assertEqual(own & BAD_NAMES, set(), path)
                 for node in ast.walk(function):
@@ -200,3 +213,30 @@ class Form(Case):
         for path, node in all_nodes(ast.Raise):
             self.assertTrue(isinstance(node.exc, ast.Call) and isinstance(node.exc.func, ast.Name), path)
             self.assertIsNone(node.cause)
+        own = [node.name for _, node in all_nodes(ast.ClassDef)]
+        for path, node in all_nodes(ast.ExceptHandler):
+            names = node.type.elts if isinstance(node.type, ast.Tuple) else [node.type]
+            self.assertTrue(all([isinstance(name, ast.Name) and name.id in own for name in names]), (path, node.lineno))
+
+    def test_names_of_properties(self):
+        """A property has no name that another class stores, or that a method has."""
+        properties, methods = set(), set()
+        for _, node in all_nodes(ast.FunctionDef):
+            is_property = "property" in [ast.unparse(mark) for mark in node.decorator_list]
+            (properties if is_property else methods).add(node.name)
+        stored = set([node.attr for _, node in all_nodes(ast.Attribute) if isinstance(node.ctx, ast.Store)])
+        self.assertEqual(properties & (methods | stored), set())
+        self.assertEqual(properties & BUILTIN_METHODS, set())
+
+    def test_properties_and_operators_change_nothing(self):
+        """What they run directly stores no attribute and no item but those of a local dict that it creates."""
+        for path, node in all_nodes(ast.FunctionDef):
+            marks = [ast.unparse(mark) for mark in node.decorator_list]
+            if "property" not in marks and (not node.name.startswith("__") or node.name == "__init__"):
+                continue
+            made = [part.targets[0].id for part in ast.walk(node) if isinstance(part, ast.Assign)
+                    and isinstance(part.targets[0], ast.Name)]
+            for part in ast.walk(node):
+                self.assertFalse(isinstance(part, ast.Attribute) and isinstance(part.ctx, ast.Store), (path, node.name))
+                if isinstance(part, ast.Subscript) and isinstance(part.ctx, ast.Store):
+                    self.assertIn(ast.unparse(part.value), made, (path, node.name))

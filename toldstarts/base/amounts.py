@@ -1,6 +1,6 @@
 """Amounts of kinds, such as cores or memory, and their texts."""
 
-from toldstarts.base.checks import digits_end, is_between, is_digit, is_letter, is_short_name, is_whole
+from toldstarts.base.checks import blanks_end, digits_end, is_between, is_digit, is_letter, is_short_name, is_whole
 from toldstarts.errors import InvalidAmounts, InvalidNumber, Lacking, ParseError, UnknownName
 
 MAX_KINDS = 60
@@ -155,10 +155,10 @@ def _lacking(one, other):
 
 def _read_entries(text):
     """The tuples (kind, number, index of the kind, index of the number) of all entries of a text."""
-    at = _blanks_end(text, 0)
+    at = blanks_end(text, 0)
     end = _run_end(text, at)
     if text[at:end] == NOTHING:
-        rest = _blanks_end(text, end)
+        rest = blanks_end(text, end)
         if rest < len(text):
             raise ParseError(rest)
         return []
@@ -166,19 +166,19 @@ def _read_entries(text):
     while True:
         entry, end = _read_entry(text, at)
         entries.append(entry)
-        end = _blanks_end(text, end)
+        end = blanks_end(text, end)
         if end == len(text):
             return entries
         if text[end] != ",":
             raise ParseError(end)
-        at = _blanks_end(text, end + 1)
+        at = blanks_end(text, end + 1)
 
 
 def _read_entry(text, at):
     """The entry that begins at an index, and the index behind it."""
     end = _run_end(text, at)
     kind = text[at:end]
-    begin = _blanks_end(text, end)
+    begin = blanks_end(text, end)
     # Behind the end of the run there is no way on for a word that is no kind.
     if begin == end or kind == NOTHING:
         raise ParseError(end)
@@ -196,13 +196,6 @@ def _run_end(text, at):
     while end - at < MAX_KIND_SIGNS and (is_letter(text[end:end + 1]) or is_digit(text[end:end + 1])):
         end = end + 1
     return end
-
-
-def _blanks_end(text, at):
-    """The index behind the blanks that begin at an index, if there are any."""
-    while text[at:at + 1] == " ":
-        at = at + 1
-    return at
 
 
 def _check_entries(entries):

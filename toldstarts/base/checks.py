@@ -1,6 +1,8 @@
 """What integers, words, and rows of digits and letters are, for all other files."""
 
 MAX_WORD = 8
+MAX_NAME = 12
+MAX_JOB_NUMBER = 1000000
 
 
 def is_whole(value):
@@ -11,6 +13,11 @@ def is_whole(value):
 def is_between(value, low, high):
     """Whether the value is an integer from `low` to `high`."""
     return is_whole(value) and low <= value <= high
+
+
+def is_job_number(value):
+    """Whether the value is the number of a job."""
+    return is_between(value, 1, MAX_JOB_NUMBER)
 
 
 def is_ascending(values):
@@ -36,6 +43,14 @@ def digits_end(text, begin, most):
     return end
 
 
+def blanks_end(text, begin):
+    """The index behind the blanks that begin at an index, if there are any."""
+    end = begin
+    while text[end:end + 1] == " ":
+        end = end + 1
+    return end
+
+
 def word_end(text, begin):
     """The index behind the letters that begin at an index, as many as a word can have."""
     end = begin
@@ -46,13 +61,21 @@ def word_end(text, begin):
 
 def is_word(value):
     """Whether the value is a word: one to eight letters."""
-    if not isinstance(value, str) or not 1 <= len(value) <= MAX_WORD:
-        return False
-    return all([is_letter(sign) for sign in value])
+    return isinstance(value, str) and 1 <= len(value) <= MAX_WORD and value.isalpha() and _is_small(value)
 
 
 def is_short_name(value, most):
     """Whether the value has one to `most` letters and digits, with a letter first."""
-    if not isinstance(value, str) or not 1 <= len(value) <= most or not is_letter(value[0]):
+    if not isinstance(value, str) or not 1 <= len(value) <= most:
         return False
-    return all([is_letter(sign) or is_digit(sign) for sign in value])
+    return value.isalnum() and value[0].isalpha() and _is_small(value)
+
+
+def is_name(value):
+    """Whether the value is a name."""
+    return is_short_name(value, MAX_NAME)
+
+
+def _is_small(text):
+    """Whether the letters of a text, of which there are some, are those of names."""
+    return text.isascii() and text.islower()

@@ -1,42 +1,17 @@
 """The reader of texts of formulas over marks."""
 
 from toldstarts.base.checks import is_letter, word_end
+from toldstarts.base.levels import Level
 from toldstarts.errors import ParseError
 
 MAX_OPEN = 64
-
-
-class Level:
-    """What has been read in the innermost parentheses that are open, or outside of all."""
-
-    def __init__(self):
-        self.ored = []
-        self.anded = []
-        self.negations = 0
-
-    def add_part(self, f):
-        """Let a formula, with the negations ahead of it, be the next part."""
-        for _ in range(self.negations):
-            f = ("not", f)
-        self.negations = 0
-        self.anded.append(f)
-
-    def close_and(self):
-        """Let the parts since the last `|` be one part of an `or`."""
-        self.ored.append(_joined("and", self.anded))
-        self.anded = []
-
-    def whole(self):
-        """The formula of all that was read."""
-        self.close_and()
-        return _joined("or", self.ored)
 
 
 class Reader:
     """Takes the tokens of a text one after the other, and tells the formula in the end."""
 
     def __init__(self):
-        self.levels = [Level()]
+        self.stack = [Level()]
         self.many_open = 0
         self.wants_part = True
 
@@ -49,9 +24,9 @@ class Reader:
 
     def result(self, spot):
         """The formula of a text that ends at a spot."""
-        if self.wants_part or len(self.levels) > 1:
+        if self.wants_part or len(self.stack) > 1:
             raise ParseError(spot)
-        return self.levels[-1].whole()
+        return self.stack[-1].whole()
 
     def _take_part(self, token, spot):
         """Go on where a part, or a sign ahead of one, must stand."""
@@ -62,26 +37,26 @@ class Reader:
             raise ParseError(spot)
         self.many_open = self.many_open + 1
         if token == "(":
-            self.levels.append(Level())
+            self.stack.append(Level())
         else:
-            level = self.levels[-1]
+            level = self.stack[-1]
             level.negations = level.negations + 1
 
     def _take_joint(self, token, spot):
         """Go on behind a part."""
-        if token == ")" and len(self.levels) > 1:
+        if token == ")" and len(self.stack) > 1:
             self.many_open = self.many_open - 1
-            self._end_part(self.levels.pop().whole())
+            self._end_part(self.stack.pop().whole())
             return
         if token not in ("&", "|"):
             raise ParseError(spot)
         if token == "|":
-            self.levels[-1].close_and()
+            self.stack[-1].close_and()
         self.wants_part = True
 
     def _end_part(self, f):
         """Let a formula be a part; what negates it is not open any longer."""
-        level = self.levels[-1]
+        level = self.stack[-1]
         self.many_open = self.many_open - level.negations
         level.add_part(f)
         self.wants_part = False
@@ -98,8 +73,3 @@ def read_parts(text):
             reader.take(text[at:end], at)
         at = end
     return reader.result(len(text))
-
-
-def _joined(word, parts):
-    """The only part, or the formula of several parts."""
-    return parts[0] if len(parts) == 1 else (word, tuple(parts))

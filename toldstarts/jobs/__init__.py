@@ -1,0 +1,1 @@
+"""Jobs, their texts, and rows of like jobs."""

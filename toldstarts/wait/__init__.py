@@ -1,0 +1,1 @@
+"""What jobs wait for: the ends of other jobs."""
