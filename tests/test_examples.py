@@ -10,9 +10,13 @@ from toldstarts.house.choices import best_choice, fitting, is_short_set, short_s
 from toldstarts.house.formulas import plain_form, read_formula, write_formula
 from toldstarts.house.machines import Machine, fold_names, unfold_names
 from toldstarts.jobs.jobs import Job
+from toldstarts.jobs.likes import Row, fold_indices, fold_states, unfold_indices
 from toldstarts.jobs.reader import read_job, write_job
+from toldstarts.rank.accounts import Accounts
+from toldstarts.rank.scores import Weights, order_turns, ranked, score
 from toldstarts.room.rooms import Room
 from toldstarts.wait.formulas import jobs_named, lost_tree, may_come, parting_row, read_after, sure, true_now, write_after
+from toldstarts.wait.stuck import stuck_set
 from helper import Case
 
 # For each module its functions with their parameters, and its classes with the methods that the document lists.
@@ -27,6 +31,13 @@ FUNCTIONS = {
         "fitting(groups, crew)", "best_choice(groups, crew)", "is_choice(groups, crew, value)",
         "choice_key(groups, crew, choice)", "short_set(groups, crew)", "is_short_set(groups, crew, value)"),
     "toldstarts.jobs.reader": ("read_job(text)", "write_job(job)"),
+    "toldstarts.jobs.likes": (
+        "fold_indices(indices)", "unfold_indices(text)", "fold_states(rows, states)", "unfold_states(rows, lines)"),
+    "toldstarts.rank.scores": (
+        "score(weights, entry, tick, order)", "ranked(weights, entries, tick, order)",
+        "order_turns(weights, entries, accounts, tick, length)",
+        "is_order_turns(weights, entries, accounts, tick, length, value)"),
+    "toldstarts.wait.stuck": ("stuck_set(wishes, known)", "is_stuck_set(wishes, known, value)"),
     "toldstarts.wait.fates": ("is_state(value)", "ends_of(state)", "atoms_of(state)", "may_follow(one, other)"),
     "toldstarts.wait.formulas": (
         "is_after_formula(value)", "jobs_named(f)", "read_after(text)", "write_after(f)", "true_now(f, known)",
@@ -47,6 +58,14 @@ CLASSES = {
         "Job", "(name, *, account, person, doors, groups, tokens=None, limit, grade=0, after=None)", (
             "name", "account", "person", "doors", "groups", "tokens", "limit", "grade", "after", "machines", "size", "total",
             "changed", "__eq__", "__str__")),
+    "toldstarts.jobs.likes": ("Row", "(first, indices, *, at_once=None)", (
+        "first", "indices", "at_once", "numbers", "kind", "amounts", "number_of", "index_of", "part_name", "part",
+        "__contains__", "__len__", "__iter__", "__eq__", "__str__")),
+    "toldstarts.rank.accounts": ("Accounts", "(rows)", (
+        "with_use", "use_of", "fraction_of", "fair_order", "turns", "parent_of", "share_of", "line", "children_of", "names",
+        "newest", "levels", "__len__", "__contains__", "__iter__", "__eq__", "__str__")),
+    "toldstarts.rank.scores": ("Weights", "(*, age=1, cap=10000, size=0, grade=0, place=0)", (
+        "age", "cap", "size", "grade", "place", "changed", "__eq__", "__str__")),
 }
 
 
@@ -137,3 +156,35 @@ class Examples(Case):
         self.assertEqual([may_come(both, {1: "begun"}), lost_tree(both, {1: "begun"})],
                          [False, ("split", 1, (("well", ("lost",)), ("ill", ("lost",)), ("late", ("lost",)), ("gone", ("lost",))))])
         self.assertEqual(parting_row(("over", 1), ("or", (("begun", 1), ("left", 1)))), ((1, 1),))
+
+    def test_rows(self):
+        row = Row(7, (1, 2, 3, 5, 9), at_once=2)
+        self.assertEqual([row.numbers, row.kind, str(row.amounts), row.number_of(5), row.index_of(11), row.part_name(9)],
+                         [(7, 8, 9, 10, 11), "r7", "r7 2", 10, 9, "7.3"])
+        self.assertEqual([fold_indices((1, 2, 3, 5, 9)), fold_indices((4, 5)), fold_indices((0, 4, 8, 12, 16)),
+                          unfold_indices("3,1-9:4,1")], ["1-3,5,9", "4,5", "0-16:4", (1, 3, 5, 9)])
+        self.assertEqual(fold_states((row,), {4: "told", 7: "runs", 8: "runs", 9: "waits", 11: "waits"}),
+                         ("4 told", "7.[1,2] runs", "7.[3,9] waits"))
+
+    def test_stuck_sets(self):
+        self.assertEqual(stuck_set({3: ("over", 4), 4: ("or", (("over", 3), ("well", 5))), 5: None, 6: ("left", 6)}, {}), (6,))
+
+    def test_accounts(self):
+        plain = Accounts((("lab", "", 3), ("team", "lab", 1), ("solo", "lab", 1), ("web", "", 1)))
+        accounts = plain.with_use("web", 0, 4).with_use("team", 5, 8)
+        self.assertEqual([plain.fair_order(0), plain.fraction_of("team"), plain.children_of(""), plain.newest, str(plain)],
+                         [("lab", "solo", "team", "web"), (3, 8), ("lab", "web"), -1, "accounts 4, levels 2"])
+        self.assertEqual([accounts.fair_order(5), accounts.turns(5), accounts.use_of("lab", 65), accounts.use_of("lab", 66),
+                          accounts.use_of("web", 57)],
+                         [("web", "lab", "solo", "team"), ((66, ("lab", "solo", "team", "web")),), 8, 0, 32])
+
+    def test_scores(self):
+        weights, order = Weights(cap=10, grade=1, place=5), ("web", "lab")
+        entries = ((1, 0, 0, 0, "lab"), (2, 5, 0, 4, "lab"))
+        self.assertEqual([score(weights, entries[0], 6, order), score(weights, entries[1], 6, order),
+                          ranked(weights, entries, 6, order)], [11, 10, (1, 2)])
+        flat = Accounts((("web", "", 1), ("lab", "", 1)))
+        self.assertEqual(order_turns(weights, entries, flat, 6, 100), ((12, (2, 1)),))
+        mixed, used = ((1, 0, 0, 0, "lab"), (2, 0, 0, 3, "web")), flat.with_use("lab", 0, 1)
+        self.assertEqual([ranked(weights, mixed, 6, used.fair_order(0)), order_turns(weights, mixed, used, 6, 100)],
+                         [(2, 1), ((6100, (1, 2)),)])

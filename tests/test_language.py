@@ -102,7 +102,8 @@ class Form(Case):
                 if isinstance(node, ast.Assign):
                     self.assertEqual(len(node.targets), 1)
                     for part in ast.walk(node.value):
-                        self.assertIsInstance(part, (ast.Constant, ast.Tuple, ast.Dict, ast.Name, ast.Load, ast.BinOp, ast.Pow))
+                        self.assertIsInstance(part, (ast.Constant, ast.Tuple, ast.Dict, ast.Name, ast.Load, ast.BinOp, ast.Pow,
+                                                     ast.Mult))
                         if isinstance(part, ast.Name):
                             ahead = [one.name for one in tree.body if isinstance(one, ast.FunctionDef)
                                      and one.lineno < node.lineno]

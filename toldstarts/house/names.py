@@ -5,6 +5,7 @@ the keys is that of the names.
 """
 
 from toldstarts.base.checks import digits_end, is_digit, is_word, word_end
+from toldstarts.base.numbers import number_end
 from toldstarts.errors import ParseError
 
 MAX_INDEX = 9999
@@ -66,7 +67,7 @@ def _read_entry(text, begin):
         return _read_list(text, stem, at)
     if not is_digit(text[at:at + 1]):
         return [(stem, -1, -1)], at
-    end = _index_end(text, at)
+    end = number_end(text, at, MAX_INDEX_DIGITS)
     index = int(text[at:end])
     return [(stem, index, index)], end
 
@@ -77,7 +78,7 @@ def _read_list(text, stem, opening):
     at = opening
     while at == opening or text[at:at + 1] == ",":
         begin = at + 1
-        at = _index_end(text, begin)
+        at = number_end(text, begin, MAX_INDEX_DIGITS)
         first = last = int(text[begin:at])
         # Behind the greatest index no run goes on.
         if text[at:at + 1] == "-" and first < MAX_INDEX:
@@ -88,16 +89,6 @@ def _read_list(text, stem, opening):
     if text[at:at + 1] != "]":
         raise ParseError(at)
     return runs, at + 1
-
-
-def _index_end(text, begin):
-    """The index behind the number that begins in a text."""
-    if text[begin:begin + 1] == "0":
-        return begin + 1
-    end = digits_end(text, begin, MAX_INDEX_DIGITS)
-    if end == begin:
-        raise ParseError(begin)
-    return end
 
 
 def _greater_index_end(text, begin, first):

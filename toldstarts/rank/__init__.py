@@ -1,0 +1,1 @@
+"""Accounts and their use, and scores by which jobs are ranked."""
