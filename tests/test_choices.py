@@ -2,6 +2,7 @@
 
 import itertools
 import random
+import time
 
 from toldstarts.base.amounts import Amounts
 from toldstarts.errors import InvalidChoice
@@ -220,3 +221,82 @@ class Choices(Case):
                 self.assertIs(is_choice(groups, crew, best), True)
             else:
                 self.assertIs(is_short_set(groups, crew, short), True)
+
+    def test_the_greatest_groups_and_crews(self):
+        groups = ((1, ALL, Amounts()),) * 5 + ((35, ALL, Amounts()),)
+        crew = tuple([(Machine("x" + str(at), Amounts(), rack="rack" + "abcdefgh"[at % 8]), Amounts()) for at in range(40)])
+        begun = time.perf_counter()
+        for _ in range(5):
+            self.assertEqual(best_choice(groups, crew), ((0,), (1,), (2,), (3,), (4,), tuple(range(5, 40))))
+        for last in range(1, 36):
+            found = best_choice(groups[:5] + ((last, ALL, Amounts()),), crew)
+            self.assertEqual(choice_key(groups[:5] + ((last, ALL, Amounts()),), crew, found)[0], (last + 9) // 5)
+        # Forty calls: 0.008 seconds are wanted for one, and machines differ.
+        self.assertLess(time.perf_counter() - begun, 40 * 0.008 * 5)
+        self.assertEqual(best_choice(groups[:5] + ((36, ALL, Amounts()),), crew), None)
+        self.assertEqual(short_set(groups[:5] + ((36, ALL, Amounts()),), crew), (0, 1, 2, 3, 4, 5))
+        self.assertEqual(short_set(((40, ALL, Amounts()),) * 6, ()), (0,))
+        self.assertEqual(best_choice(((40, ALL, Amounts()),) * 6, crew), None)
+
+    def test_many_groups_against_a_search_with_matchings(self):
+        chance = random.Random(16)
+        found = [0, 0]
+        for _ in range(150):
+            forms = (ALL, BIG, ("mark", "new"), ("not", BIG), ("and", (BIG, ("mark", "new"))))
+            crew = tuple([member(at, "r" + chance.choice("abcdefgh"[:chance.choice((2, 5, 8))]), chance.choice((None, some(core=1), CORE, CORE, CORE)),
+                                 chance.choice(((), ("big",), ("big", "new"), ("new",)))) for at in range(chance.randrange(8, 24))])
+            groups = tuple([(chance.choice((1, 1, 2, 3)), chance.choice(forms), chance.choice((Amounts(), CORE))) for _ in range(chance.randrange(3, 7))])
+            best = searched(groups, crew)
+            self.assertEqual(best_choice(groups, crew), best)
+            found[best is None] += 1
+        self.assertGreater(min(found), 20)
+
+
+def is_full(wants, fits):
+    """Whether each want, a list of groups, gets a member of its own: by paths that let others change."""
+    holder = {}
+
+    def gets(want, seen):
+        for one in fits[wants[want]]:
+            if one not in seen:
+                seen.add(one)
+                if one not in holder or gets(holder[one], seen):
+                    holder[one] = want
+                    return True
+        return False
+
+    return all([gets(want, set()) for want in range(len(wants))])
+
+
+def searched(groups, crew):
+    """The best choice: for each set of racks, the fewest first, the members are taken one by one where matchings go on."""
+    every = fits_of(groups, crew)
+    racks = sorted(set([machine.rack for machine, _ in crew]))
+    for size in range(1, len(racks) + 1):
+        choices = []
+        for some_racks in itertools.combinations(racks, size):
+            fits = [[one for one in row if crew[one][0].rack in some_racks] for row in every]
+            wants = [at for at, group in enumerate(groups) for _ in range(group[0])]
+            if is_full(wants, fits):
+                choices.append(taken(groups, fits))
+        if choices:
+            return min(choices)
+    return None
+
+
+def taken(groups, fits):
+    choice, used = [], set()
+    for at, group in enumerate(groups):
+        members = []
+        for one in fits[at]:
+            if len(members) < group[0] and one not in used:
+                gone = used | {one}
+                wants = [at] * (group[0] - len(members) - 1) + [
+                    other for other in range(at + 1, len(groups)) for _ in range(groups[other][0])]
+                rest = [[member for member in row if member not in gone] for row in fits]
+                rest[at] = [member for member in rest[at] if member > one]
+                if is_full(wants, rest):
+                    members.append(one)
+                    used = gone
+        choice.append(tuple(members))
+    return tuple(choice)

@@ -5,7 +5,7 @@ from toldstarts.base.checks import is_ascending, is_between
 from toldstarts.errors import InvalidChoice
 from toldstarts.house.formulas import is_formula, is_true
 from toldstarts.house.machines import Machine
-from toldstarts.house.slack import least_choice, members_of, slacks
+from toldstarts.house.slack import least_choice, members_of, short_part
 
 MAX_CREW = 40
 MAX_GROUPS = 6
@@ -70,10 +70,8 @@ def choice_key(groups, crew, choice):
 def short_set(groups, crew):
     """A set of groups that want more members than fit them, or None if there is a choice."""
     _check(groups, crew)
-    for part, slack in enumerate(slacks(_counts(groups), _fit_sets(groups, crew))):
-        if slack < 0:
-            return members_of(part)
-    return None
+    part = short_part(_counts(groups), _fit_sets(groups, crew))
+    return None if part is None else members_of(part)
 
 
 def is_short_set(groups, crew, value):
@@ -82,7 +80,8 @@ def is_short_set(groups, crew, value):
     if not _are_indices(value, len(groups)) or len(value) == 0:
         return False
     part = sum([1 << at for at in value])
-    return slacks(_counts(groups), _fit_sets(groups, crew))[part] < 0
+    fitting_one = [fit for fit in _fit_sets(groups, crew) if fit & part]
+    return sum([groups[at][0] for at in value]) > len(fitting_one)
 
 
 def _is_group(value):

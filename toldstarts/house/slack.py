@@ -1,10 +1,17 @@
 """How much is to spare when groups choose members, and the least choice.
 
 A set of groups is an integer inside this file: the bit with the value 1 << i stands for the group with
-the index i. A member is told by the set of the groups that it fits. The slack of a set is the number
-of members that fit one of its groups, less the members that its groups want. There is a choice
-exactly if no slack is below 0.
+the index i; a set of racks likewise. A member is told by the set of the groups that it fits. The slack of
+a set of groups is the number of members that fit one of its groups, less the members that its groups
+want. There is a choice exactly if no slack is below 0.
+
+The slacks of all sets of groups are packed into one integer, so that all are looked at together: that of
+the set p stands, EVEN added, in the field of FIELD bits from FIELD * p on. As a slack lies between
+-6 * 40 and 40, no field runs over, and its highest bit is set exactly if the slack is not below 0.
 """
+
+FIELD = 9
+EVEN = 256
 
 
 def members_of(part):
@@ -12,52 +19,90 @@ def members_of(part):
     return tuple([at for at in range(part.bit_length()) if part >> at & 1])
 
 
-def slacks(counts, fits):
-    """The slacks of all sets of groups that want so many members."""
-    found = []
-    for part in range(1 << len(counts)):
-        wanted = sum([counts[at] for at in members_of(part)])
-        found.append(len([fit for fit in fits if fit & part]) - wanted)
-    return found
+def short_part(counts, fits):
+    """The least set of groups that wants more members than fit it, or None."""
+    fields = Fields(len(counts))
+    slack = fields.slack_without_members(counts) + sum([fields.meeting(fit) for fit in fits])
+    short = fields.tops - (slack & fields.tops)
+    return ((short & -short).bit_length() - 1) // FIELD if short else None
 
 
 def least_choice(counts, fits, racks):
     """The choice in the fewest racks, of these the least one, or None if there is no choice."""
+    fields = Fields(len(counts))
     useful = sorted(set([rack for fit, rack in zip(fits, racks) if fit]))
-    for many in range(1, len(useful) + 1):
-        best = None
-        for some in _some_racks(useful, many):
-            found = _first_choice(counts, [fit if rack in some else 0 for fit, rack in zip(fits, racks)])
-            if found is not None and (best is None or found < best):
-                best = found
-        if best is not None:
-            return best
-    return None
-
-
-def _some_racks(racks, many):
-    """All lists of so many of the racks."""
-    parts = [members_of(part) for part in range(1 << len(racks))]
-    return [[racks[at] for at in part] for part in parts if len(part) == many]
-
-
-def _first_choice(counts, fits):
-    """The least choice in Python's order, or None if there is no choice."""
-    slack = slacks(counts, fits)
-    if min(slack) < 0:
+    slacks, sizes = [fields.slack_without_members(counts)], [0]
+    for rack in useful:
+        cover = sum([fields.meeting(fit) for fit, other in zip(fits, racks) if other == rack])
+        slacks = slacks + [slack + cover for slack in slacks]
+        sizes = sizes + [size + 1 for size in sizes]
+    enough = [(size, some, slack) for some, (size, slack) in enumerate(zip(sizes, slacks)) if fields.are_even(slack)]
+    if not enough:
         return None
+    fewest = min([size for size, _, _ in enough])
+    alive = [(some, slack) for size, some, slack in enough if size == fewest]
+    places = {rack: 1 << at for at, rack in enumerate(useful)}
+    return _first_choice(counts, fits, [places.get(rack, 0) for rack in racks], alive, fields)
+
+
+class Fields:
+    """The fields of all sets of so many groups."""
+
+    def __init__(self, many):
+        self.many_groups = many
+        self.ones = self.avoiding(0)
+        self.tops = self.ones * EVEN
+        self.known_covers = {}
+        self.known_costs = {}
+
+    def avoiding(self, part):
+        """A one in the field of each set that has no group of a set."""
+        found = 1
+        for group in range(self.many_groups):
+            if not part >> group & 1:
+                found = found | found << (FIELD << group)
+        return found
+
+    def meeting(self, part):
+        """A one in the field of each set that has a group of a set."""
+        if part not in self.known_covers:
+            self.known_covers[part] = self.ones - self.avoiding(part)
+        return self.known_covers[part]
+
+    def cost(self, part, group):
+        """A one in the field of each set that a member can no longer serve once a group has it."""
+        if (part, group) not in self.known_costs:
+            own = 1 << group
+            self.known_costs[(part, group)] = self.avoiding(own) - self.avoiding(part | own)
+        return self.known_costs[(part, group)]
+
+    def slack_without_members(self, counts):
+        """The slacks if there are no members at all."""
+        return self.tops - sum([count * self.meeting(1 << group) for group, count in enumerate(counts)])
+
+    def are_even(self, slack):
+        """Whether no slack is below 0."""
+        return slack & self.tops == self.tops
+
+
+def _first_choice(counts, fits, places, alive, fields):
+    """The least choice in Python's order, in one of some sets of racks that all have a choice.
+
+    Pairs of a set of racks and its slacks are alive while all that has been chosen leaves a choice there.
+    """
     left = list(fits)
     choice = []
     for group, count in enumerate(counts):
         members = []
         for member in range(len(left)):
             if len(members) < count and left[member] >> group & 1:
-                spared = [part for part in range(len(slack)) if left[member] & part and not part >> group & 1]
+                cost = fields.cost(left[member], group)
+                rest = [(some, slack - cost) for some, slack in alive if some & places[member]]
                 # The groups that do not get this member must be able to do without it.
-                if all([slack[part] > 0 for part in spared]):
+                rest = [row for row in rest if fields.are_even(row[1])]
+                if rest:
+                    alive = rest
                     members.append(member)
                     left[member] = 0
-                    for part in spared:
-                        slack[part] = slack[part] - 1
         choice.append(tuple(members))
     return tuple(choice)
