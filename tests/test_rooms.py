@@ -1,6 +1,7 @@
 """Points 2.1 to 2.5: rooms."""
 
 import random
+import time
 
 from toldstarts.base.amounts import Amounts
 from toldstarts.errors import InvalidAmounts, InvalidNumber, InvalidRoom, InvalidTick
@@ -435,6 +436,145 @@ class Runs(Case):
         self.assertEqual(room.earliest(FOUR, 9, 1), None)
         self.assertIs(room.is_bars(FOUR, 8, 0, None, room.bars(FOUR, 8, 0)), True)
         self.assertIs(room.fits(ONE, 1000000, 0), True)
+
+
+class Changing(Case):
+    def test_with_and_without_against_the_words(self):
+        """Whatever was put in and taken out again, only what there is counts."""
+        chance = random.Random(6)
+        for _ in range(200):
+            room = some_room(chance, 12)
+            for _ in range(chance.randrange(6)):
+                rows = [(room.without_claim, row) for row in room.claims] + [(room.without_window, row) for row in room.windows]
+                if rows:
+                    call, row = chance.choice(rows)
+                    room = call(row)
+                if chance.random() < 0.3:
+                    try:
+                        room = room.with_window((chance.randrange(9), chance.randrange(1, room.period + 1), ONE))
+                    except Refused:
+                        pass
+            again = Room(room.amounts, period=room.period)
+            for claim in room.claims:
+                again = again.with_claim(claim)
+            for window in reversed(room.windows):
+                again = again.with_window(window)
+            self.assertEqual((again == room, again.head), (True, room.head))
+            for tick in range(30):
+                self.assertEqual(room.free(tick).pairs, free_pairs(room, tick))
+            self.assertEqual(room.steps(3, 40), again.steps(3, 40))
+            steps = [(tick, free_pairs(room, tick)) for tick in range(3, 40)
+                     if tick == 3 or free_pairs(room, tick) != free_pairs(room, tick - 1)]
+            self.assertEqual([(tick, free.pairs) for tick, free in room.steps(3, 40)], steps)
+            self.assertEqual(room.earliest(TWO, 4, 1), again.earliest(TWO, 4, 1))
+
+    def test_many_kinds(self):
+        chance = random.Random(7)
+        kinds = ["k%02d" % at for at in range(60)]
+        room = Room(Amounts(tuple([(kind, 1000000) for kind in kinds])), period=9)
+        for _ in range(30):
+            begin = chance.randrange(40)
+            held = some(**{kind: chance.choice((1, 20000, 30000)) for kind in chance.sample(kinds, 20)})
+            room = room.with_claim((begin, chance.choice((None, begin + 1, begin + 17)), held))
+            if chance.random() < 0.4:
+                room = room.with_window((begin, chance.randrange(1, 10), held))
+        for tick in range(0, 80, 7):
+            self.assertEqual(room.free(tick).pairs, free_pairs(room, tick))
+        self.assertEqual(room.least(5, 70), Amounts(tuple([(kind, min([free_at(room, kind, tick) for tick in range(5, 70)]))
+                                                           for kind in kinds])))
+        want = room.least(20, 29)
+        self.assertEqual(room.fits(want, 9, 20), True)
+        self.assertEqual(room.fits(want + some(k30=1), 9, 20), False)
+        start = room.earliest(want, 9, 0)
+        self.assertIs(room.is_bars(want, 9, 0, start, room.bars(want, 9, 0)), True)
+        for pair in (("k07", "k11"), ("k59", "k58"), ("k00", "k30")):
+            shorts = [("short", kind, tick) for tick in range(60) for kind in sorted(pair) if free_at(room, kind, tick) < 999999]
+            self.assertEqual(self.refused(Refused, room.with_claim, (0, 60, some(**{kind: 999999 for kind in pair}))).reason, shorts[0])
+
+    def test_steps_are_counted_rightly(self):
+        """Nine thousand to eleven thousand steps, counted tick by tick."""
+        chance = random.Random(8)
+        counts = {True: 0, False: 0}
+        for _ in range(30):
+            room = Room(some(core=100), period=chance.choice((2, 3, 4, 7)))
+            for _ in range(chance.randrange(1, 4)):
+                room = room.with_window((chance.randrange(9), chance.randrange(1, room.period + 1), chance.choice((ONE, TWO))))
+            for _ in range(chance.randrange(4)):
+                begin = chance.randrange(8000)
+                room = room.with_claim((begin, begin + chance.randrange(1, 9000), chance.choice((ONE, THREE))))
+            low = chance.randrange(50)
+            line = [free_at(room, "core", tick) for tick in range(low, low + 32000)]
+            changes = [at for at in range(1, len(line)) if line[at] != line[at - 1]]
+            if len(changes) < 10000:
+                continue
+            most = low + changes[9999]
+            self.assertEqual(len(room.steps(low, most)), 10000)
+            self.assertEqual([tick for tick, _ in room.steps(low, most)], [low] + [low + at for at in changes[:9999]])
+            self.refused(TooMany, room.steps, low, most + 1)
+            # A want that fits at once takes as many steps as its run has.
+            self.assertEqual((room.earliest(ONE, most - low, low), room.bars(ONE, most - low, low)), (low, ()))
+            self.refused(TooMany, room.earliest, ONE, most - low + 1, low)
+            self.refused(TooMany, room.bars, ONE, most - low + 1, low)
+            counts[len(room.claims) > 0] += 1
+        self.assertGreater(min(counts.values()), 3)
+
+
+class Times(Case):
+    """The greatest rooms. Several times what is wanted is allowed, as machines differ."""
+
+    def within(self, seconds, call, *args):
+        best = None
+        for _ in range(3):
+            begun = time.perf_counter()
+            found = call(*args)
+            spent = time.perf_counter() - begun
+            best = spent if best is None else min(best, spent)
+        self.assertLess(best, 5 * seconds)
+        return found
+
+    def claimed(self):
+        room = Room(some(core=300), period=2)
+        for turn in range(200):
+            room = room.with_claim((turn, None, ONE))
+        return room
+
+    def windowed(self, room):
+        for _ in range(20):
+            room = room.with_window((0, 1, ONE))
+        return room
+
+    def test_claims_and_windows(self):
+        room = self.within(0.005, self.claimed)
+        self.assertEqual((len(room), room.head, room.free(0), room.free(199), room.free(10 ** 6)),
+                         (200, 199, some(core=299), some(core=100), some(core=100)))
+        self.assertEqual(self.refused(TooMany, room.with_claim, (0, 1, ONE)).most, 200)
+        room = self.within(0.003, self.windowed, room)
+        self.assertEqual((room.head, room.free(0), room.free(1), room.free(200), room.free(201)),
+                         (199, some(core=279), some(core=298), some(core=80), some(core=100)))
+        self.assertEqual(self.refused(TooMany, room.with_window, (0, 1, ONE)).most, 20)
+        self.assertEqual([room.free(tick).pairs for tick in range(0, 300, 11)], [free_pairs(room, tick) for tick in range(0, 300, 11)])
+        steps = self.within(0.003, room.steps, 0, 1000)
+        self.assertEqual([(tick, free.pairs) for tick, free in steps], [(tick, free_pairs(room, tick)) for tick in range(1000)])
+        self.assertEqual(self.within(0.003, room.earliest, some(core=101), 2, 0), 0)
+        self.assertEqual(self.within(0.003, room.earliest, some(core=280), 2, 1), None)
+        self.assertIs(room.is_bars(some(core=280), 2, 1, None, self.within(0.003, room.bars, some(core=280), 2, 1)), True)
+
+    def test_steps(self):
+        busy = Room(some(core=300), period=2).with_window((0, 1, ONE))
+        steps = self.within(0.002, busy.steps, 0, 10000)
+        self.assertEqual(steps, tuple([(tick, some(core=299 + tick % 2)) for tick in range(10000)]))
+        self.assertEqual(self.within(0.002, self.refused, TooMany, busy.steps, 0, 10001).most, 10000)
+        self.assertEqual(self.within(0.002, busy.earliest, ONE, 10000, 0), 0)
+        self.assertEqual(self.within(0.002, self.refused, TooMany, busy.bars, ONE, 10001, 0).most, 10000)
+
+    def test_long_searches(self):
+        far = Room(some(core=300), period=2).with_window((0, 1, ONE)).with_claim((0, 9990, ONE))
+        self.assertEqual(self.within(0.002, far.earliest, some(core=300), 1, 0), 9991)
+        self.assertIs(far.is_bars(some(core=300), 1, 0, 9991, self.within(0.004, far.bars, some(core=300), 1, 0)), True)
+        paper = self.within(0.004, far.bars, some(core=299), 2, 0)
+        self.assertEqual(far.earliest(some(core=299), 2, 0), 9989)
+        self.assertIs(self.within(0.02, far.is_bars, some(core=299), 2, 0, 9989, paper), True)
+        self.assertIs(far.is_bars(some(core=299), 2, 0, 9989, paper[:-1]), False)
 
 
 def is_paper(room, want, length, since, end, value):

@@ -127,6 +127,14 @@ def check_amounts(value):
         raise InvalidAmounts("the value is no object of Amounts")
 
 
+def sure_amounts(pairs):
+    """The amounts with pairs that are surely right, so that they need not be looked at again."""
+    made = Amounts()
+    made._pairs = pairs
+    made._numbers = dict(pairs)
+    return made
+
+
 def _are_pairs(value):
     """Whether the value is a tuple of pairs that amounts can have."""
     if not isinstance(value, tuple) or len(value) > MAX_KINDS:

@@ -1,4 +1,4 @@
-"""What integers, words, and rows of digits and letters are, for all other files."""
+"""What integers, words, and rows of digits and letters are, and other small helpers of all files."""
 
 MAX_WORD = 8
 MAX_NAME = 12
@@ -23,6 +23,18 @@ def is_job_number(value):
 def is_ascending(values):
     """Whether each of some values that can be compared is greater than the one ahead of it."""
     return all([one < other for one, other in zip(values, values[1:])])
+
+
+def place_of(values, value):
+    """The place of the last one of ascending values that is not above a value; the first one never is."""
+    low, high = 0, len(values)
+    while high - low > 1:
+        middle = (low + high) // 2
+        if values[middle] <= value:
+            low = middle
+        else:
+            high = middle
+    return low
 
 
 def is_letter(sign):

@@ -21,7 +21,7 @@ def members_of(part):
 
 def short_part(counts, fits):
     """The least set of groups that wants more members than fit it, or None."""
-    fields = Fields(len(counts))
+    fields = SetFields(len(counts))
     slack = fields.slack_without_members(counts) + sum([fields.meeting(fit) for fit in fits])
     short = fields.tops - (slack & fields.tops)
     return ((short & -short).bit_length() - 1) // FIELD if short else None
@@ -29,7 +29,7 @@ def short_part(counts, fits):
 
 def least_choice(counts, fits, racks):
     """The choice in the fewest racks, of these the least one, or None if there is no choice."""
-    fields = Fields(len(counts))
+    fields = SetFields(len(counts))
     useful = sorted(set([rack for fit, rack in zip(fits, racks) if fit]))
     slacks, sizes = [fields.slack_without_members(counts)], [0]
     for rack in useful:
@@ -45,7 +45,7 @@ def least_choice(counts, fits, racks):
     return _first_choice(counts, fits, [places.get(rack, 0) for rack in racks], alive, fields)
 
 
-class Fields:
+class SetFields:
     """The fields of all sets of so many groups."""
 
     def __init__(self, many):

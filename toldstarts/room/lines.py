@@ -1,95 +1,175 @@
-"""What is free of some kinds at each tick, from 0 on for ever.
+"""What is free in a room at each tick, from 0 on for ever.
 
-Numbers of some kinds are a tuple here, in the order of the kinds. A stretch is a tuple
-(begin, end, base, pattern), with None as the end of the last one. From its begin to its end no claim
-and no window begins or ends for good: base is what no claim holds, and the pattern tells what the
-windows hold. A pattern is a list of pairs (phase, numbers) by ascending phases, the first one 0: in
-each period the numbers are held from the tick with this phase up to the next one.
+Numbers are packed here, as in the fields of a room. What no claim holds, the base, is told by two lists:
+the ascending ticks from which on it is another one, and the bases. What windows hold is told likewise, by
+the ticks at which windows begin for good, and the patterns from there on. A cut is a tuple (first, stop,
+base, pattern): both are the same from first up to stop.
 """
+
+from toldstarts.base.checks import place_of
+from toldstarts.room.fields import KindFields, number_at
+from toldstarts.room.patterns import Pattern
 
 
 class Line:
-    """What is free of some kinds at each tick."""
+    """What is free at each tick."""
 
-    def __init__(self, amounts, claims, windows, period, kinds):
-        borders = _borders(claims, windows)
-        bases = _bases(borders, dict(amounts.pairs), claims, kinds)
-        self.line_kinds = kinds
-        self.line_period = period
-        self.stretches = _stretches(borders, bases, windows, period, kinds)
+    def __init__(self, fields, ticks, bases, begins, patterns):
+        self.fields = fields
+        self.ticks = ticks
+        self.bases = bases
+        self.begins = begins
+        self.patterns = patterns
+
+    def with_held(self, begin, end, held):
+        """The line if from one tick up to another, or for ever, more is held, or less if it is below 0."""
+        ticks, bases = list(self.ticks), list(self.bases)
+        low = _split(ticks, bases, begin)
+        high = len(ticks) if end is None else _split(ticks, bases, end)
+        bases[low:high] = [base - held for base in bases[low:high]]
+        # Where the base is no longer another one, two parts become one again: the later ones first.
+        for at in (high, low):
+            if 0 < at < len(ticks) and bases[at] == bases[at - 1]:
+                del ticks[at]
+                del bases[at]
+        return Line(self.fields, ticks, bases, self.begins, self.patterns)
+
+    def with_window(self, begin, length, held):
+        """The line with one window more, or with one less if the packed amounts are below 0."""
+        begins, patterns = list(self.begins), list(self.patterns)
+        at = _split(begins, patterns, begin)
+        patterns[at:] = [pattern.with_window(begin, length, held) for pattern in patterns[at:]]
+        if at > 0 and patterns[at].changes == patterns[at - 1].changes and patterns[at].holds == patterns[at - 1].holds:
+            del begins[at]
+            del patterns[at]
+        return Line(self.fields, self.ticks, self.bases, begins, patterns)
 
     def cuts(self, begin, end):
-        """The stretches from one tick up to another one, cut off at both."""
-        found = []
-        at = self._place(begin)
-        while at < len(self.stretches) and self.stretches[at][0] < end:
-            low, high, base, pattern = self.stretches[at]
-            found.append((max(begin, low), end if high is None else min(end, high), base, pattern))
-            at = at + 1
+        """All cuts from one tick up to another."""
+        at, turn = place_of(self.ticks, begin), place_of(self.begins, begin)
+        ends, turn_ends = self.ticks[at + 1:] + [end], self.begins[turn + 1:] + [end]
+        found, first, more, more_turns = [], begin, 0, 0
+        while first < end:
+            stop = min(ends[more], turn_ends[more_turns], end)
+            found.append((first, stop, self.bases[at + more], self.patterns[turn + more_turns]))
+            if ends[more] == stop:
+                more = more + 1
+            if turn_ends[more_turns] == stop:
+                more_turns = more_turns + 1
+            first = stop
         return found
 
-    def _place(self, tick):
-        """The index of the stretch in which a tick lies."""
-        low, high = 0, len(self.stretches)
-        while high - low > 1:
-            middle = (low + high) // 2
-            if self.stretches[middle][0] <= tick:
-                low = middle
-            else:
-                high = middle
-        return low
+    def first_short(self, tops, begin, end):
+        """The first tick from one up to another at which a number with some tops is below 0, and its least kind."""
+        for turn in range(place_of(self.begins, begin), len(self.begins)):
+            low, high = max(begin, self.begins[turn]), end
+            if turn + 1 < len(self.begins):
+                high = min(end, self.begins[turn + 1])
+            found = self._short_beside(self.patterns[turn], tops, low, high) if low < high else None
+            if found is not None:
+                return found
+        return None
 
-    def pieces(self, begin, end):
-        """Yield triples (first, stop, free) from one tick up to another: the same is free from first up to stop."""
-        for first, stop, base, pattern in self.cuts(begin, end):
-            yield from cut_pieces(base, pattern, self.line_period, first, stop)
-
-    def sights(self, begin, end):
-        """Yield such triples for one period of each stretch at most: what is free later in it was free before."""
-        for first, stop, base, pattern in self.cuts(begin, end):
-            seen = min(stop, first + self.line_period)
-            yield from cut_pieces(base, pattern, self.line_period, first, seen)
+    def _short_beside(self, pattern, tops, begin, end):
+        """What `first_short` tells, where one pattern holds all the time."""
+        places = range(place_of(self.ticks, begin), place_of(self.ticks, end - 1) + 1)
+        # Most parts have enough even beside the most that windows hold.
+        for at in [place for place in places if (self.bases[place] - pattern.most_held) & tops != tops]:
+            stop = end if at + 1 == len(self.ticks) else min(end, self.ticks[at + 1])
+            for first, _, free in pattern.pieces(max(begin, self.ticks[at]), stop, self.bases[at]):
+                if free & tops != tops:
+                    return (first, self.fields.least_short(free, tops))
+        return None
 
     def least(self, begin, end):
-        """The least number of each kind that is free from one tick up to another."""
+        """The least numbers that are free from one tick up to another, without EVEN added."""
         found = None
-        for row in self.sights(begin, end):
-            found = row[2] if found is None else tuple([min(pair) for pair in zip(found, row[2])])
+        for first, stop, base, pattern in self.cuts(begin, end):
+            frees = [base - pattern.most_held]
+            if stop - first < pattern.cycle:
+                frees = [free for _, _, free in pattern.pieces(first, stop, base)]
+            for free in frees:
+                numbers = free - self.fields.all_tops
+                found = numbers if found is None else self.fields.lesser(found, numbers)
         return found
 
-    def is_short(self, at, number, begin, end):
-        """Whether at each tick from one up to another less than a number is free of the kind with an index."""
-        return all([row[2][at] < number for row in self.sights(begin, end)])
+    def covers(self, wanted, tops, begin, end):
+        """Whether packed numbers with some tops are free at each tick from one up to another."""
+        for first, stop, base, pattern in self.cuts(begin, end):
+            rest = base - wanted
+            if (rest - pattern.most_held) & tops != tops:
+                if any([free & tops != tops for _, _, free in pattern.pieces(first, stop, rest)]):
+                    return False
+        return True
+
+    def is_short(self, kind, number, begin, end):
+        """Whether at each tick from one up to another less than a number of a kind is free."""
+        if kind not in self.fields.shifts:
+            return True
+        shift = self.fields.shifts[kind]
+        for first, stop, base, pattern in self.cuts(begin, end):
+            if number_at(base - pattern.least_held, shift) >= number:
+                if any([number_at(free, shift) >= number for _, _, free in pattern.pieces(first, stop, base)]):
+                    return False
+        return True
+
+    def count_steps(self, begin, end):
+        """How many steps there are from one tick up to another."""
+        many, before = 0, None
+        for first, stop, base, pattern in self.cuts(begin, end):
+            if base - pattern.held_at(first) != before:
+                many = many + 1
+            many = many + pattern.changes_up_to(stop - 1) - pattern.changes_up_to(first)
+            before = base - pattern.held_at(stop - 1)
+        return many
+
+    def steps(self, begin, end):
+        """The pairs (tick, free amounts) of the steps from one tick up to another."""
+        found, made, before = [], {}, None
+        for first, stop, base, pattern in self.cuts(begin, end):
+            for low, _, free in pattern.pieces(first, stop, base):
+                if free != before:
+                    found.append((low, self._made_amounts(free, made)))
+                before = free
+            if stop - first > pattern.cycle:
+                found.extend(self._later_steps(pattern, base, first + pattern.cycle, stop, made))
+                before = base - pattern.held_at(stop - 1)
+        return tuple(found)
+
+    def _later_steps(self, pattern, base, first, stop, made):
+        """The steps of a cut from a tick up to its end, if it has begun a period or more ahead of this tick."""
+        turn = first - first % pattern.cycle
+        turns = range(turn, stop, pattern.cycle)
+        many = len(pattern.changes)
+        rows = [None] * (len(turns) * many)
+        for at, (phase, hold) in enumerate(pattern.changes):
+            some = self._made_amounts(base - hold, made)
+            rows[at::many] = [(later + phase, some) for later in turns]
+        ahead = len([phase for phase, _ in pattern.changes if turn + phase < first])
+        return rows[ahead:ahead + pattern.changes_up_to(stop - 1) - pattern.changes_up_to(first - 1)]
+
+    def _made_amounts(self, free, made):
+        """The amounts of packed numbers, of which a dict has those that were made ahead."""
+        if free not in made:
+            made[free] = self.fields.amounts_of(free)
+        return made[free]
 
 
-def cut_pieces(base, pattern, period, first, stop):
-    """Yield the pieces of a part of a stretch."""
-    if len(pattern) == 1:
-        yield first, stop, _free_beside(base, pattern[0][1])
-        return
-    ends = [phase for phase, _ in pattern[1:]] + [period]
-    # A phase comes again in each period: what is free in it is worked out once.
-    frees = {}
-    tick = first
-    turn = first - first % period
-    at = 0
-    while turn + ends[at] <= first:
+def new_line(amounts, cycle):
+    """The line of a room without claims and windows."""
+    fields = KindFields(amounts.kinds)
+    base = fields.packed(amounts) + fields.all_tops
+    return Line(fields, [0], [base], [0], [Pattern(fields, cycle, [0], [0])])
+
+
+def _split(ticks, rows, tick):
+    """The place of the part that begins at a tick; if there is none, one is made of the part in which it lies."""
+    at = place_of(ticks, tick)
+    if ticks[at] < tick:
         at = at + 1
-    while tick < stop:
-        end = min(turn + ends[at], stop)
-        if at not in frees:
-            frees[at] = _free_beside(base, pattern[at][1])
-        yield tick, end, frees[at]
-        tick = end
-        at = at + 1
-        if at == len(ends):
-            at = 0
-            turn = turn + period
-
-
-def _free_beside(base, numbers):
-    """What is left of the numbers of a base beside those that windows hold."""
-    return tuple([has - held for has, held in zip(base, numbers)])
+        ticks.insert(at, tick)
+        rows.insert(at, rows[at - 1])
+    return at
 
 
 def head_of(claims, windows):
@@ -115,64 +195,3 @@ def _window_ticks_ahead(tick, window, period):
     begin, length, _ = window
     periods, rest = divmod(max(0, tick - begin), period)
     return periods * length + min(rest, length)
-
-
-def _borders(claims, windows):
-    """The ticks at which stretches begin, ascending."""
-    ticks = {0: True}
-    for begin, end, _ in claims:
-        ticks[begin] = True
-        if end is not None:
-            ticks[end] = True
-    for window in windows:
-        ticks[window[0]] = True
-    return sorted(ticks)
-
-
-def _bases(borders, numbers, claims, kinds):
-    """What no claim holds, from each border on."""
-    places = {kind: at for at, kind in enumerate(kinds)}
-    changes = {tick: [] for tick in borders}
-    for begin, end, held in claims:
-        for kind, number in held.pairs:
-            if kind in places:
-                changes[begin].append((places[kind], -number))
-                if end is not None:
-                    changes[end].append((places[kind], number))
-    now = [numbers.get(kind, 0) for kind in kinds]
-    bases = []
-    for tick in borders:
-        for at, change in changes[tick]:
-            now[at] = now[at] + change
-        bases.append(tuple(now))
-    return bases
-
-
-def _stretches(borders, bases, windows, period, kinds):
-    """All stretches, ascending."""
-    ends = borders[1:] + [None]
-    found, begun = [], []
-    pattern = _pattern(begun, period, kinds)
-    for begin, end, base in zip(borders, ends, bases):
-        windows_now = [window for window in windows if window[0] <= begin]
-        if len(windows_now) > len(begun):
-            begun = windows_now
-            pattern = _pattern(begun, period, kinds)
-        found.append((begin, end, base, pattern))
-    return found
-
-
-def _pattern(windows, period, kinds):
-    """The pattern of windows that have begun."""
-    phases = {0: True}
-    for begin, length, _ in windows:
-        phases[begin % period] = True
-        phases[(begin + length) % period] = True
-    tables = [(begin, length, dict(held.pairs)) for begin, length, held in windows]
-    found = []
-    for phase in sorted(phases):
-        holding = [table for begin, length, table in tables if (phase - begin) % period < length]
-        numbers = tuple([sum([one.get(kind, 0) for one in holding]) for kind in kinds])
-        if not found or found[-1][1] != numbers:
-            found.append((phase, numbers))
-    return found

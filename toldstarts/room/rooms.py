@@ -5,8 +5,8 @@ from toldstarts.base.checks import is_between, is_whole
 from toldstarts.base.ticks import MAX_TICK, check_tick, is_tick
 from toldstarts.errors import InvalidAmounts, InvalidNumber, InvalidRoom, InvalidTick
 from toldstarts.errors import Refused, TooMany, UnknownName
-from toldstarts.room.lines import Line, head_of, held_ticks, window_ticks
-from toldstarts.room.runs import is_chain, search
+from toldstarts.room.lines import head_of, held_ticks, new_line, window_ticks
+from toldstarts.room.runs import bars_to, first_start, is_chain
 
 MAX_CLAIMS = 200
 MAX_WINDOWS = 20
@@ -25,6 +25,8 @@ class Room:
         self._period = period
         self._claims = ()
         self._windows = ()
+        self._head = 0
+        self._known_line = None
 
     @property
     def amounts(self):
@@ -39,7 +41,7 @@ class Room:
     @property
     def head(self):
         """The tick from which on the same is free a period later."""
-        return head_of(self._claims, self._windows)
+        return self._head
 
     @property
     def claims(self):
@@ -56,30 +58,42 @@ class Room:
         _check_claim(claim)
         if len(self._claims) >= MAX_CLAIMS:
             raise TooMany(MAX_CLAIMS)
-        made = self._changed(self._claims + (claim,), self._windows)
         begin, end, held = claim
-        made._refuse_short(held.kinds, begin, made._horizon(begin) if end is None else end)
-        return made
+        line = self._line()
+        head = max(self._head, begin if end is None else end)
+        line = line.with_held(begin, end, line.fields.packed(held))
+        self._refuse_short(line, held, begin, max(begin, head) + self._period if end is None else end)
+        return self._changed(self._claims + (claim,), self._windows, head, line)
 
     def with_window(self, window):
         """The room with one more window."""
         self._check_window(window)
         if len(self._windows) >= MAX_WINDOWS:
             raise TooMany(MAX_WINDOWS)
-        made = self._changed(self._claims, self._windows + (window,))
-        begin, _, held = window
-        made._refuse_short(held.kinds, begin, made._horizon(begin))
-        return made
+        begin, length, held = window
+        line = self._line()
+        head = max(self._head, begin)
+        line = line.with_window(begin, length, line.fields.packed(held))
+        self._refuse_short(line, held, begin, head + self._period)
+        return self._changed(self._claims, self._windows + (window,), head, line)
 
     def without_claim(self, claim):
         """The room without the first claim that is equal."""
         _check_claim(claim)
-        return self._changed(_without(self._claims, claim), self._windows)
+        claims = _without(self._claims, claim)
+        begin, end, held = claim
+        line = self._line()
+        line = line.with_held(begin, end, -line.fields.packed(held))
+        return self._changed(claims, self._windows, head_of(claims, self._windows), line)
 
     def without_window(self, window):
         """The room without the first window that is equal."""
         self._check_window(window)
-        return self._changed(self._claims, _without(self._windows, window))
+        windows = _without(self._windows, window)
+        begin, length, held = window
+        line = self._line()
+        line = line.with_window(begin, length, -line.fields.packed(held))
+        return self._changed(self._claims, windows, head_of(self._claims, windows), line)
 
     def free(self, tick):
         """The free amounts at a tick."""
@@ -103,34 +117,41 @@ class Room:
     def steps(self, begin, end):
         """The pairs (tick, free amounts) for begin and for each later tick at which other amounts are free."""
         _check_span(begin, end)
-        kinds = self._amounts.kinds
-        line = self._line(kinds)
-        found, made, before = [], {}, None
-        for tick, _, free in line.pieces(begin, end):
-            if free != before:
-                if len(found) == MAX_STEPS:
-                    raise TooMany(MAX_STEPS)
-                if free not in made:
-                    made[free] = _amounts_of(kinds, free)
-                found.append((tick, made[free]))
-                before = free
-        return tuple(found)
+        line = self._line()
+        if line.count_steps(begin, end) > MAX_STEPS:
+            raise TooMany(MAX_STEPS)
+        return line.steps(begin, end)
 
     def fits(self, want, length, start):
         """Whether a run fits at a start."""
         _check_run(want, length)
         if not is_whole(start) or start < 0:
             raise InvalidTick("the start is no integer of at least 0")
-        least = self._line(want.kinds).least(start, start + length)
-        return all([number <= free for (_, number), free in zip(want.pairs, least)])
+        line = self._line()
+        if self._foreign_kinds(want):
+            return False
+        return line.covers(line.fields.packed(want), line.fields.tops_of(want), start, start + length)
 
     def earliest(self, want, length, since):
         """The earliest start from since on at which a run fits, or None."""
-        return self._search(want, length, since)[0]
+        _check_run(want, length)
+        check_tick(since)
+        line, horizon, start = self._line(), self._horizon(since), None
+        if not self._foreign_kinds(want):
+            wanted, tops = line.fields.packed(want), line.fields.tops_of(want)
+            start = first_start(line, wanted, tops, length, since, horizon)
+        if line.count_steps(since, (horizon if start is None else start) + length) > MAX_STEPS:
+            raise TooMany(MAX_STEPS)
+        return start
 
     def bars(self, want, length, since):
         """A paper for the earliest start, or for None."""
-        return self._search(want, length, since)[1]
+        start = self.earliest(want, length, since)
+        line, horizon, foreign = self._line(), self._horizon(since), self._foreign_kinds(want)
+        if foreign:
+            return ((since, horizon, ("short", foreign[0], since, horizon - 1)),)
+        end = horizon + length if start is None else start
+        return bars_to(line, line.fields.packed(want), line.fields.tops_of(want), since, end, horizon)
 
     def is_bars(self, want, length, since, start, value):
         """Whether the value is a paper for a start, or for None."""
@@ -138,17 +159,14 @@ class Room:
         check_tick(since)
         if start is not None and (not is_whole(start) or start < since):
             raise InvalidTick("the start is neither None nor an integer of at least since")
-        end = self._horizon(since) if start is None else start
-        if not is_chain(value, length, since, end):
+        if not is_chain(value, length, since, self._horizon(since) if start is None else start):
             return False
-        lines = {}
-        for bar in value:
-            kind, first, last = bar[2][1:]
-            if kind not in want:
+        line, numbers = self._line(), dict(want.pairs)
+        for _, _, (_, kind, first, last) in value:
+            # A kind of a wrong form, such as a list, is no key of a dict.
+            if not isinstance(kind, str) or kind not in numbers:
                 return False
-            if kind not in lines:
-                lines[kind] = self._line((kind,))
-            if not lines[kind].is_short(0, want[kind], first, last + 1):
+            if not line.is_short(kind, numbers[kind], first, last + 1):
                 return False
         return True
 
@@ -168,12 +186,20 @@ class Room:
         windows = sorted([(begin, length, held.pairs) for begin, length, held in self._windows])
         return (self._amounts.pairs, self._period, claims, windows)
 
-    def _changed(self, claims, windows):
-        """The room with other claims and windows."""
+    def _changed(self, claims, windows, head, line):
+        """The room with other claims or windows, and with the head and the line that follow from them."""
         made = Room(self._amounts, period=self._period)
         made._claims = claims
         made._windows = windows
+        made._head = head
+        made._known_line = line
         return made
+
+    def _line(self):
+        """What is free at each tick."""
+        if self._known_line is None:
+            self._known_line = new_line(self._amounts, self._period)
+        return self._known_line
 
     def _check_window(self, value):
         """Refuse what is no window of this room."""
@@ -183,39 +209,28 @@ class Room:
         if not is_tick(begin) or not is_between(length, 1, self._period) or not _are_held(held):
             raise InvalidRoom("a window is a tick, a length up to the period, and amounts")
 
-    def _refuse_short(self, kinds, begin, end):
-        """Refuse this room if more of some kinds is held than there is, somewhere from begin up to end."""
-        line = self._line(kinds)
-        for tick, _, free in line.sights(begin, end):
-            for kind, number in zip(kinds, free):
-                if number < 0:
-                    raise Refused(("short", kind, tick))
+    def _refuse_short(self, line, held, begin, end):
+        """Refuse a line with something more that is held, if it is more than there is, from a begin up to an end."""
+        shorts = [(begin, kind) for kind in self._foreign_kinds(held)[:1]]
+        found = line.first_short(line.fields.tops_of(held), begin, end)
+        if found is not None:
+            shorts.append(found)
+        if shorts:
+            tick, kind = min(shorts)
+            raise Refused(("short", kind, tick))
 
-    def _line(self, kinds):
-        """What is free of some kinds at each tick."""
-        return Line(self._amounts, self._claims, self._windows, self._period, kinds)
+    def _foreign_kinds(self, amounts):
+        """The kinds of amounts that the room does not have."""
+        return [kind for kind in amounts.kinds if kind not in self._amounts]
 
     def _least(self, begin, end):
         """The least of each kind that is free from begin up to end."""
-        kinds = self._amounts.kinds
-        return _amounts_of(kinds, self._line(kinds).least(begin, end))
+        line = self._line()
+        return line.fields.amounts_of(line.least(begin, end))
 
     def _horizon(self, since):
         """The tick ahead of which a run fits if it fits anywhere from since on."""
-        return max(since, self.head) + self._period
-
-    def _search(self, want, length, since):
-        """The earliest start or None, and a paper for it."""
-        _check_run(want, length)
-        check_tick(since)
-        # All kinds of the room are in the line, as a step of any kind counts.
-        line = self._line(tuple(sorted(set(self._amounts.kinds + want.kinds))))
-        return search(line, want, length, since, self._horizon(since), MAX_STEPS)
-
-
-def _amounts_of(kinds, numbers):
-    """The amounts with some numbers of some kinds, 0 among them."""
-    return Amounts(tuple([(kind, number) for kind, number in zip(kinds, numbers) if number > 0]))
+        return max(since, self._head) + self._period
 
 
 def _without(rows, row):
