@@ -219,6 +219,23 @@ class Form(Case):
             names = node.type.elts if isinstance(node.type, ast.Tuple) else [node.type]
             self.assertTrue(all([isinstance(name, ast.Name) and name.id in own for name in names]), (path, node.lineno))
 
+    def test_double_underscore_methods(self):
+        for path, node in all_nodes(ast.FunctionDef):
+            answers = [part.value for part in ast.walk(node) if isinstance(part, ast.Return)]
+            for answer in answers:
+                where = (path, node.name, answer.lineno if answer else None)
+                if node.name == "__len__":
+                    self.assertRegex(ast.unparse(answer), r"^(len[(].*[)]|\d+)$", where)
+                if node.name == "__str__":
+                    is_text = isinstance(answer, ast.JoinedStr) or isinstance(answer, ast.Constant)
+                    self.assertTrue(is_text or re.match(r"(str|repr)[(]|'[^']*'[.]join[(]", ast.unparse(answer)), where)
+                if node.name == "__iter__":
+                    self.assertRegex(ast.unparse(answer), r"^iter[(]self[.][a-z_]+([.][a-z_]+)?[)]$", where)
+            if node.name == "__init__":
+                self.assertEqual(answers, [], path)
+            if node.name in ("__str__", "__len__"):
+                self.assertIsInstance(node.body[-1], ast.Return, path)
+
     def test_names_of_properties(self):
         """A property has no name that another class stores, or that a method has."""
         properties, methods = set(), set()

@@ -3,16 +3,17 @@
 MAX_WORD = 8
 MAX_NAME = 12
 MAX_JOB_NUMBER = 1000000
+TOO_LONG = 10 ** 60
 
 
 def is_whole(value):
     """Whether the value is an integer that may be passed: one of at most sixty digits."""
-    return isinstance(value, int) and not isinstance(value, bool) and abs(value) < 10 ** 60
+    return isinstance(value, int) and not isinstance(value, bool) and abs(value) < TOO_LONG
 
 
 def is_between(value, low, high):
-    """Whether the value is an integer from `low` to `high`."""
-    return is_whole(value) and low <= value <= high
+    """Whether the value is an integer from `low` to `high`, which have at most sixty digits themselves."""
+    return isinstance(value, int) and not isinstance(value, bool) and low <= value <= high
 
 
 def is_job_number(value):

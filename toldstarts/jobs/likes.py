@@ -109,8 +109,9 @@ class Row:
                 and self._at_once == other._at_once)
 
     def __str__(self):
-        told = f"row {self._numbers[0]} of {len(self._numbers)} parts"
-        return told if self._at_once is None else f"{told}, {self._at_once} at once"
+        if self._at_once is None:
+            return f"row {self._numbers[0]} of {len(self._numbers)} parts"
+        return f"row {self._numbers[0]} of {len(self._numbers)} parts, {self._at_once} at once"
 
 
 def fold_states(rows, states):
