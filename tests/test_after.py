@@ -188,6 +188,15 @@ class Truth(Case):
         for word in WORDS:
             self.assertIs(may_come((word, 1), known, held=(1,)), False)
 
+    def test_arguments_are_not_changed(self):
+        f, known = ("and", (ONE, ("or", (("left", 3), ("well", 2))))), {3: "waiting", 1: "begun", 2: "ill", 9: "gone"}
+        before = list(known.items())
+        for held in ((), (3,)):
+            results = [(true_now(f, known), may_come(f, known, held=held), sure(f, known), lost_tree(f, known, held=held)) for _ in range(2)]
+            self.assertEqual(results[0], results[1])
+        self.refused(UnknownName, may_come, ("well", 4), known)
+        self.assertEqual(list(known.items()), before)
+
     def test_against_all_outcomes(self):
         chance = random.Random(71)
         counts = {}

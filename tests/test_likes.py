@@ -242,11 +242,19 @@ class States(Case):
         self.assertEqual(unfold_states((), lines), {at: "a" for at in range(1, 1001)})
         self.refused(InvalidJob, unfold_states, (), lines + ("1001 a",))
 
+    def test_arguments_are_not_changed(self):
+        states = {11: "a", 4: "b", 7: "a"}
+        self.assertEqual([fold_states((ROW,), states), fold_states((ROW,), states)], [("4 b", "7.[1,9] a")] * 2)
+        self.assertEqual(list(states.items()), [(11, "a"), (4, "b"), (7, "a")])
+        told = unfold_states((ROW,), ("4 b",))
+        told[5] = "c"
+        self.assertEqual(unfold_states((ROW,), ("4 b",)), {4: "b"})
+
     def test_wrong_lines(self):
         good = ("4 told", "7.[1,2] runs")
         for line in ("", " ", "4", "4 ", "5  told", " 5 told", "5 told ", "5 Told", "5 told1", "5 abcdefghi", "5 a b", "5", "5.told", "05 told", "0 told",
                      "-5 told", "1000001 told", "99999999 told", "x told", "5.1 told", "5.[1] told", "9 told", "7 told", "7. told", "7.4 told",
-                     "7.03 told", "7.[] told", "7.[3 told", "7.3] told", "7.[3]x told", "7.[03] told", "7.[9-3] told", "7.[3,4] told", "7.[3, 9] told",
+                     "7.03 told", "7.[] told", "7.[3 told", "7.[33 told", "7.[3,99 told", "7.[3x told", "7.3] told", "7.[3]x told", "7.[03] told", "7.[9-3] told", "7.[3,4] told", "7.[3, 9] told",
                      "7.[3,] told", "7.[0-9999] told", "8.3 told", "7.10000 told", "7.99999999999 told", "7.3.5 told", "07.3 told", "7.3 told\n",
                      "7.[3-5:0] told", "4 told", "7.1 told", "7.[2,3] told", "7.[1] runs", "[3] told", "7.x told", "7.[x] told", "5\told", "told 5"):
             self.assertEqual(self.refused(ParseError, unfold_states, (ROW,), good + (line, "?")).spot, 2, line)

@@ -362,6 +362,37 @@ class Runs(Case):
             found[start is None] += 1
         self.assertGreater(min(found), 100)
 
+    def test_long_searches_against_a_plain_search(self):
+        """Claims that last for many periods, and runs that are longer than some periods."""
+        chance = random.Random(9)
+        found = [0, 0, 0]
+        for _ in range(400):
+            room = Room(some(core=5, mem=3), period=chance.choice((1, 2, 3, 5)))
+            for _ in range(chance.randrange(1, 4)):
+                room = room.with_window((chance.choice((0, 1, 2, 7, 30)), chance.randrange(1, room.period + 1), chance.choice((ONE, some(mem=1)))))
+            for _ in range(chance.randrange(1, 5)):
+                begin = chance.choice((0, chance.randrange(20), chance.randrange(70)))
+                end = chance.choice((None, begin + 1) + (begin + chance.randrange(1, 60),) * 9)
+                try:
+                    room = room.with_claim((begin, end, chance.choice((ONE, TWO, some(mem=1)))))
+                except Refused:
+                    pass
+            want = chance.choice((THREE, FOUR, FOUR, some(core=4, mem=2), some(core=4, mem=3), some(mem=3)))
+            length, since = chance.choice((1, 1, 2, 2, 3, 4, 6, 9)), chance.randrange(20)
+            limit = max(since, room.head) + room.period
+            fine = [all([free_at(room, kind, tick) >= want[kind] for kind in want.kinds]) for tick in range(limit + length)]
+            good = [tick for tick in range(since, limit) if all(fine[tick:tick + length])]
+            start = good[0] if good else None
+            self.assertEqual(room.earliest(want, length, since), start)
+            paper = room.bars(want, length, since)
+            self.check_paper(room, want, length, since, limit if start is None else start, paper)
+            self.assertIs(room.is_bars(want, length, since, start, paper), True)
+            steps = [tick for tick in range(since, limit + length)
+                     if tick == since or free_pairs(room, tick) != free_pairs(room, tick - 1)]
+            self.assertEqual([tick for tick, _ in room.steps(since, limit + length)], steps)
+            found[2 if start is None else 1 if start > since else 0] += 1
+        self.assertGreater(min(found), 30)
+
     def check_paper(self, room, want, length, since, end, paper):
         """Hold a returned paper against the words of 2.5."""
         self.assertTrue(is_paper(room, want, length, since, end, paper), paper)

@@ -229,6 +229,18 @@ class Turns(Case):
         self.assertEqual(order_turns(Weights(age=10 ** 6, cap=10 ** 6, grade=10 ** 6), (entries[0], (2, 10 ** 6, 0, 10 ** 6, "lab")), FLAT, 10 ** 6, 1),
                          ((10 ** 6 + 1, (2, 1)),))
 
+    def test_orders_that_come_again(self):
+        """Two accounts change places in each of 59 periods, and back."""
+        accounts = Accounts((("lab", "", 1), ("web", "", 1))).with_use("lab", 59, 1)
+        for used in range(1, 61):
+            accounts = accounts.with_use(("web", "lab")[used % 2], used, 2 ** (60 - used))
+        entries, weights = ((7, 50, 3, 0, "web"), (8, 60, 3, 0, "lab"), (9, 40, 2, 0, "web")), Weights(age=0, size=1, place=2)
+        turns = order_turns(weights, entries, accounts, 60, 1)
+        self.assertEqual([turn for turn, _ in turns], list(range(62, 121)))
+        self.assertEqual(turns, plain_turns(weights, entries, accounts, 60, 1, 140))
+        weights = Weights(age=1, cap=30, size=1, place=3)
+        self.assertEqual(order_turns(weights, entries, accounts, 60, 1), plain_turns(weights, entries, accounts, 60, 1, 140))
+
     def test_at_the_cap(self):
         """The one that came first keeps its lead until its cap, and loses it then."""
         entries = ((1, 0, 0, 0, "lab"), (2, 5, 0, 0, "lab"))

@@ -108,6 +108,13 @@ class Stuck(Case):
             self.assertEqual(self.refused(UnknownName, stuck_set, wishes, known).wanted, lacking)
             self.assertEqual(self.refused(UnknownName, is_stuck_set, wishes, known, None).wanted, lacking)
 
+    def test_arguments_are_not_changed(self):
+        wishes, known = {**RING, 4: None, 5: ("left", 6)}, {6: "begun"}
+        before = (list(wishes.items()), list(known.items()))
+        self.assertEqual([stuck_set(wishes, known), stuck_set(wishes, known)], [(1, 2, 3, 5)] * 2)
+        self.assertIs(is_stuck_set(wishes, known, (5,)), True)
+        self.assertEqual((list(wishes.items()), list(known.items())), before)
+
     def test_long_chains(self):
         chain = {at: ("over", at + 1) for at in range(1, 60)}
         self.assertEqual(stuck_set({**chain, 60: None}, {}), ())

@@ -104,8 +104,6 @@ def _read_group(value, at):
     readers = (_read_count, _read_marks, _read_amounts)
     found = []
     for place, (begin, part) in enumerate(_parts(value, ":", at)):
-        if part == "":
-            raise ParseError(begin)
         reader = readers[place]
         found.append(reader(part, begin))
     return tuple(found)
@@ -114,7 +112,7 @@ def _read_group(value, at):
 def _parts(value, sign, at):
     """The pairs (index, part) of the parts with a sign between them, without blanks around them.
 
-    An empty part has the index of the sign, or of the end, behind it.
+    An empty part has the index of the sign, or of the end, behind it: there all readers find it wrong.
     """
     found, begin = [], at
     for part in value.split(sign):
@@ -136,13 +134,9 @@ def _read_grade(value, at):
 
 def _number_of(value, at, low, high):
     """The number that is written at an index, without zeros ahead, and lies between two others."""
-    # Only the length of the text bounds the digits, so they are counted first.
-    if not value.isdigit() or len(value) > len(str(high)) or str(int(value)) != value:
+    if not value.isdigit() or str(int(value)) != value or not low <= int(value) <= high:
         raise ParseError(at)
-    number = int(value)
-    if not low <= number <= high:
-        raise ParseError(at)
-    return number
+    return int(value)
 
 
 def _read_marks(value, at):
