@@ -39,6 +39,59 @@ def all_nodes(kind):
     return [(path, node) for path, tree in trees() for node in ast.walk(tree) if isinstance(node, kind)]
 
 
+MODIFIERS = ("append", "extend", "pop", "setdefault", "update", "clear", "remove", "insert", "reverse", "sort")
+
+
+def root_of_field(node):
+    """The name of the object of which an expression is a field, or an item of one; None for all others."""
+    has_field = False
+    while isinstance(node, (ast.Attribute, ast.Subscript)):
+        has_field = has_field or isinstance(node, ast.Attribute)
+        node = node.value
+    return node.id if has_field and isinstance(node, ast.Name) else None
+
+
+def walked_roots(node):
+    """The names of the objects of which a loop walks a field where it stands, without a copy."""
+    if isinstance(node, (ast.Attribute, ast.Subscript)):
+        return {root_of_field(node)} - {None}
+    parts = []
+    if isinstance(node, ast.Call) and isinstance(node.func, ast.Attribute) and node.func.attr in ("items", "keys", "values"):
+        parts = [node.func.value]
+    elif isinstance(node, ast.Call) and ast.unparse(node.func) in ("enumerate", "zip", "reversed"):
+        parts = node.args
+    elif isinstance(node, (ast.IfExp, ast.BoolOp)):
+        parts = node.values if isinstance(node, ast.BoolOp) else [node.body, node.orelse]
+    return set().union(*[walked_roots(part) for part in parts])
+
+
+def changed_roots(node):
+    """The names of the objects of which a field is changed in a statement, or in what stands in it."""
+    found = set()
+    for part in ast.walk(node):
+        if isinstance(part, ast.Call) and isinstance(part.func, ast.Attribute) and part.func.attr in MODIFIERS:
+            found.add(root_of_field(part.func.value))
+        if isinstance(part, (ast.Attribute, ast.Subscript)) and isinstance(part.ctx, (ast.Store, ast.Del)):
+            found.add(root_of_field(part))
+    return found - {None}
+
+
+def changed_walks(tree):
+    """The lines of the loops and comprehensions that walk a field of an object of which they change one."""
+    found = []
+    for node in ast.walk(tree):
+        if isinstance(node, ast.For):
+            walks, body = [node.iter], node.body + node.orelse
+        elif isinstance(node, (ast.ListComp, ast.DictComp, ast.SetComp, ast.GeneratorExp)):
+            walks, body = [one.iter for one in node.generators], [node]
+        else:
+            continue
+        walked = set().union(*[walked_roots(walk) for walk in walks])
+        if walked & set().union(*[changed_roots(part) for part in body]):
+            found.append(node.lineno)
+    return found
+
+
 def names_of(tree):
     """What a file binds at module level."""
     found = []
@@ -198,6 +251,17 @@ class Form(Case):
                         changed = ast.unparse(part.func.value)
                         self.assertIsNone(re.search(r"(?<![\w.])%s(?![\w])" % re.escape(changed), gone_over),
                                           (path, node.lineno))
+
+    def test_walks_of_fields_without_change_of_the_object(self):
+        for path, tree in trees():
+            self.assertEqual(changed_walks(tree), [], path)
+        for wrong in ("for a in self.rows:\n    self.below[a].append(1)", "for a, b in self.rows.items():\n    self.many = b",
+                      "for a in enumerate(box.rows):\n    if a:\n        box.found[a] = 1", "for a in box.rows[1]:\n    del box.b[a]",
+                      "for a in (box.x if c else y):\n    box.x.pop()", "[box.found.append(a) for a in box.rows]"):
+            self.assertEqual(changed_walks(ast.parse(wrong)), [1], wrong)
+        for right in ("for a in list(self.rows):\n    self.below[a].append(1)", "for a in rows:\n    self.rows[a] = 1",
+                      "for a in box.rows:\n    self.rows[a] = 1", "for a in self.rows:\n    found.append(self.below[a])"):
+            self.assertEqual(changed_walks(ast.parse(right)), [], right)
 
     def test_words(self):
         for path in FILES:

@@ -12,21 +12,24 @@ class Tree:
     """Account rows, with all that follows from them alone."""
 
     def __init__(self, rows):
-        self.tree_rows = tuple(sorted(rows))
-        self.parents = {name: parent for name, parent, _ in self.tree_rows}
-        self.shares = {name: share for name, _, share in self.tree_rows}
-        self.below = {name: [] for name in [ROOT] + list(self.parents)}
-        for name, parent, _ in self.tree_rows:
-            self.below[parent].append(name)
+        ascending = tuple(sorted(rows))
+        self.tree_rows = ascending
+        self.parents = {name: parent for name, parent, _ in ascending}
+        self.shares = {name: share for name, _, share in ascending}
+        below = {name: [] for name in [ROOT] + list(self.parents)}
+        for name, parent, _ in ascending:
+            below[parent].append(name)
+        self.below = below
         self.lines = {name: line_of(self.parents, name) for name in self.parents}
-        self.factors = {}
-        for names in self.below.values():
+        factors = {}
+        for names in below.values():
             whole = 1
             for name in names:
                 whole = lcm(whole, self.shares[name])
             for name in names:
                 # Uses times these are in the order of uses divided by shares.
-                self.factors[name] = whole // self.shares[name]
+                factors[name] = whole // self.shares[name]
+        self.factors = factors
 
     def fraction(self, name):
         """The fraction of an account, in lowest terms."""
