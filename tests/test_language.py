@@ -23,12 +23,12 @@ BAD_NAMES = set("register mro elements open input law version_info with_tracebac
 BAD_WORDS = set("""type typing typing_extensions enum Enum IntEnum StrEnum Flag IntFlag Generic Protocol ABC ABCMeta
     namedtuple NamedTuple TypedDict TYPE_CHECKING abstractmethod""".split())
 DUNDERS = set("""__init__ __eq__ __repr__ __str__ __len__ __iter__ __bool__ __contains__ __getitem__ __add__ __sub__
-    __mul__""".split())
+    __mul__ __enter__ __exit__""".split())
 NODES = set("""Module Expr Constant Import ImportFrom alias FunctionDef ClassDef arguments arg Return Assign For While If
     Raise Pass Break Continue BoolOp And Or BinOp Add Sub Mult FloorDiv Mod Pow LShift RShift BitAnd BitOr BitXor UnaryOp
     Not USub IfExp Dict ListComp DictComp comprehension Compare Eq NotEq Lt LtE Gt GtE Is IsNot In NotIn Call keyword
     JoinedStr FormattedValue Attribute Subscript Slice Starred Name Load Store List Tuple Yield YieldFrom Try ExceptHandler
-    Delete Del""".split())
+    Delete Del With withitem""".split())
 
 
 def trees():
@@ -314,7 +314,7 @@ class Form(Case):
         """What they run directly stores no attribute and no item but those of a local dict that it creates."""
         for path, node in all_nodes(ast.FunctionDef):
             marks = [ast.unparse(mark) for mark in node.decorator_list]
-            if "property" not in marks and (not node.name.startswith("__") or node.name == "__init__"):
+            if "property" not in marks and (not node.name.startswith("__") or node.name in ("__init__", "__enter__", "__exit__")):
                 continue
             made = [part.targets[0].id for part in ast.walk(node) if isinstance(part, ast.Assign)
                     and isinstance(part.targets[0], ast.Name)]

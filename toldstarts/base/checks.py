@@ -26,6 +26,15 @@ def is_ascending(values):
     return all([one < other for one, other in zip(values, values[1:])])
 
 
+def is_same(value, wanted):
+    """Whether a value is just a wanted one, of tuples, integers, strings and the like, without True as a 1."""
+    if not isinstance(wanted, tuple):
+        return isinstance(value, bool) == isinstance(wanted, bool) and value == wanted
+    if not isinstance(value, tuple) or len(value) != len(wanted):
+        return False
+    return all([is_same(one, other) for one, other in zip(value, wanted)])
+
+
 def place_of(values, value):
     """The place of the last one of ascending values that is not above a value; the first one never is."""
     low, high = 0, len(values)

@@ -21,6 +21,8 @@ def members_of(part):
 
 def short_part(counts, fits):
     """The least set of groups that wants more members than fit it, or None."""
+    if len(counts) == 1:
+        return None if len([fit for fit in fits if fit]) >= counts[0] else 1
     fields = SetFields(len(counts))
     slack = fields.slack_without_members(counts) + sum([fields.meeting(fit) for fit in fits])
     short = fields.tops - (slack & fields.tops)

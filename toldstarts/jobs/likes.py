@@ -15,7 +15,7 @@ MAX_FIRST = 999000
 
 def fold_indices(indices):
     """The least text of indices."""
-    if not _are_indices(indices):
+    if not are_indices(indices):
         raise InvalidJob("the values are no indices")
     return least_text(indices)
 
@@ -31,7 +31,7 @@ class Row:
     def __init__(self, first, indices, *, at_once=None):
         if not is_between(first, 1, MAX_FIRST):
             raise InvalidNumber(first)
-        if not _are_indices(indices):
+        if not are_indices(indices):
             raise InvalidJob("the values are no indices")
         if at_once is not None and not is_between(at_once, 1, len(indices)):
             raise InvalidNumber(at_once)
@@ -146,7 +146,7 @@ def unfold_states(rows, lines):
     return {number: states[number] for number in sorted(states)}
 
 
-def _are_indices(value):
+def are_indices(value):
     """Whether the value are indices."""
     if not isinstance(value, tuple) or not 1 <= len(value) <= MAX_PARTS:
         return False

@@ -47,16 +47,20 @@ class Accounts:
             raise InvalidNumber(period)
         if not is_between(area, 0, MAX_AREA):
             raise InvalidNumber(area)
+        return self.with_areas(name, {period: area} if area > 0 else {})
+
+    def with_areas(self, name, areas):
+        """The accounts with areas above 0 more for an account that there is, told by their periods."""
         # Rows that are right need not be looked at again.
         made = Accounts(ONE_ROW)
         made._tree = self._tree
-        made._newest = max(self._newest, period) if area > 0 else self._newest
+        made._newest = max([self._newest] + list(areas))
         made._areas = {other: self._areas[other] for other in self._areas}
-        if area > 0:
-            for one in self._tree.lines[name]:
-                areas = self._kept_areas(one, made._newest)
-                areas[period] = areas.get(period, 0) + area
-                made._areas[one] = areas
+        for one in self._tree.lines[name]:
+            kept = self._kept_areas(one, made._newest)
+            for period in areas:
+                kept[period] = kept.get(period, 0) + areas[period]
+            made._areas[one] = kept
         return made
 
     def use_of(self, name, period):

@@ -76,7 +76,7 @@ class Weights:
 
 def score(weights, entry, tick, order):
     """The score of an entry at a tick."""
-    _check_weights(weights)
+    check_weights(weights)
     if not _is_entry(entry):
         raise InvalidJob("the entry is none")
     _check_score_tick((entry,), tick)
@@ -87,7 +87,7 @@ def score(weights, entry, tick, order):
 
 def ranked(weights, entries, tick, order):
     """The numbers of the ranked entries."""
-    _check_weights(weights)
+    check_weights(weights)
     _check_entries(entries)
     _check_score_tick(entries, tick)
     _check_order(order)
@@ -168,7 +168,7 @@ def _is_entry(value):
     return is_between(size, 0, MAX_SIZE) and is_between(grade, 0, MAX_ENTRY_GRADE)
 
 
-def _check_weights(value):
+def check_weights(value):
     """Refuse what are no weights."""
     if not isinstance(value, Weights):
         raise InvalidHouse("the value is no object of Weights")
@@ -205,7 +205,7 @@ def _check_accounts(entries, names):
 
 def _check_turns(weights, entries, accounts, tick, length):
     """Refuse arguments from which no turns follow."""
-    _check_weights(weights)
+    check_weights(weights)
     _check_entries(entries)
     if not isinstance(accounts, Accounts):
         raise InvalidHouse("the value is no object of Accounts")

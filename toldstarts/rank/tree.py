@@ -53,7 +53,7 @@ class Tree:
 
 def are_account_rows(value, most, levels):
     """Whether the value are account rows: at most so many, and so many one below the other."""
-    if not isinstance(value, tuple) or not 1 <= len(value) <= most or not all([_is_row(row) for row in value]):
+    if not isinstance(value, tuple) or not 1 <= len(value) <= most or not all([is_account_row(row) for row in value]):
         return False
     parents = {name: parent for name, parent, _ in value}
     if len(parents) < len(value) or not all([parent == ROOT or parent in parents for parent in parents.values()]):
@@ -70,12 +70,14 @@ def line_of(parents, name):
     return tuple(found)
 
 
-def _is_row(value):
-    """Whether the value has the form of an account row."""
+def is_account_row(value):
+    """Whether the value has the form of an account row, whatever other rows there are."""
     if not isinstance(value, tuple) or len(value) != 3:
         return False
     name, parent, share = value
-    return is_name(name) and (parent == ROOT or is_name(parent)) and is_between(share, 1, MAX_SHARE)
+    if not is_name(name) or not (parent == ROOT or is_name(parent)) or parent == name:
+        return False
+    return is_between(share, 1, MAX_SHARE)
 
 
 def _is_short_line(parents, name, levels):

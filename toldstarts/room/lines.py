@@ -7,7 +7,8 @@ base, pattern): both are the same from first up to stop.
 """
 
 from toldstarts.base.checks import place_of
-from toldstarts.room.fields import KindFields, number_at
+from toldstarts.base.steps import lowered_steps, split_steps
+from toldstarts.room.fields import EVEN, KindFields, number_at
 from toldstarts.room.patterns import Pattern
 
 
@@ -23,21 +24,13 @@ class Line:
 
     def with_held(self, begin, end, held):
         """The line if from one tick up to another, or for ever, more is held, or less if it is below 0."""
-        ticks, bases = list(self.ticks), list(self.bases)
-        low = _split(ticks, bases, begin)
-        high = len(ticks) if end is None else _split(ticks, bases, end)
-        bases[low:high] = [base - held for base in bases[low:high]]
-        # Where the base is no longer another one, two parts become one again: the later ones first.
-        for at in (high, low):
-            if 0 < at < len(ticks) and bases[at] == bases[at - 1]:
-                del ticks[at]
-                del bases[at]
+        ticks, bases = lowered_steps(self.ticks, self.bases, begin, end, held)
         return Line(self.fields, ticks, bases, self.begins, self.patterns)
 
     def with_window(self, begin, length, held):
         """The line with one window more, or with one less if the packed amounts are below 0."""
         begins, patterns = list(self.begins), list(self.patterns)
-        at = _split(begins, patterns, begin)
+        at = split_steps(begins, patterns, begin)
         patterns[at:] = [pattern.with_window(begin, length, held) for pattern in patterns[at:]]
         if at > 0 and patterns[at].changes == patterns[at - 1].changes and patterns[at].holds == patterns[at - 1].holds:
             del begins[at]
@@ -80,6 +73,19 @@ class Line:
                 if free & tops != tops:
                     return (first, self.fields.least_short(free, tops))
         return None
+
+    def first_lacks(self, wanted, tops, begin, end):
+        """For each kind with one of some tops the first tick from one up to another at which less is free."""
+        found, left = {}, tops
+        for first, stop, base, pattern in self.cuts(begin, end):
+            rest = base - wanted
+            if (rest - pattern.most_held) & left != left:
+                for low, _, free in pattern.pieces(first, stop, rest):
+                    while free & left != left:
+                        kind = self.fields.least_short(free, left)
+                        found[kind] = low
+                        left = left - (EVEN << self.fields.shifts[kind])
+        return found
 
     def least(self, begin, end):
         """The least numbers that are free from one tick up to another, without EVEN added."""
@@ -160,16 +166,6 @@ def new_line(amounts, cycle):
     fields = KindFields(amounts.kinds)
     base = fields.packed(amounts) + fields.all_tops
     return Line(fields, [0], [base], [0], [Pattern(fields, cycle, [0], [0])])
-
-
-def _split(ticks, rows, tick):
-    """The place of the part that begins at a tick; if there is none, one is made of the part in which it lies."""
-    at = place_of(ticks, tick)
-    if ticks[at] < tick:
-        at = at + 1
-        ticks.insert(at, tick)
-        rows.insert(at, rows[at - 1])
-    return at
 
 
 def head_of(claims, windows):

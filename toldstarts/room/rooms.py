@@ -233,6 +233,21 @@ class Room:
         return max(since, self._head) + self._period
 
 
+def check_room(value):
+    """Refuse what is no room."""
+    if not isinstance(value, Room):
+        raise InvalidRoom("the value is no object of Room")
+
+
+def first_lacks(room, want, begin, end):
+    """For each kind of which less is free than is wanted the first tick from one up to another at which this is so."""
+    line = room._line()
+    found = line.first_lacks(line.fields.packed(want), line.fields.tops_of(want), begin, end)
+    for kind in room._foreign_kinds(want):
+        found[kind] = begin
+    return found
+
+
 def _without(rows, row):
     """The rows without the first one that is equal."""
     for at, one in enumerate(rows):

@@ -1,0 +1,1 @@
+"""Limits, places of jobs on machines, and the starts that are told."""

@@ -1,0 +1,143 @@
+"""The search for the earliest place of a bid.
+
+A region is a triple (begin, stop, tops): a run that begins at any tick from begin up to stop lies in the same
+parts of the ground, and these tops are set in all of them. Windows are not in it: they are looked at apart.
+"""
+
+from toldstarts.base.checks import place_of
+
+
+def first_place(ground, bid, length, since, end):
+    """The place with the least start from a tick up to an end, of these the least door and choice; None if none fits.
+
+    An end beyond the horizon is none: a bid that has no place ahead of the horizon never has one.
+    """
+    walk = Walk(ground, bid, length, since)
+    has_windows = len(ground.turn_rows) > 0
+    last = min(end, ground.horizon(since))
+    while walk.start_tick < last:
+        tops = walk.tops_here()
+        begin, stop = walk.start_tick, walk.step(last, has_windows)
+        fits = bid.fits_of(tops)
+        doors = bid.open_doors(tops, fits)
+        if doors and not has_windows:
+            return (begin, doors[0], bid.choice_at(doors[0], fits))
+        if doors:
+            found = _first_beside_windows(ground, bid, length, (begin, stop), doors, fits)
+            if found is not None:
+                return found
+    return None
+
+
+def earliest_at_all(ground, bid, length, since):
+    """The earliest place from a tick on, or None."""
+    return first_place(ground, bid, length, since, ground.horizon(since))
+
+
+def place_at(ground, bid, length, start):
+    """The place that the earliest one is if it begins at a tick, or None if none fits there."""
+    return first_place(ground, bid, length, start, start + 1)
+
+
+def is_fitting(ground, bid, length, place):
+    """Whether a place that has the right form fits."""
+    start = place[0]
+    tops = tops_over(ground, bid, start, start + length)
+    fits = _open_fits(ground, bid, length, start, bid.fits_of(tops))
+    return bid.is_free(place, tops, fits)
+
+
+def tops_over(ground, bid, begin, end):
+    """The tops that are set in all ticks from begin up to end."""
+    tops = bid.bid_tops
+    for base in ground.bases_in(begin, end):
+        tops = tops & bid.tops_at(base)
+    return tops
+
+
+class Walk:
+    """Goes through the regions of a run from a tick on.
+
+    The tops of the parts in which the run lies are kept in two rows: `front` has, for each of the older parts, the
+    tops that are set in it and in all later ones of the front, the oldest part last; `back` has the other parts.
+    """
+
+    def __init__(self, ground, bid, length, since):
+        self.ground = ground
+        self.bid = bid
+        self.run_length = length
+        self.start_tick = since
+        self.at = place_of(ground.ticks, since)
+        self.next_at = self.at
+        self.front = []
+        self.back = []
+        self.back_tops = bid.bid_tops
+
+    def tops_here(self):
+        """The tops that are set in all parts of the run that begins here."""
+        ticks, bases = self.ground.ticks, self.ground.bases
+        while self.next_at < len(ticks) and ticks[self.next_at] < self.start_tick + self.run_length:
+            tops = self.bid.tops_at(bases[self.next_at])
+            self.back.append(tops)
+            self.back_tops = self.back_tops & tops
+            self.next_at = self.next_at + 1
+        if not self.front:
+            self.front = _turned(self.back, self.bid.bid_tops)
+            self.back = []
+            self.back_tops = self.bid.bid_tops
+        return self.front[-1] & self.back_tops
+
+    def step(self, last, is_split):
+        """Go to the next region, and tell its begin. Without a split only the parts that the run leaves count.
+
+        A run that goes on into one more part, and leaves none, fits nowhere where it did not before.
+        """
+        ticks, stop = self.ground.ticks, last
+        if self.at + 1 < len(ticks):
+            stop = min(stop, ticks[self.at + 1])
+        if is_split and self.next_at < len(ticks):
+            stop = min(stop, ticks[self.next_at] - self.run_length + 1)
+        if self.at + 1 < len(ticks) and ticks[self.at + 1] == stop:
+            self.at = self.at + 1
+            self.front.pop()
+        self.start_tick = stop
+        return stop
+
+
+def _turned(rows, tops):
+    """For each of some rows of tops, the last one first, what is set in it and in all behind it."""
+    found = []
+    for row in reversed(rows):
+        tops = tops & row
+        found.append(tops)
+    return found
+
+
+def _first_beside_windows(ground, bid, length, region, doors, fits):
+    """The earliest place in a region of which some doors are open while no window is there, or None."""
+    seen = {}
+    for start in _starts(ground, region):
+        some = _open_fits(ground, bid, length, start, fits)
+        if some not in seen:
+            seen[some] = True
+            door = bid.first_with_choice(doors, some)
+            if door is not None:
+                return (start, door, bid.choice_at(door, some))
+    return None
+
+
+def _open_fits(ground, bid, length, start, fits):
+    """Those guards of members of which no window shuts the machine in a run."""
+    return fits - (fits & (ground.shut_mask(start, start + length) * bid.repeat))
+
+
+def _starts(ground, region):
+    """The begin of a region, and all ends of windows in it, ascending; behind two periods they come again."""
+    begin, stop = region
+    last = min(stop, begin + 2 * ground.cycle)
+    found = {begin: True}
+    for _, (low, length) in ground.guarded_turns:
+        tick = begin + 1 + (low + length - begin - 1) % ground.cycle
+        for start in range(tick, last, ground.cycle):
+            found[start] = True
+    return sorted(found)

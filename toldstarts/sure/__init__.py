@@ -1,0 +1,1 @@
+"""What is sure of the starts of some jobs, however long each of them runs."""

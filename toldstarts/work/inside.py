@@ -1,0 +1,162 @@
+"""What a house is made of, and how it settles."""
+
+from toldstarts.errors import TooMany
+from toldstarts.plan.table import Table
+from toldstarts.rank.scores import ranked
+from toldstarts.wait.fates import TRUE_WORDS
+from toldstarts.wait.truths import is_true, words_by_job
+from toldstarts.base.ticks import MAX_TICK
+from toldstarts.work.uses import with_run_uses
+
+MOST_SETTLINGS = 1000
+
+
+class Inside:
+    """The jobs that have come, how they stand, the board, and the uses."""
+
+    def __init__(self, rules):
+        self.rules = rules
+        self.table = Table(rules.first_ground, rules.most_told, rules.is_filling)
+        self.deeds_done = 0
+        # For each number the job, the tick at which it came, and its state.
+        self.comers = {}
+        self.arrivals = {}
+        self.states = {}
+        # For each job that is not over its bid; the jobs that are held; the ticks at which jobs have begun that were
+        # not put back since; and the jobs that were ever put off.
+        self.bids = {}
+        self.held_numbers = {}
+        self.begun_at = {}
+        self.put_off = {}
+        self.like_rows = ()
+        self.used = rules.house_limits.accounts
+
+    def copied(self):
+        """The same once more, which goes on by itself."""
+        made = Inside(self.rules)
+        made.table = self.table.copied()
+        made.deeds_done = self.deeds_done
+        made.comers = dict(self.comers)
+        made.arrivals = dict(self.arrivals)
+        made.states = dict(self.states)
+        made.bids = dict(self.bids)
+        made.held_numbers = dict(self.held_numbers)
+        made.begun_at = dict(self.begun_at)
+        made.put_off = dict(self.put_off)
+        made.like_rows = self.like_rows
+        made.used = self.used
+        return made
+
+    def stands(self, number):
+        """How a job stands."""
+        if number in self.table.running:
+            return "runs"
+        if number in self.table.told_keys:
+            return "told"
+        return "untold" if number in self.bids else "over"
+
+    def state_of(self, number):
+        """The state of a job; those that have not come yet wait."""
+        return self.states.get(number, "waiting")
+
+    def is_true_now(self, formula):
+        """Whether a formula over the ends of jobs is true."""
+        return is_true(formula, {number: TRUE_WORDS[self.state_of(number)] for number in words_by_job(formula)})
+
+    def is_ready(self, number):
+        """Whether a job waits to be told."""
+        if self.stands(number) != "untold" or number in self.held_numbers:
+            return False
+        after = self.comers[number].after
+        return after is None or self.is_true_now(after)
+
+    def entries(self):
+        """The entries of the ready jobs, ascending."""
+        found = []
+        for number in sorted(self.bids):
+            if self.is_ready(number):
+                job = self.comers[number]
+                found.append((number, self.arrivals[number], job.size, job.grade, job.account))
+        return tuple(found)
+
+    def row(self):
+        """The numbers of the ready jobs, ranked."""
+        entries = self.entries()
+        # One job alone need not be ranked.
+        if len(entries) < 2:
+            return tuple([entry[0] for entry in entries])
+        now = self.table.clock
+        return ranked(self.rules.score_weights, entries, now, self.used.fair_order(now // self.rules.cycle))
+
+    def settle(self):
+        """Settle at the present tick; tell the events."""
+        found = self._settle_table(())
+        while True:
+            is_full = len(self.table.told_keys) >= self.rules.most_told and not self.rules.is_filling
+            events = self._settle_table(() if is_full else self.row())
+            if not events:
+                return found
+            found.extend(events)
+
+    def wait(self, ticks):
+        """Let time pass; tell the events."""
+        end, many, found = self.table.clock + ticks, 0, []
+        while self.table.clock < end:
+            tick, many = self._next_settling(end), many + 1
+            if many > MOST_SETTLINGS:
+                raise TooMany(MOST_SETTLINGS)
+            if tick > MAX_TICK:
+                raise TooMany(MAX_TICK)
+            self.used = with_run_uses(self, tick)
+            self.table.clock = tick
+            found.extend(self.settle())
+        return found
+
+    def end_run(self, number, state):
+        """Let a run, or a job that waits, be over; tell the event."""
+        if number in self.table.ground.stays:
+            self.table.end_early(number)
+        return self._be_over(number, state)
+
+    def put_back(self, numbers):
+        """Let runs that have lost their places stand untold; tell the events."""
+        for number in numbers:
+            del self.begun_at[number]
+        return [(self.table.clock, "back", number) for number in numbers]
+
+    def run_at(self, number, place):
+        """Let a job have begun; tell the event."""
+        self.states[number] = "begun"
+        self.begun_at[number] = place[0]
+        return (self.table.clock, "began", number, place)
+
+    def _settle_table(self, numbers):
+        """Settle the board with some jobs that wait; tell the events but those of jobs that never start."""
+        rows = [(number, self.bids[number], self.comers[number].limit) for number in numbers]
+        found = []
+        for event in self.table.settle(self.table.clock, rows):
+            word, number = event[0], event[1]
+            if word == "ended":
+                found.append(self._be_over(number, "late"))
+            elif word == "began":
+                found.append(self.run_at(number, event[2]))
+            elif word != "never":
+                found.append((self.table.clock,) + event)
+        return found
+
+    def _be_over(self, number, state):
+        """Let a job that is no longer on the board be over; tell the event."""
+        self.states[number] = state
+        del self.bids[number]
+        self.held_numbers.pop(number, None)
+        return (self.table.clock, "ended", number, state)
+
+    def _next_settling(self, end):
+        """The next tick up to an end at which a run, a shut span or a window ends or a told job starts, or this end."""
+        now, ground = self.table.clock, self.table.ground
+        ticks = [end] + [tick for _, _, tick in ground.span_rows if tick is not None and tick > now]
+        change = self.table.next_change()
+        if change is not None:
+            ticks.append(change)
+        ticks.extend([ground.next_turn_end(begin, length, now) for _, begin, length in ground.turn_rows])
+        return min(ticks)
