@@ -4,6 +4,8 @@ from toldstarts.plan.places import earliest_place
 
 
 class PlainBoard:
+    most_moves = 1000
+
     def __init__(self, yard, depth=5, fill=False):
         self.yard, self.now, self.depth, self.fill = yard, 0, depth, fill
         self.runs, self.told, self.failed, self.is_settled = [], [], {}, True
@@ -84,7 +86,7 @@ class PlainBoard:
                     self.put(key, ask, length)
                     events.append(("drawn", key, place[0], other[0]))
                     moved = True
-                    if len(events) == 1000:
+                    if len(events) == self.most_moves:
                         self.is_settled = False
                         return events
         return events

@@ -310,6 +310,40 @@ class Form(Case):
         self.assertEqual(properties & (methods | stored), set())
         self.assertEqual(properties & BUILTIN_METHODS, set())
 
+    def test_names_of_attributes(self):
+        """No attribute has the name of a method; the document itself gives one to `Lacking`."""
+        own = set([node.name for _, made in all_nodes(ast.ClassDef) for node in made.body if isinstance(node, ast.FunctionDef)])
+        stored = set([node.attr for _, node in all_nodes(ast.Attribute) if isinstance(node.ctx, ast.Store)])
+        self.assertEqual(stored & (own | BUILTIN_METHODS), {"lacks"})
+        read = set([node.attr for _, node in all_nodes(ast.Attribute) if isinstance(node.ctx, ast.Load)])
+        self.assertEqual(read - stored - own - BUILTIN_METHODS, set())
+
+    def test_exits_only_give_back(self):
+        """What `with` runs behind its block only gives back what was kept."""
+        for path, node in all_nodes(ast.FunctionDef):
+            if node.name == "__exit__":
+                self.assertEqual([ast.unparse(arg) for arg in node.args.args[1:]], ["kind", "value", "trace"])
+                self.assertRegex(ast.unparse(node.body[0]), r"^[a-z]+ = self[.][a-z_]+$")
+                for row in node.body[1:]:
+                    self.assertRegex(ast.unparse(row), r"^[a-z]+[.][a-z_]+ = self[.][a-z_]+$")
+        for path, node in all_nodes(ast.With):
+            self.assertIsInstance(node.items[0].context_expr, ast.Call, path)
+
+    def test_views_are_iterated(self):
+        """Items, keys and values of dicts stand where something goes over them."""
+        for path, tree in trees():
+            fine = set()
+            for node in ast.walk(tree):
+                if isinstance(node, (ast.For, ast.comprehension)):
+                    fine.add(id(node.iter))
+                if isinstance(node, ast.Call) and ast.unparse(node.func) in ("list", "tuple", "dict", "sorted", "sum", "any", "all", "enumerate", "zip"):
+                    fine.update([id(arg) for arg in node.args[:1]])
+            for node in ast.walk(tree):
+                if isinstance(node, ast.Call) and isinstance(node.func, ast.Attribute) and node.func.attr in ("items", "keys", "values"):
+                    self.assertIn(id(node), fine, (path, node.lineno))
+                if isinstance(node, ast.Call) and ast.unparse(node.func) in ("zip", "enumerate", "reversed"):
+                    self.assertIn(id(node), fine, (path, node.lineno))
+
     def test_properties_and_operators_change_nothing(self):
         """What they run directly stores no attribute and no item but those of a local dict that it creates."""
         for path, node in all_nodes(ast.FunctionDef):

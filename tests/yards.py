@@ -156,6 +156,14 @@ def some_ask(chance):
                   for _ in range(chance.choice((1, 1, 1, 2, 3)))])
 
 
+def fair_ask(chance, yard):
+    """An ask that mostly has a place in an empty yard with the same machines."""
+    ask, empty = some_ask(chance), Yard(yard.machines, yard.amounts)
+    while chance.random() < 0.9 and not all_places_at(empty, ask, 1, 0):
+        ask = some_ask(chance)
+    return ask
+
+
 def some_yard(chance, most=8, machines=4):
     """Any small yard with a few places, shut spans and windows."""
     yard = Yard(some_machines(chance, machines), chance.choice((NOTHING, some(lic=2), some(lic=1, seat=1))), period=chance.choice((1, 3, 5, 8)))

@@ -26,11 +26,11 @@ class Spans:
 
     def house_span(self, kind, number, begin, end):
         """The last span with too little of a kind in the house that meets the ticks from begin up to end, or None."""
-        return _last_meeting(self._rows(self.ground.house_shifts.get(kind), number), begin, end)
+        return _last_meeting(self._spans_of(self.ground.house_shifts.get(kind), number), begin, end)
 
     def machine_span(self, machine, kind, number, begin, end):
         """Such a span of a machine."""
-        return _last_meeting(self._rows(self.ground.layout.shifts[machine].get(kind), number), begin, end)
+        return _last_meeting(self._spans_of(self.ground.layout.shifts[machine].get(kind), number), begin, end)
 
     def shut_span(self, machine, begin, end):
         """The last span of ticks that meets those from begin up to end, and in which a machine is shut; or None."""
@@ -41,7 +41,7 @@ class Spans:
         reach = shutter.reach(first)
         return (first, ENDLESS if reach is None else reach - 1)
 
-    def _rows(self, shift, number):
+    def _spans_of(self, shift, number):
         """The first and the last ticks of all spans in which a field has less than a number, behind a span of none."""
         if (shift, number) not in self.known:
             self.known[(shift, number)] = _spans_below(self.ground, shift, number)

@@ -19,7 +19,7 @@ class Letting:
         self.ground = ground
         self.bid = bid
         self.tick = tick
-        self.end = tick + length
+        self.end_tick = tick + length
         self.all_keys = keys
         self.keys_by_bit = {1 << at: key for at, key in enumerate(reversed(keys))}
         self.full = (1 << len(keys)) - 1
@@ -44,14 +44,14 @@ class Letting:
                 given = sum([held for bit, held in goers if bit & some])
                 tops = tops & self.bid.tops_at(base + given)
             fits = self.bid.fits_of(tops)
-            fits = fits - (fits & (self.ground.shut_mask(self.tick, self.end) * self.bid.repeat))
+            fits = fits - (fits & (self.ground.shut_mask(self.tick, self.end_tick) * self.bid.repeat))
             self.known[some] = len(self.bid.open_doors(tops, fits)) > 0
         return self.known[some]
 
     def greatest_from(self, some):
         """A set that has all of a set that does not let the ask start, does not do so either, and cannot have more."""
         found = some
-        for bit in self.keys_by_bit:
+        for bit in list(self.keys_by_bit):
             if not found & bit and not self.lets(found | bit):
                 found = found | bit
         return found
@@ -108,7 +108,7 @@ class Letting:
         ticks = self.ground.ticks
         found = [self.tick] + ticks[place_of(ticks, self.tick) + 1:]
         found.extend([self.ground.end_of(key) for key in self.all_keys])
-        return sorted(set([begin for begin in found if begin < self.end]))
+        return sorted(set([begin for begin in found if begin < self.end_tick]))
 
 
 def is_part_of(some, others):

@@ -164,10 +164,14 @@ def new_ground(machines, amounts, cycle):
 
 def check_looked(ground, since):
     """Refuse to look at more than the most ticks behind a tick and up to the horizon."""
+    if not are_surely_few(ground, since) and _looked_ticks(ground, since) > MOST_LOOKED:
+        raise TooMany(MOST_LOOKED)
+
+
+def are_surely_few(ground, since):
+    """Whether there are surely not more ticks to be looked at than the most; so it is with fewer places, too."""
     turns = (ground.horizon(since) - since) // ground.cycle + 1
-    if turns * len(ground.turn_rows) + len(ground.stays) + len(ground.span_rows) > MOST_LOOKED:
-        if _looked_ticks(ground, since) > MOST_LOOKED:
-            raise TooMany(MOST_LOOKED)
+    return turns * len(ground.turn_rows) + len(ground.stays) + len(ground.span_rows) <= MOST_LOOKED
 
 
 def _looked_ticks(ground, since):

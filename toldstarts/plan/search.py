@@ -14,18 +14,20 @@ def first_place(ground, bid, length, since, end):
     """
     walk = Walk(ground, bid, length, since)
     has_windows = len(ground.turn_rows) > 0
-    last = min(end, ground.horizon(since))
+    last, failed = min(end, ground.horizon(since)), 0
     while walk.start_tick < last:
         tops = walk.tops_here()
         begin, stop = walk.start_tick, walk.step(last, has_windows)
-        fits = bid.fits_of(tops)
-        doors = bid.open_doors(tops, fits)
-        if doors and not has_windows:
-            return (begin, doors[0], bid.choice_at(doors[0], fits))
-        if doors:
-            found = _first_beside_windows(ground, bid, length, (begin, stop), doors, fits)
-            if found is not None:
-                return found
+        # Where no more is free than where no door was open, none is open either.
+        if tops & failed != tops:
+            fits = bid.fits_of(tops)
+            doors = bid.open_doors(tops, fits)
+            if doors:
+                found = _first_beside_windows(ground, bid, length, (begin, stop), doors, fits)
+                if found is not None:
+                    return found
+            else:
+                failed = tops
     return None
 
 
@@ -115,6 +117,8 @@ def _turned(rows, tops):
 
 def _first_beside_windows(ground, bid, length, region, doors, fits):
     """The earliest place in a region of which some doors are open while no window is there, or None."""
+    if not ground.turn_rows:
+        return (region[0], doors[0], bid.choice_at(doors[0], fits))
     seen = {}
     for start in _starts(ground, region):
         some = _open_fits(ground, bid, length, start, fits)

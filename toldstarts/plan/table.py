@@ -6,7 +6,7 @@ What comes in here is surely right. A job is told by its key, its bid and its le
 from toldstarts.errors import Refused, TooMany
 from toldstarts.plan.asks import members_of
 from toldstarts.plan.bars import bars_from
-from toldstarts.plan.ground import check_looked
+from toldstarts.plan.ground import are_surely_few, check_looked
 from toldstarts.plan.search import earliest_at_all, first_place, place_at
 
 MOST_STAYS = 200
@@ -71,7 +71,7 @@ class Table:
         while self._begin_due(events):
             self._tell(left, events)
         if self.is_filling:
-            self._fill(left, events)
+            self._begin_at_once(left, events)
         return tuple(events)
 
     def end_early(self, key):
@@ -155,9 +155,12 @@ class Table:
 
     def _draw(self, events):
         """Draw the told jobs together."""
-        if self.is_tight:
-            return
-        self.is_drawn = self.is_tight = self._draw_up_to(MOST_MOVES, events)
+        if not self.is_tight:
+            self.is_drawn = self.is_tight = self._draw_up_to(MOST_MOVES, events)
+        elif not are_surely_few(self.ground, self.clock):
+            # Nobody moves, but all are looked at.
+            for key in list(self.told_keys):
+                check_looked(self.ground.without_stay(key), self.clock)
 
     def _draw_up_to(self, most, events):
         """Draw together with fewer moves than the most, and tell whether they were enough."""
@@ -204,7 +207,7 @@ class Table:
             events.append(("began", key, self.ground.stays[key][0]))
         return len(due) > 0
 
-    def _fill(self, left, events):
+    def _begin_at_once(self, left, events):
         """Let those of the row begin that can do so at once."""
         for key, bid, length in left:
             check_looked(self.ground, self.clock)

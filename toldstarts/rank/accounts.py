@@ -38,7 +38,7 @@ class Accounts:
     @property
     def levels(self):
         """The greatest number of accounts one below the other."""
-        return max([len(line) for line in self._tree.lines.values()])
+        return max([len(line) for line in self._tree.account_lines.values()])
 
     def with_use(self, name, period, area):
         """The accounts with an area more for an account and a period."""
@@ -56,7 +56,7 @@ class Accounts:
         made._tree = self._tree
         made._newest = max([self._newest] + list(areas))
         made._areas = {other: self._areas[other] for other in self._areas}
-        for one in self._tree.lines[name]:
+        for one in self._tree.account_lines[name]:
             kept = self._kept_areas(one, made._newest)
             for period in areas:
                 kept[period] = kept.get(period, 0) + areas[period]
@@ -112,7 +112,7 @@ class Accounts:
     def line(self, name):
         """The names from an account up to its root."""
         self._check_name(name)
-        return self._tree.lines[name]
+        return self._tree.account_lines[name]
 
     def children_of(self, name):
         """The names of the children of an account, or of the roots, ascending."""

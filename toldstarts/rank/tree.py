@@ -20,7 +20,7 @@ class Tree:
         for name, parent, _ in ascending:
             below[parent].append(name)
         self.below = below
-        self.lines = {name: line_of(self.parents, name) for name in self.parents}
+        self.account_lines = {name: line_of(self.parents, name) for name in self.parents}
         factors = {}
         for names in below.values():
             whole = 1
@@ -34,7 +34,7 @@ class Tree:
     def fraction(self, name):
         """The fraction of an account, in lowest terms."""
         over, under = 1, 1
-        for one in self.lines[name]:
+        for one in self.account_lines[name]:
             over = over * self.shares[one]
             under = under * sum([self.shares[other] for other in self.below[self.parents[one]]])
         common = gcd(over, under)

@@ -20,7 +20,7 @@ class Graph:
         # For each stand the numbers of the next ones, by the sets of enders that have ended early.
         self.next_rows = []
         self.numbers_by_stand = {}
-        self.is_whole = False
+        self.is_explored = False
         self._number_of(settler.settled(((), (), keys)))
 
     def next_number(self, number, early):
@@ -38,20 +38,20 @@ class Graph:
     def explore(self):
         """Look at all stands, if there are not too many."""
         number = 0
-        while not self.is_whole:
+        while not self.is_explored:
             for early in range(len(self.next_rows[number])):
                 self.next_number(number, early)
                 if len(self.stand_rows) > MOST_STANDS:
                     raise TooMany(MOST_STANDS)
             number = number + 1
-            self.is_whole = number == len(self.stand_rows)
+            self.is_explored = number == len(self.stand_rows)
 
     def waiting(self, number):
         """The keys of the jobs that wait in a stand, ascending."""
         _, told, left = self.stand_rows[number]
         return sorted([row[0] for row in told] + list(left))
 
-    def running(self, number):
+    def runs_in(self, number):
         """For each run of a stand for how many ticks it has run."""
         return {key: ran for key, ran, _, _ in self.stand_rows[number][0]}
 
@@ -69,18 +69,18 @@ class Graph:
 def starts_in(graph, lengths):
     """The ticks at which the jobs begin whose true lengths are told by their keys."""
     number, tick = 0, 0
-    starts = {key: 0 for key in graph.running(0)}
+    starts = {key: 0 for key in graph.runs_in(0)}
     while len(starts) < len(lengths):
         early = sum([1 << at for at, (key, ran) in enumerate(graph.enders[number]) if ran + 1 == lengths[key]])
         number, tick = graph.next_number(number, early), tick + 1
-        for key, ran in graph.running(number).items():
+        for key, ran in graph.runs_in(number).items():
             if ran == 0:
                 starts[key] = tick
     return starts
 
 
 def least_bounds(graph):
-    """For each stand of a whole graph the least bounds of the jobs that wait in it, by their keys."""
+    """For each stand of an explored graph the least bounds of the jobs that wait in it, by their keys."""
     bounds = [None] * len(graph.stand_rows)
     for number in range(len(bounds)):
         _find_bounds(graph, bounds, number)

@@ -217,7 +217,7 @@ def _shut(inside, deed):
     return []
 
 
-def _open(inside, deed):
+def _reopen(inside, deed):
     """Shut spans of machines are taken away."""
     _, names, begin, end = deed
     spans = [(_machine_of(inside, name), begin, end) for name in names]
@@ -275,6 +275,6 @@ ACTIONS = {
     "fail": _fail,
     "mend": _mend,
     "shut": _shut,
-    "open": _open,
+    "open": _reopen,
     "wait": _wait,
 }
