@@ -20,6 +20,9 @@ JOBS = ((1, HALF, 4), (2, HALF, 3), (3, FULL, 4), (4, HALF, 1))
 PAIR = Yard((Machine("m", some(core=2)),))
 ORDER, FIRST, LINED = Lineup(PAIR, JOBS, depth=1), Lineup(PAIR, JOBS, depth=1, fill=True), Lineup(PAIR, JOBS)
 END = ((), (), ())
+# Jobs with which the lengths themselves do not reach the latest starts.
+LATE = (((HALF, HALF, FULL, HALF), (2, 4, 1, 2)), ((HALF, HALF, FULL, HALF), (3, 2, 2, 1)), ((HALF, FULL, HALF, HALF), (4, 1, 2, 2)),
+        ((HALF, FULL, HALF, HALF), (4, 3, 2, 1)), ((HALF, HALF, FULL, HALF), (4, 2, 3, 2)))
 
 
 class Plain:
@@ -113,7 +116,7 @@ def some_lineup(chance):
         yard = Yard(some_machines(chance, 3), chance.choice((NOTHING, some(lic=2), some(lic=1, seat=1))), period=chance.choice((1, 4)))
         jobs = [(key, fair_ask(chance, yard), chance.choice((1, 2, 3))) for key in chance.sample(range(20), chance.randrange(1, 5))]
     try:
-        return Lineup(yard, tuple(jobs), depth=chance.choice((1, 1, 1, 2, 5)), fill=chance.random() < 0.6)
+        return Lineup(yard, tuple(jobs), depth=chance.choice((1, 1, 1, 2, 5)), fill=chance.random() < 0.75)
     except Refused:
         return some_lineup(chance)
 
@@ -176,11 +179,12 @@ class Against(Case):
 
     def test_against_plain_boards(self):
         chance, found = random.Random(131), [0, 0, 0]
+        late = [Lineup(PAIR, tuple([(key, ask, length) for key, (ask, length) in enumerate(zip(asks, lengths))]), depth=1, fill=True) for asks, lengths in LATE]
         for at in range(500):
-            lineup = some_lineup(chance)
+            lineup = late[at] if at < len(late) else some_lineup(chance)
             full = tuple([length for _, _, length in lineup.jobs])
             # Of the plain ones only some are looked at.
-            if at % 10 and puts_off(lineup) is None and latest_starts(lineup) == starts_by(lineup, full):
+            if at % 20 and puts_off(lineup) is None and latest_starts(lineup) == starts_by(lineup, full):
                 continue
             plain = Plain(lineup)
             for lengths, starts in plain.starts.items():
