@@ -304,7 +304,7 @@ def some_after(chance, many):
 
 
 def some_job(chance, many):
-    groups = tuple([(chance.choice((1, 1, 1, 2)), chance.choice((ALL, ALL, ALL, BIG)), chance.choice((some(core=1), some(core=2), some(core=2), some(core=4), some(mem=1))))
+    groups = tuple([(chance.choice((1, 1, 1, 1, 2)), chance.choice((ALL, ALL, ALL, ALL, BIG)), chance.choice((some(core=1), some(core=2), some(core=2), some(core=4), some(mem=1))))
                     for _ in range(chance.choice((1, 1, 1, 2)))])
     return Job(chance.choice(("sim", "fit")), account=chance.choice(("lab", "team", "web", "web")), person=chance.choice(("ada", "bob")),
                doors=chance.choice((("day",), ("night",), ("day", "night"), ("night", "day"), ("night", "day"))), groups=groups,
@@ -331,8 +331,9 @@ def some_deed(chance, house):
     if dice < 0.68:
         return ("leave", number)
     if dice < 0.83:
-        pool = house.told + house.untold if chance.random() < 0.9 else ()
-        return (chance.choice(("hold", "let", "raise", "take", "take")), chance.choice(pool or (number,)))
+        word = chance.choice(("hold", "let", "raise", "take", "take"))
+        pool = {"hold": house.told + house.untold, "let": house.held}.get(word, house.told + house.row())
+        return (word, chance.choice(pool if pool and chance.random() < 0.9 else (number,)))
     if dice < 0.9:
         return (chance.choice(("fail", "mend", "mend")), chance.choice(names))
     if dice < 0.96 or not house.yard.shut_spans:

@@ -40,3 +40,14 @@ def no_integers(low, high):
 
 
 NO_TICKS = no_integers(0, 1000000)
+
+# What is no ask, and what has not the form of a place for an ask of two of two machines.
+CORES = some(core=2)
+WANT = (((2, ALL, CORES),), Amounts())
+NO_ASKS = [value for value in EVERY if value != ASK] + [
+    (WANT,) * 5, [WANT], (WANT, None), (WANT + (1,),), (WANT[:1],), (list(WANT),), ((WANT[0], None),), (((), Amounts()),), ((((0, ALL, CORES),), Amounts()),),
+    ((((True, ALL, CORES),), Amounts()),), ((((1, "all", CORES),), Amounts()),), ((((1, ALL, CORES),) * 7, Amounts()),), ((((41, ALL, CORES),), Amounts()),)]
+NO_PLACES = [value for value in EVERY if value != (0, 0, ((0, 1),))] + [
+    (0, 0, ((0, 1),), 1), (0, 0), [0, 0, ((0, 1),)], (-1, 0, ((0, 1),)), (10 ** 9 + 1, 0, ((0, 1),)), (False, 0, ((0, 1),)), (0, False, ((0, 1),)),
+    (0, 1, ((0, 1),)), (0, -1, ((0, 1),)), (0, 0, ((1, 0),)), (0, 0, ((0, 0),)), (0, 0, ((0,),)), (0, 0, ((0, 2),)), (0, 0, ((-1, 0),)), (0, 0, ((0, True),)),
+    (0, 0, ((0, 1), ())), (0, 0, ()), (0, 0, [(0, 1)]), (0, 0, ([0, 1],)), (0, 0, (0, 1)), (None, 0, ((0, 1),)), ("0", 0, ((0, 1),)), (0, 0, ((0, 10 ** 70),))]

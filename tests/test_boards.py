@@ -12,7 +12,7 @@ from toldstarts.plan.places import Yard, earliest_place, is_place_bars
 from toldstarts.plan.told import Board, starts_of
 from boards import PlainBoard
 from helper import Case, some
-from odd import EVERY, NO_TICKS, all_but, no_integers
+from odd import EVERY, NO_ASKS, NO_TICKS, all_but, no_integers
 from yards import fair_ask, group, is_plain_bars, some_yard, want
 
 CORES = some(core=2)
@@ -27,12 +27,6 @@ def begun():
     board = Board(YARD, depth=2)
     board.settle(0, ROW)
     return board
-
-
-def no_asks():
-    wrong = [value for value in EVERY if not (isinstance(value, tuple) and value and isinstance(value[0], tuple) and len(value[0]) == 2 and isinstance(value[0][1], Amounts)
-                                              and isinstance(value[0][0], tuple) and value[0][0] and isinstance(value[0][0][0], tuple))]
-    return wrong + [BOTH * 5, list(BOTH), (BOTH[0] + (1,),), (((), some()),)]
 
 
 class Making(Case):
@@ -155,7 +149,7 @@ class Settling(Case):
                 self.refused(InvalidJob, board.settle, 0, ((value, ONE, 5),))
             if not isinstance(value, int) or isinstance(value, bool) or not 1 <= value <= 10 ** 6:
                 self.refused(InvalidJob, board.settle, 0, ((9, ONE, value),))
-        for value in no_asks():
+        for value in NO_ASKS:
             self.refused(InvalidJob, board.settle, 0, ((9, value, 5),))
         for row in (((9, ONE, 5), (9, BOTH, 4)), ((1, ONE, 5),), ((8, ONE, 5), (2, ONE, 5)), ((9, ONE),), ((9, ONE, 5, 1),), ([9, ONE, 5],), [(9, ONE, 5)]):
             self.refused(InvalidJob, board.settle, 0, row)
@@ -293,7 +287,7 @@ class Changes(Case):
         for call in (board.raised, board.begin):
             for value in no_integers(0, 10 ** 6):
                 self.assertIs(self.refused(InvalidNumber, call, value, None, 0).given, value)
-            for value in no_asks():
+            for value in NO_ASKS:
                 self.refused(InvalidJob, call, 2, value, 0)
                 self.refused(InvalidJob, call, 1, value, 0)
                 self.refused(InvalidJob, call, 9, value, 0)

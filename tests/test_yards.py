@@ -11,7 +11,7 @@ from toldstarts.plan import asks, ground, places as module, table
 from toldstarts.plan.places import Yard, earliest_place, is_place, is_place_bars, place_bars
 from toldstarts.room.rooms import Room
 from helper import Case, some
-from odd import EVERY, NO_TICKS, all_but, no_integers
+from odd import EVERY, NO_ASKS, NO_PLACES, NO_TICKS, all_but, no_integers
 from yards import ALL, BIG, NOTHING, all_places_at, free_of, free_of_house, group, is_open, is_plain_bars, plain_earliest, plain_head
 from yards import fair_ask, some_ask, some_yard, want
 
@@ -119,24 +119,13 @@ class Placing(Case):
             self.assertIs(self.refused(InvalidNumber, yard.with_place, key, None, 0, None).given, key)
         for length in no_integers(1, 10 ** 6):
             self.assertIs(self.refused(InvalidNumber, yard.with_place, 7, None, length, None).given, length)
-        for ask in self.no_asks():
+        for ask in NO_ASKS:
             self.refused(InvalidJob, yard.with_place, 7, None, 5, ask)
-        for value in self.no_places():
+        for value in NO_PLACES:
             self.refused(InvalidChoice, yard.with_place, 7, value, 5, BOTH)
         self.assertEqual(self.refused(Refused, yard.with_place, 7, place, 5, BOTH).reason, ("taken", 7))
         self.assertEqual(self.refused(Refused, yard.with_place, 8, place, 5, BOTH).reason, ("unfit", 8))
         self.assertEqual(yard, FIRST)
-
-    def no_asks(self):
-        wrong = [value for value in EVERY if value != BOTH and not (isinstance(value, tuple) and value and value[0] == (((1, ALL, some(core=1)),), NOTHING))]
-        return wrong + [BOTH * 5, list(BOTH), BOTH + (None,), (BOTH[0] + (1,),), (BOTH[0][:1],), (list(BOTH[0]),), ((BOTH[0][0], None),), (((), NOTHING),),
-                        ((((0, ALL, CORES),), NOTHING),), ((((True, ALL, CORES),), NOTHING),), ((((1, "all", CORES),), NOTHING),), ((((1, ALL, CORES),) * 7, NOTHING),)]
-
-    def no_places(self):
-        return [value for value in EVERY if value != (0, 0, ((0,),))] + [
-            (0, 0, ((0, 1),), 1), (0, 0), [0, 0, ((0, 1),)], (-1, 0, ((0, 1),)), (10 ** 9 + 1, 0, ((0, 1),)), (False, 0, ((0, 1),)), (0, False, ((0, 1),)),
-            (0, 1, ((0, 1),)), (0, -1, ((0, 1),)), (0, 0, ((1, 0),)), (0, 0, ((0, 0),)), (0, 0, ((0,),)), (0, 0, ((0, 2),)), (0, 0, ((-1, 0),)), (0, 0, ((0, True),)),
-            (0, 0, ((0, 1), ())), (0, 0, ()), (0, 0, [(0, 1)]), (0, 0, ([0, 1],)), (0, 0, (0, 1)), (None, 0, ((0, 1),)), ("0", 0, ((0, 1),)), (0, 0, ((0, 10 ** 70),))]
 
     def test_no_machine_twice(self):
         ask = (want(group(), group()),)
@@ -409,7 +398,7 @@ class Searching(Case):
             for call in calls:
                 self.refused(InvalidHouse, call, yard, None, None, None)
             self.refused(InvalidHouse, is_place, yard, None, None, None)
-        for ask in Placing.no_asks(self):
+        for ask in NO_ASKS:
             for call in calls:
                 self.refused(InvalidJob, call, YARD, ask, None, None)
             self.refused(InvalidJob, is_place, YARD, ask, None, None)
@@ -420,7 +409,7 @@ class Searching(Case):
         for tick in NO_TICKS:
             for call in calls:
                 self.refused(InvalidTick, call, YARD, BOTH, 1, tick)
-        for value in Placing.no_places(self):
+        for value in NO_PLACES:
             self.assertIs(is_place(YARD, BOTH, 5, value), False)
 
     def test_more_and_fewer_places(self):
