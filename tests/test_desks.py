@@ -281,7 +281,7 @@ class Plain(Case):
         old, pledges = self.states[self.at]
         try:
             log = make(old)
-        except (Refused, UnknownName, TooMany) as error:
+        except (Refused, UnknownName, TooMany, InvalidDeed) as error:
             self.assertEqual(vars(self.refused(type(error), change)), vars(error))
             return "refused"
         wrong = [pledge for pledge in pledges if not holds(log, pledge)]

@@ -5,18 +5,26 @@ import inspect
 
 from toldstarts.base.amounts import Amounts
 from toldstarts.base.ticks import text_of_ticks, ticks_of
-from toldstarts.errors import Lacking, ParseError
+from toldstarts.errors import Lacking, ParseError, Refused
 from toldstarts.house.choices import best_choice, fitting, is_short_set, short_set
 from toldstarts.house.formulas import plain_form, read_formula, write_formula
 from toldstarts.house.machines import Machine, fold_names, unfold_names
 from toldstarts.jobs.jobs import Job
 from toldstarts.jobs.likes import Row, fold_indices, fold_states, unfold_indices
 from toldstarts.jobs.reader import read_job, write_job
+from toldstarts.plan.limits import Doors, Limits, broken_limits, least_broken
+from toldstarts.plan.places import Yard, earliest_place, is_place_bars
+from toldstarts.plan.taking import candidates, ending_sets, is_taking_paper, least_taken, taking_cost
+from toldstarts.plan.told import Board, starts_of
 from toldstarts.rank.accounts import Accounts
 from toldstarts.rank.scores import Weights, order_turns, ranked, score
 from toldstarts.room.rooms import Room
+from toldstarts.sure.lineups import Lineup, bound_table, is_lengths_to, is_puts_off, latest_starts, puts_off, starts_by
 from toldstarts.wait.formulas import jobs_named, lost_tree, may_come, parting_row, read_after, sure, true_now, write_after
 from toldstarts.wait.stuck import stuck_set
+from toldstarts.work.desk import Desk
+from toldstarts.work.house import House
+from toldstarts.work.log import Log, write_log
 from helper import Case
 
 # For each module its functions with their parameters, and its classes with the methods that the document lists.
@@ -37,6 +45,21 @@ FUNCTIONS = {
         "score(weights, entry, tick, order)", "ranked(weights, entries, tick, order)",
         "order_turns(weights, entries, accounts, tick, length)",
         "is_order_turns(weights, entries, accounts, tick, length, value)"),
+    "toldstarts.plan.limits": (
+        "broken_limits(limits, room, job, door, tick)", "least_broken(limits, doors, room, job, tick)",
+        "is_least_broken(limits, doors, room, job, tick, value)"),
+    "toldstarts.plan.places": (
+        "earliest_place(yard, ask, length, since)", "place_bars(yard, ask, length, since)", "is_place(yard, ask, length, value)",
+        "is_place_bars(yard, ask, length, since, value)"),
+    "toldstarts.plan.told": ("starts_of(yard, waiting, *, depth=5, fill=False)",),
+    "toldstarts.sure.lineups": (
+        "starts_by(lineup, lengths)", "latest_starts(lineup)", "lengths_to(lineup, key)", "is_lengths_to(lineup, key, value)",
+        "bound_table(lineup)", "is_bound_table(lineup, value)", "puts_off(lineup)", "is_puts_off(lineup, value)"),
+    "toldstarts.plan.taking": (
+        "taking_cost(yard, tick, key)", "candidates(yard, tick, runs, grade)", "least_taken(yard, ask, length, tick, runs, grade)",
+        "taking_paper(yard, ask, length, tick, runs, grade)", "is_taking_paper(yard, ask, length, tick, runs, grade, value)",
+        "ending_sets(yard, ask, length, tick, runs)", "is_ending_sets(yard, ask, length, tick, runs, value)"),
+    "toldstarts.work.log": ("write_log(log)", "read_log(text)"),
     "toldstarts.wait.stuck": ("stuck_set(wishes, known)", "is_stuck_set(wishes, known, value)"),
     "toldstarts.wait.fates": ("is_state(value)", "ends_of(state)", "atoms_of(state)", "may_follow(one, other)"),
     "toldstarts.wait.formulas": (
@@ -44,7 +67,35 @@ FUNCTIONS = {
         "may_come(f, known, *, held=())", "sure(f, known)", "parting_row(f, g)", "lost_tree(f, known, *, held=())",
         "is_lost_tree(f, known, value, *, held=())"),
 }
+# What has more than one class of the document.
+MORE_CLASSES = (
+    ("toldstarts.plan.limits", "Limits", "(accounts, rows=())", (
+        "accounts", "rows", "amounts", "need", "covering", "beyond", "house_amounts", "ask", "__len__", "__eq__", "__str__")),
+)
 CLASSES = {
+    "toldstarts.plan.limits": ("Doors", "(rows)", (
+        "names", "longest", "usable", "__len__", "__contains__", "__iter__", "__eq__", "__str__")),
+    "toldstarts.plan.places": ("Yard", "(machines, amounts=None, *, period=1)", (
+        "machines", "amounts", "period", "head", "shut_spans", "windows", "places", "with_place", "without_place", "with_shut",
+        "without_shut", "with_window", "without_window", "free", "house_room", "with_more", "__contains__", "__len__",
+        "__iter__", "__eq__", "__str__")),
+    "toldstarts.plan.told": ("Board", "(yard, *, depth=5, fill=False)", (
+        "yard", "now", "depth", "fill", "runs", "told", "starts", "is_settled", "next_tick", "settle", "end", "leave", "shut",
+        "lift", "fail", "mend", "raised", "begin", "earlier", "bars", "more", "twin", "__contains__", "__len__", "__eq__",
+        "__str__")),
+    "toldstarts.sure.lineups": ("Lineup", "(yard, jobs, *, depth=5, fill=False)", (
+        "yard", "jobs", "depth", "fill", "stand", "next_stand", "__len__", "__eq__", "__str__")),
+    "toldstarts.work.house": (
+        "House", "(machines, tokens, doors, limits, weights, depth=5, fill=False, period=100, windows=())", (
+            "do", "setting", "twin", "now", "deeds", "runs", "untold", "held", "told", "told_starts", "is_settled", "yard",
+            "rows", "accounts", "row", "job", "state", "stands", "lines", "later_rows", "earlier", "bars", "why",
+            "__contains__", "__len__", "__eq__", "__str__")),
+    "toldstarts.work.log": ("Log", "(setting, deeds=())", (
+        "setting", "deeds", "events", "house", "with_deed", "until", "edited", "history", "__len__", "__iter__", "__eq__",
+        "__str__")),
+    "toldstarts.work.desk": ("Desk", "(log)", (
+        "do", "edit", "demand", "waive", "undo", "redo", "trial", "during", "twin", "house", "log", "pledges", "__contains__",
+        "__len__", "__eq__", "__str__")),
     "toldstarts.base.amounts": ("Amounts", "(pairs=())", (
         "of_text", "cover_of", "pairs", "kinds", "covers", "lacks", "times", "__getitem__", "__add__", "__sub__",
         "__mul__", "__contains__", "__len__", "__bool__", "__iter__", "__eq__", "__str__")),
@@ -78,7 +129,7 @@ class Interface(Case):
                 self.assertEqual(function.__module__, module)
 
     def test_classes(self):
-        for module, (name, signature, methods) in CLASSES.items():
+        for module, name, signature, methods in MORE_CLASSES + tuple([(module, *rest) for module, rest in CLASSES.items()]):
             made = getattr(importlib.import_module(module), name)
             self.assertEqual(made.__module__, module)
             self.assertEqual(str(inspect.signature(made)), signature)
@@ -188,3 +239,78 @@ class Examples(Case):
         mixed, used = ((1, 0, 0, 0, "lab"), (2, 0, 0, 3, "web")), flat.with_use("lab", 0, 1)
         self.assertEqual([ranked(weights, mixed, 6, used.fair_order(0)), order_turns(weights, mixed, used, 6, 100)],
                          [(2, 1), ((6100, (1, 2)),)])
+
+    def test_limits(self):
+        accounts = Accounts((("lab", "", 1), ("team", "lab", 1)))
+        rows = ((("account", "lab"), "core", 12), (("door", "day"), "jobs", 1), (("door", "night"), "core", 8), (("person", "ada"), "gpu", 2))
+        limits, doors = Limits(accounts, rows), Doors((("day", 100), ("night", 500), ("week", 5000)))
+        job = Job("sim", account="team", person="ada", doors=("day", "night"), groups=((2, ("all",), Amounts((("core", 4),))),), limit=60)
+        self.assertEqual([doors.usable(job), limits.covering(job, "day"), str(limits.house_amounts(job, "night"))], [("day", "night"), (0, 1), "l1 8, l3 8"])
+        room = Room(limits.amounts).with_claim((0, 50, Amounts((("l1", 2), ("l2", 1))))).with_claim((20, 80, Amounts((("l1", 2), ("l3", 1)))))
+        self.assertEqual([broken_limits(limits, room, job, "day", 0), broken_limits(limits, room, job, "night", 0)], [((1, 0),), ((2, 20),)])
+        self.assertEqual([least_broken(limits, doors, room, job, 0), least_broken(limits, doors, room, job, 50)], [(((1,), "day"), ((2,), "night")), (((), "day"),)])
+
+    def test_yards_and_boards(self):
+        cores, every = Amounts((("core", 2),)), ("all",)
+        yard = Yard((Machine("a", Amounts((("core", 4),))), Machine("b", cores)), period=10)
+        both, one = ((((2, every, cores),), Amounts()),), ((((1, every, cores),), Amounts()),)
+        first = yard.with_place(7, earliest_place(yard, both, 5, 0), 5, both)
+        self.assertEqual([first.places[7][0], earliest_place(first, both, 5, 0), earliest_place(first, one, 5, 0), first.head],
+                         [(0, 0, ((0, 1),)), (5, 0, ((0, 1),)), (0, 0, ((0,),)), 5])
+        bars = ((0, 5, (("groups", (0,), ((1, 0, 0, 4, "core"),)),)),)
+        self.assertEqual([is_place_bars(first, both, 5, 0, bars), is_place_bars(first, both, 5, 0, ())], [True, False])
+        shut = yard.with_window(1, 8, 2)
+        self.assertEqual([earliest_place(shut, both, 5, 4), earliest_place(shut, both, 9, 0), shut.free(1, 0, 9)], [(10, 0, ((0, 1),)), None, None])
+        board = Board(yard, depth=2)
+        self.assertEqual(board.settle(0, ((1, both, 5), (2, both, 4), (3, one, 3))),
+                         (("told", 1, 0), ("told", 2, 5), ("began", 1, (0, 0, ((0, 1),))), ("told", 3, 0), ("began", 3, (0, 0, ((0,),)))))
+        self.assertEqual([board.runs, board.starts, board.next_tick, board.earlier(2)], [(1, 3), {2: 5}, 3, None])
+        self.assertEqual([board.settle(3, ()), board.end(1), board.settle(3, ()), board.runs],
+                         [(("ended", 3),), None, (("drawn", 2, 5, 3), ("began", 2, (3, 0, ((0, 1),)))), (2,)])
+        row = ((1, both, 5), (2, both, 4), (3, one, 9))
+        self.assertEqual([starts_of(yard, row, depth=1), starts_of(yard, row, depth=1, fill=True)], [{1: 0, 2: 5, 3: 5}, {1: 0, 2: 5, 3: 0}])
+
+    def test_lineups(self):
+        one, two, every = Amounts((("core", 1),)), Amounts((("core", 2),)), ("all",)
+        half, full = ((((1, every, one),), Amounts()),), ((((1, every, two),), Amounts()),)
+        jobs, pair = ((1, half, 4), (2, half, 3), (3, full, 4), (4, half, 1)), Yard((Machine("m", two),))
+        order, first, deep = Lineup(pair, jobs, depth=1), Lineup(pair, jobs, depth=1, fill=True), Lineup(pair, jobs)
+        self.assertEqual([latest_starts(order), latest_starts(first), latest_starts(deep)], [{1: 0, 2: 0, 3: 4, 4: 8}, {1: 0, 2: 0, 3: 4, 4: 6}, {1: 0, 2: 0, 3: 4, 4: 3}])
+        self.assertEqual([starts_by(first, (4, 2, 4, 1)), starts_by(first, (2, 2, 4, 1)), is_puts_off(first, ((4, 2, 4, 1), (2, 2, 4, 1))), puts_off(deep)],
+                         [{1: 0, 2: 0, 3: 4, 4: 2}, {1: 0, 2: 0, 3: 2, 4: 6}, True, None])
+        self.assertEqual(first.next_stand(first.stand, (2,)), (((1, 1, 0, ((0,),)), (4, 0, 0, ((0,),))), ((3, 3, 0, ((0,),)),), ()))
+        self.assertEqual([is_lengths_to(first, 4, (4, 2, 4, 1)), bound_table(deep)[deep.stand]], [False, ((3, 4), (4, 3))])
+
+    def test_giving_way(self):
+        cores, every = Amounts((("core", 2),)), ("all",)
+        both, one, four = ((((2, every, cores),), Amounts()),), ((((1, every, cores),), Amounts()),), ((((1, every, cores * 2),), Amounts()),)
+        yard = Yard((Machine("a", cores * 2), Machine("b", cores)), period=10)
+        yard = yard.with_place(1, (0, 0, ((0,),)), 8, one).with_place(2, (1, 0, ((1,),)), 5, one)
+        runs = ((1, 0), (2, 1))
+        self.assertEqual([taking_cost(yard, 3, 1), taking_cost(yard, 3, 2), candidates(yard, 3, runs, 1)], [4, 3, (1,)])
+        self.assertEqual([least_taken(yard, both, 5, 3, runs, 2), least_taken(yard, both, 5, 3, runs, 1), least_taken(yard, four, 5, 3, runs, 2)], [(2,), None, (1,)])
+        bars = ((3, 6, (("groups", (0,), ((1, 0, 3, 5, "core"),)),)),)
+        self.assertEqual([is_taking_paper(yard, both, 5, 3, runs, 1, (None, (((1,), bars),))), is_taking_paper(yard, both, 5, 3, runs, 2, ((2,), (((), bars),))),
+                          is_taking_paper(yard, both, 5, 3, runs, 2, ((1, 2), (((1,), bars),)))], [True, True, False])
+        self.assertEqual([ending_sets(yard, both, 5, 3, runs), ending_sets(yard, four, 5, 3, runs), ending_sets(yard, one, 5, 3, runs)], [((2,),), ((1,),), ((),)])
+
+    def test_houses_logs_and_desks(self):
+        amount, accounts = Amounts((("core", 4),)), Accounts((("lab", "", 1),))
+        house = House((Machine("a", amount),), Amounts(), Doors((("day", 100),)), Limits(accounts), Weights(), 2)
+        big = Job("big", account="lab", person="ada", doors=("day",), groups=((1, ("all",), amount),), limit=5)
+        self.assertEqual(house.do(("come", big)), ((0, "came", 1), (0, "told", 1, 0), (0, "began", 1, (0, 0, ((0,),)))))
+        self.assertEqual([house.do(("come", big)), house.do(("come", big.changed(limit=3))), house.do(("come", big)), house.row()],
+                         [((0, "came", 2), (0, "told", 2, 5)), ((0, "came", 3), (0, "told", 3, 10)), ((0, "came", 4),), (4,)])
+        self.assertEqual([house.do(("wait", 2)), house.do(("end", 1, "well"))],
+                         [(), ((2, "ended", 1, "well"), (2, "drawn", 2, 5, 2), (2, "drawn", 3, 10, 7), (2, "began", 2, (2, 0, ((0,),))), (2, "told", 4, 10))])
+        self.assertEqual([house.told_starts, house.accounts.use_of("lab", 0) == 8 * 2 ** 60, str(house)], [{3: 7, 4: 10}, True, "house at 2, 1 runs, 2 told, 0 untold"])
+        self.assertEqual(house.do(("hold", 3)), ((2, "put off", 3, 7, None, 7), (2, "drawn", 4, 10, 7)))
+        setting = ((Machine("a", amount),), Amounts(), Doors((("day", 100),)), Limits(accounts), Weights(), 2, False, 100, ())
+        log = Log(setting, (("come", big), ("come", big), ("wait", 2), ("end", 1, "well")))
+        self.assertEqual(write_log(log).splitlines()[:9],
+                         ["machine a main - core 4", "tokens nothing", "door day 100", "account lab - 1", "weights 1 10000 0 0 0", "depth 2", "fill no", "period 100", "come"])
+        desk = Desk(log.until(2))
+        self.assertEqual([desk.demand(("start", 2, 5)), desk.do(("wait", 2)), str(desk)], [None, (), "desk of 3 deeds, 1 pledges"])
+        self.refused(Refused, desk.edit, 0, 0, (("wait", 1),))
+        self.assertEqual([desk.edit(2, 1, (("wait", 1), ("wait", 1))), desk.house().now, desk.undo(many=2), desk.pledges, desk.redo(), desk.redo()],
+                         [3, 2, 2, (("start", 2, 5),), 3, 4])

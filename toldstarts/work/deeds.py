@@ -12,10 +12,12 @@ END_WORDS = ("well", "ill")
 
 def is_deed(value):
     """Whether the value has the form of a deed."""
-    if not isinstance(value, tuple) or len(value) == 0 or not isinstance(value[0], str) or value[0] not in FORMS:
+    if not isinstance(value, tuple) or len(value) == 0 or not isinstance(value[0], str):
         return False
-    many, form = FORMS[value[0]]
-    return len(value) == many and form(value)
+    if len(value) != MEMBERS.get(value[0]):
+        return False
+    form = FORMS[value[0]]
+    return form(value)
 
 
 def _is_come(deed):
@@ -60,19 +62,23 @@ def _is_wait(deed):
     return is_between(deed[1], 1, LONGEST_WAIT)
 
 
-# For each word the number of members, and the function that looks at those behind the word.
+# For each word how many members a deed has, and the function that looks at those behind the word.
+MEMBERS = {
+    "come": 2, "row": 4, "end": 3, "leave": 2, "hold": 2, "let": 2, "raise": 2, "take": 2, "fail": 2, "mend": 2,
+    "shut": 4, "open": 4, "wait": 2,
+}
 FORMS = {
-    "come": (2, _is_come),
-    "row": (4, _is_row),
-    "end": (3, _is_end),
-    "leave": (2, _is_of_number),
-    "hold": (2, _is_of_number),
-    "let": (2, _is_of_number),
-    "raise": (2, _is_of_number),
-    "take": (2, _is_of_number),
-    "fail": (2, _is_of_name),
-    "mend": (2, _is_of_name),
-    "shut": (4, _is_of_span),
-    "open": (4, _is_of_span),
-    "wait": (2, _is_wait),
+    "come": _is_come,
+    "row": _is_row,
+    "end": _is_end,
+    "leave": _is_of_number,
+    "hold": _is_of_number,
+    "let": _is_of_number,
+    "raise": _is_of_number,
+    "take": _is_of_number,
+    "fail": _is_of_name,
+    "mend": _is_of_name,
+    "shut": _is_of_span,
+    "open": _is_of_span,
+    "wait": _is_wait,
 }

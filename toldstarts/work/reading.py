@@ -28,7 +28,8 @@ def read_parts(text):
         raise ParseError(None)
     lines, at, parts = text.split("\n"), 0, {}
     for word, least, is_many in SECTIONS:
-        reader, found = READERS[word], []
+        reader = READERS[word]
+        found = []
         while at < len(lines) and (is_many or not found):
             part = reader(lines[at])
             if part is None:
