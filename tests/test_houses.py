@@ -76,6 +76,7 @@ class Making(Case):
                 if at == 0 and value == SETTING[0]:
                     continue
                 found = self.refused(error, House, *SETTING[:at], value, *wrong[at + 1:])
+                self.refused(error, House, *with_setting(at, value))
                 if error is InvalidNumber:
                     self.assertIs(found.given, value)
 
@@ -500,6 +501,12 @@ class Deeds(Case):
         before = wide.twin()
         self.assertEqual(self.refused(TooMany, wide.do, ("come", BIG_JOB)).most, 20000)
         self.assertEqual((wide, wide.deeds), (before, 2))
+        # Told jobs count for the reasons of all others.
+        wide = House(SETTING[0], SETTING[1], Doors((("day", 100000),)), *SETTING[3:5], 1, False, 1, (("a", 0, 1),))
+        for limit in (19999, 5, 5):
+            wide.do(("come", BIG_JOB.changed(limit=limit)))
+        self.assertEqual((wide.told_starts, wide.why(2)[0][1][0]), ({2: 19999}, 19999))
+        self.assertEqual(self.refused(TooMany, wide.why, 3).most, 20000)
         far = House(*SETTING[:8])
         for _ in range(10):
             far.do(("wait", 99995))

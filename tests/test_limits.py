@@ -315,11 +315,14 @@ class Broken(Case):
         room, judge = Room(LIMITS.amounts), lambda *args: is_least_broken(*args, ())
         for value in all_but(Limits):
             self.refused(InvalidHouse, broken_limits, value, None, None, None, None)
+            self.refused(InvalidHouse, broken_limits, value, room, JOB, "day", 0)
             for call in (least_broken, judge):
                 self.refused(InvalidHouse, call, value, None, None, None, None)
+                self.refused(InvalidHouse, call, value, DOORS, room, JOB, 0)
         for value in all_but(Doors):
             for call in (least_broken, judge):
                 self.refused(InvalidHouse, call, LIMITS, value, None, None, None)
+                self.refused(InvalidHouse, call, LIMITS, value, room, JOB, 0)
         for value in all_but(Room):
             self.refused(InvalidRoom, broken_limits, LIMITS, value, None, None, None)
             for call in (least_broken, judge):

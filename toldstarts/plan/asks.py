@@ -156,8 +156,8 @@ class Side:
     def has_choice(self, fits):
         """Whether there is a choice if just some members fit."""
         if len(self.counts) == 1:
-            mask = (fits >> self.bottom) & self.layout.all_guards
-            return f"{mask:b}".count("1") >= self.counts[0]
+            bits = f"{(fits >> self.bottom) & self.layout.all_guards:b}"
+            return bits.count("1") >= self.counts[0]
         slack = self.lacking + sum([self.fields.meeting(fit) for fit in self.fit_sets(fits)])
         return self.fields.are_even(slack)
 

@@ -281,14 +281,14 @@ def _check_new(yard):
 
 def _check_waiting(value):
     """Refuse what is no tuple of jobs with unlike keys."""
-    if not isinstance(value, tuple) or not all([is_triple(row) for row in value]):
+    if not isinstance(value, tuple) or not all([is_waiting_row(row) for row in value]):
         raise InvalidJob("the value is no tuple of jobs that wait")
     if len(set([row[0] for row in value])) < len(value):
         raise InvalidJob("two jobs that wait have the same key")
 
 
-def is_triple(value):
-    """Whether the value is a triple of a key, an ask and a length."""
+def is_waiting_row(value):
+    """Whether the value is a job that waits: a triple of a key, an ask and a length."""
     if not isinstance(value, tuple) or len(value) != 3:
         return False
     return is_key(value[0]) and is_ask(value[1]) and is_length(value[2])

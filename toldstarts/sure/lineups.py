@@ -5,7 +5,7 @@ from toldstarts.errors import InvalidHouse, InvalidJob, InvalidPaper, Refused, T
 from toldstarts.plan.asks import Bid
 from toldstarts.plan.places import check_yard, ground_of
 from toldstarts.plan.search import earliest_at_all
-from toldstarts.plan.told import check_depth, check_fill, is_triple
+from toldstarts.plan.told import check_depth, check_fill, is_waiting_row
 from toldstarts.sure.graph import Graph, least_bounds, lengths_reaching, starts_in
 from toldstarts.sure.scenes import Settler
 from toldstarts.sure.shorter import first_put_off
@@ -210,9 +210,11 @@ def _check_bare(yard):
 
 def _are_jobs(value):
     """Whether the value is a tuple of few enough short jobs with unlike keys."""
-    if not isinstance(value, tuple) or not 1 <= len(value) <= MAX_JOBS or not all([is_triple(row) for row in value]):
+    if not isinstance(value, tuple) or not 1 <= len(value) <= MAX_JOBS:
         return False
-    return len(set([row[0] for row in value])) == len(value) and all([row[2] <= MAX_LENGTH for row in value])
+    if not all([is_waiting_row(row) and row[2] <= MAX_LENGTH for row in value]):
+        return False
+    return len(set([row[0] for row in value])) == len(value)
 
 
 def _are_true_lengths(lineup, value):

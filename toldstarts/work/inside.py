@@ -92,8 +92,9 @@ class Inside:
         """Settle at the present tick; tell the events."""
         found = self._settle_table(())
         while True:
+            # Where no told job moves and nobody can be told, the row has no effect.
             is_full = len(self.table.told_keys) >= self.rules.most_told and not self.rules.is_filling
-            events = self._settle_table(() if is_full else self.row())
+            events = self._settle_table(() if is_full and self.table.is_tight else self.row())
             if not events:
                 return found
             found.extend(events)
