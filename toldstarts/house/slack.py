@@ -31,6 +31,10 @@ def short_part(counts, fits):
 
 def least_choice(counts, fits, racks):
     """The choice in the fewest racks, of these the least one, or None if there is no choice."""
+    if len(counts) == 1:
+        members = _members_in_one_rack(counts[0], fits, racks)
+        if members is not None:
+            return (members,)
     fields = SetFields(len(counts))
     useful = sorted(set([rack for fit, rack in zip(fits, racks) if fit]))
     slacks, sizes = [fields.slack_without_members(counts)], [0]
@@ -85,6 +89,15 @@ class SetFields:
     def are_even(self, slack):
         """Whether no slack is below 0."""
         return slack & self.tops == self.tops
+
+
+def _members_in_one_rack(count, fits, racks):
+    """The least ascending tuple of so many members that fit the only group and stand in one rack, or None."""
+    found = {}
+    for member, (fit, rack) in enumerate(zip(fits, racks)):
+        if fit:
+            found.setdefault(rack, []).append(member)
+    return min([tuple(members[:count]) for members in found.values() if len(members) >= count], default=None)
 
 
 def _first_choice(counts, fits, places, alive, fields):

@@ -9,7 +9,6 @@ index i asks are looked at in the copy i.
 from toldstarts.base.amounts import Amounts
 from toldstarts.base.checks import is_ascending, is_between
 from toldstarts.house.choices import is_groups
-from toldstarts.house.formulas import is_true
 from toldstarts.house.slack import SetFields, least_choice
 from toldstarts.plan.layout import house_tops, packed_house
 
@@ -71,10 +70,10 @@ class Bid:
         members = wanted = tops = 0
         doors = []
         for side in sides:
-            for row in side.group_rows:
-                members = members + row[0]
-                wanted = wanted + row[1]
-                tops = tops + row[2]
+            for row, stride in zip(side.group_rows, side.strides):
+                members = members + (row[0] << stride)
+                wanted = wanted + (row[1] << stride)
+                tops = tops + (row[2] << stride)
         for stride, (_, amounts), place in zip(strides, ask, places):
             own = None
             if all([kind in shifts for kind in amounts.kinds]):
@@ -149,7 +148,7 @@ class Side:
         self.groups_asked = groups
         self.bottom = bottom
         self.strides = [bottom + layout.stride * at for at in range(len(groups))]
-        self.group_rows = [_row_of(layout, group, stride) for group, stride in zip(groups, self.strides)]
+        self.group_rows = [layout.wanted_of(formula, amounts) for _, formula, amounts in groups]
         self.fields = SetFields(len(groups))
         self.lacking = self.fields.slack_without_members(self.counts)
 
@@ -190,21 +189,6 @@ def _sides_of(layout, ask):
             bottom = bottom + layout.stride * len(groups)
         places.append(same[0])
     return sides, places
-
-
-def _row_of(layout, group, stride):
-    """The row of a group whose copy begins at a bit."""
-    _, formula, amounts = group
-    members = wanted = tops = 0
-    known = {}
-    for at, machine in enumerate(layout.crew):
-        if machine.marks not in known:
-            known[machine.marks] = is_true(formula, machine.marks)
-        if known[machine.marks] and all([kind in layout.shifts[at] for kind in amounts.kinds]):
-            members = members + layout.guards[at]
-            wanted = wanted + layout.packed(at, amounts)
-            tops = tops + layout.tops_of(at, amounts)
-    return (members << stride, wanted << stride, tops << stride)
 
 
 def _is_want(value):

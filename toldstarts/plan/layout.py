@@ -7,6 +7,7 @@ are the fields of the kinds of the house, in the order in which the house got th
 """
 
 from toldstarts.base.amounts import MAX_KINDS, sure_amounts
+from toldstarts.house.formulas import is_true
 from toldstarts.room.fields import EVEN, FIELD
 
 
@@ -14,7 +15,7 @@ class Layout:
     """The segments of some machines."""
 
     def __init__(self, crew):
-        bottoms, shifts, guards, base, fillers, bottom = [], [], [], 0, 0, 0
+        bottoms, shifts, guards, base, fillers, bottom, alike = [], [], [], 0, 0, 0, {}
         for machine in crew:
             kinds = machine.amounts.kinds
             bottoms.append(bottom)
@@ -24,8 +25,12 @@ class Layout:
             base = base + (EVEN << bottom)
             base = base + sum([(EVEN + number) << shifts[-1][kind] for kind, number in machine.amounts.pairs])
             fillers = fillers + (1 << top) - (1 << bottom)
+            ones, some = alike.get((machine.marks, kinds), (0, 0))
+            alike[(machine.marks, kinds)] = (ones + (1 << bottom), some + (1 << top))
             bottom = top + 1
         self.crew = crew
+        # For all machines with the same marks and kinds: a one at the bottom of each, and their guards.
+        self.alike = alike
         self.racks = [machine.rack for machine in crew]
         self.bottoms = bottoms
         self.shifts = shifts
@@ -43,10 +48,19 @@ class Layout:
         shifts = self.shifts[at]
         return sum([number << shifts[kind] for kind, number in amounts.pairs])
 
-    def tops_of(self, at, amounts):
-        """The tops that must be set if a machine is to be open and to have enough of the kinds of some amounts."""
-        shifts = self.shifts[at]
-        return (EVEN << self.bottoms[at]) + sum([EVEN << shifts[kind] for kind, _ in amounts.pairs])
+    def wanted_of(self, formula, amounts):
+        """What some amounts are on all machines with their kinds for which a formula holds.
+
+        These are their guards, the amounts themselves, and the tops that are set if they are open and have enough.
+        """
+        members = wanted = tops = 0
+        for (marks, kinds), (ones, guards) in self.alike.items():
+            if all([kind in kinds for kind in amounts.kinds]) and is_true(formula, marks):
+                shifts = {kind: FIELD * (at + 1) for at, kind in enumerate(kinds)}
+                members = members + guards
+                wanted = wanted + ones * sum([number << shifts[kind] for kind, number in amounts.pairs])
+                tops = tops + ones * (EVEN + sum([EVEN << shifts[kind] for kind, _ in amounts.pairs]))
+        return (members, wanted, tops)
 
     def shut_one(self, at):
         """What is held of a machine by one shut span."""
