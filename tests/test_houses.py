@@ -320,9 +320,11 @@ class Deeds(Case):
         self.assertEqual((both.do(("wait", 99950)), both.now), ((), 99950))
         # What is met first is told.
         late = House(*SETTING[:7], 1, (("a", 0, 1),))
-        for _ in range(999):
+        for _ in range(998):
             late.do(("wait", 1000))
-        self.assertEqual(self.refused(TooMany, late.do, ("wait", 1001)).most, 1000)
+        self.assertEqual([self.refused(TooMany, late.do, ("wait", ticks)).most for ticks in (1001, 3000)], [1000, 1000])
+        late.do(("wait", 1000))
+        self.assertEqual(self.refused(TooMany, late.do, ("wait", 1001)).most, 1000000)
         late.do(("wait", 500))
         self.assertEqual([self.refused(TooMany, late.do, ("wait", ticks)).most for ticks in (501, 1000, 2000)], [1000000, 1000000, 1000000])
 

@@ -104,10 +104,11 @@ class Inside:
         end, many, found = self.table.clock + ticks, 0, []
         while self.table.clock < end:
             tick, many = self._next_settling(end), many + 1
-            if many > MOST_SETTLINGS:
-                raise TooMany(MOST_SETTLINGS)
+            # The house comes to the tick ahead of settling there.
             if tick > MAX_TICK:
                 raise TooMany(MAX_TICK)
+            if many > MOST_SETTLINGS:
+                raise TooMany(MOST_SETTLINGS)
             self.used = with_run_uses(self, tick)
             self.table.clock = tick
             found.extend(self.settle())
