@@ -17,7 +17,8 @@ def first_place(ground, bid, length, since, end):
     last, failed = min(end, ground.horizon(since)), 0
     while walk.start_tick < last:
         tops = walk.tops_here()
-        begin, stop = walk.start_tick, walk.step(last, has_windows)
+        begin = walk.start_tick
+        stop = walk.step(last, has_windows)
         # Where no more is free than where no door was open, none is open either.
         if tops & failed != tops:
             fits = bid.fits_of(tops)
