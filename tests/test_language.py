@@ -92,6 +92,18 @@ def changed_walks(tree):
     return found
 
 
+def loose_reversals(tree):
+    """The lines of the calls of `reversed` over what can be an object of a class with items."""
+    found = []
+    for node in ast.walk(tree):
+        if isinstance(node, ast.Call) and ast.unparse(node.func) == "reversed":
+            over = node.args[0]
+            is_made = isinstance(over, ast.Call) and ast.unparse(over.func) in ("list", "tuple", "sorted", "range")
+            if not is_made and not isinstance(over, (ast.Constant, ast.List, ast.Tuple)):
+                found.append(node.lineno)
+    return found
+
+
 def names_of(tree):
     """What a file binds at module level."""
     found = []
@@ -262,6 +274,19 @@ class Form(Case):
         for right in ("for a in list(self.rows):\n    self.below[a].append(1)", "for a in rows:\n    self.rows[a] = 1",
                       "for a in box.rows:\n    self.rows[a] = 1", "for a in self.rows:\n    found.append(self.below[a])"):
             self.assertEqual(changed_walks(ast.parse(right)), [], right)
+
+    def test_reversals_go_over_what_is_made_there(self):
+        has_items = [node for _, node in all_nodes(ast.FunctionDef) if node.name == "__getitem__"]
+        self.assertTrue(has_items)
+        for path, tree in trees():
+            self.assertEqual(loose_reversals(tree), [], path)
+        for wrong in ("for a in reversed(rows):\n    pass", "{1 << at: key for at, key in enumerate(reversed(keys))}",
+                      "found = list(reversed(self.rows))", "for a in reversed(rows[1:]):\n    pass",
+                      "for a in reversed([one for one in rows] if rows else rows):\n    pass"):
+            self.assertEqual(loose_reversals(ast.parse(wrong)), [1], wrong)
+        for right in ("for a in reversed(list(rows)):\n    pass", "found = list(reversed(range(4)))",
+                      "for a in reversed(sorted(rows)):\n    pass", "for a in reversed((1, 2)):\n    pass"):
+            self.assertEqual(loose_reversals(ast.parse(right)), [], right)
 
     def test_words(self):
         for path in FILES:

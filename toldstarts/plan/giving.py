@@ -21,7 +21,7 @@ class Letting:
         self.tick = tick
         self.end_tick = tick + length
         self.all_keys = keys
-        self.keys_by_bit = {1 << at: key for at, key in enumerate(reversed(keys))}
+        self.keys_by_bit = {1 << at: key for at, key in enumerate(reversed(list(keys)))}
         self.full = (1 << len(keys)) - 1
         self.known = {}
         self.sure_tops = bid.bid_tops

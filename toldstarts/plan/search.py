@@ -110,7 +110,7 @@ class Walk:
 def _turned(rows, tops):
     """For each of some rows of tops, the last one first, what is set in it and in all behind it."""
     found = []
-    for row in reversed(rows):
+    for row in reversed(list(rows)):
         tops = tops & row
         found.append(tops)
     return found
