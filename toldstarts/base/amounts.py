@@ -97,7 +97,9 @@ class Amounts:
         numbers = dict(self._numbers)
         for kind, number in other._pairs:
             numbers[kind] = numbers.get(kind, 0) + number
-        return Amounts(_pairs_of(numbers))
+        if len(numbers) > MAX_KINDS or not all([number <= MAX_AMOUNT for number in numbers.values()]):
+            raise InvalidAmounts("the sum has too many kinds, or a number that is too great")
+        return sure_amounts(_pairs_of(numbers))
 
     def __sub__(self, other):
         if not isinstance(other, Amounts):

@@ -47,6 +47,11 @@ def place_of(values, value):
     return low
 
 
+def without_key(rows, key):
+    """A copy of a dict without a key."""
+    return {one: rows[one] for one in rows if one != key}
+
+
 def is_letter(sign):
     """Whether a sign, or nothing at all, is a letter of names."""
     return "a" <= sign <= "z"

@@ -5,7 +5,7 @@ from toldstarts.base.checks import is_ascending, is_between
 from toldstarts.errors import InvalidChoice
 from toldstarts.house.formulas import is_formula, is_true
 from toldstarts.house.machines import Machine
-from toldstarts.house.slack import least_choice, members_of, short_part
+from toldstarts.house.slack import SetFields, least_choice, members_of, short_part
 
 MAX_CREW = 40
 MAX_GROUPS = 6
@@ -40,7 +40,7 @@ def best_choice(groups, crew):
     """The choice with the least key, or None if there is no choice."""
     _check(groups, crew)
     racks = [machine.rack for machine, _ in crew]
-    return least_choice(_counts(groups), _fit_sets(groups, crew), racks)
+    return least_choice(_counts(groups), _fit_sets(groups, crew), racks, SetFields(len(groups)))
 
 
 def is_choice(groups, crew, value):

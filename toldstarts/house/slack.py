@@ -24,22 +24,20 @@ def short_part(counts, fits):
     if len(counts) == 1:
         return None if len([fit for fit in fits if fit]) >= counts[0] else 1
     fields = SetFields(len(counts))
-    slack = fields.slack_without_members(counts) + sum([fields.meeting(fit) for fit in fits])
-    short = fields.tops - (slack & fields.tops)
+    short = fields.tops - (fields.slack_of(counts, fits) & fields.tops)
     return ((short & -short).bit_length() - 1) // FIELD if short else None
 
 
-def least_choice(counts, fits, racks):
+def least_choice(counts, fits, racks, fields):
     """The choice in the fewest racks, of these the least one, or None if there is no choice."""
     if len(counts) == 1:
         members = _members_in_one_rack(counts[0], fits, racks)
         if members is not None:
             return (members,)
-    fields = SetFields(len(counts))
     useful = sorted(set([rack for fit, rack in zip(fits, racks) if fit]))
     slacks, sizes = [fields.slack_without_members(counts)], [0]
     for rack in useful:
-        cover = sum([fields.meeting(fit) for fit, other in zip(fits, racks) if other == rack])
+        cover = sum([fields.meeting[fit] for fit, other in zip(fits, racks) if other == rack])
         slacks = slacks + [slack + cover for slack in slacks]
         sizes = sizes + [size + 1 for size in sizes]
     enough = [(size, some, slack) for some, (size, slack) in enumerate(zip(sizes, slacks)) if fields.are_even(slack)]
@@ -55,36 +53,30 @@ class SetFields:
     """The fields of all sets of so many groups."""
 
     def __init__(self, many):
-        self.many_groups = many
-        self.ones = self.avoiding(0)
-        self.tops = self.ones * EVEN
-        self.known_covers = {}
-        self.known_costs = {}
-
-    def avoiding(self, part):
-        """A one in the field of each set that has no group of a set."""
-        found = 1
-        for group in range(self.many_groups):
-            if not part >> group & 1:
-                found = found | found << (FIELD << group)
-        return found
-
-    def meeting(self, part):
-        """A one in the field of each set that has a group of a set."""
-        if part not in self.known_covers:
-            self.known_covers[part] = self.ones - self.avoiding(part)
-        return self.known_covers[part]
+        # For each set of groups a one in the field of each set that has none of its groups.
+        avoiding = [1]
+        for group in range(many):
+            avoiding = [ones | ones << (FIELD << group) for ones in avoiding] + avoiding
+        self.avoiding = avoiding
+        # And a one in the field of each set that has one of its groups.
+        self.meeting = [avoiding[0] - ones for ones in avoiding]
+        self.tops = avoiding[0] * EVEN
 
     def cost(self, part, group):
         """A one in the field of each set that a member can no longer serve once a group has it."""
-        if (part, group) not in self.known_costs:
-            own = 1 << group
-            self.known_costs[(part, group)] = self.avoiding(own) - self.avoiding(part | own)
-        return self.known_costs[(part, group)]
+        return self.avoiding[1 << group] - self.avoiding[part | 1 << group]
 
     def slack_without_members(self, counts):
         """The slacks if there are no members at all."""
-        return self.tops - sum([count * self.meeting(1 << group) for group, count in enumerate(counts)])
+        return self.tops - sum([count * self.meeting[1 << group] for group, count in enumerate(counts)])
+
+    def slack_of(self, counts, fits):
+        """The slacks if some members fit."""
+        return self.slack_without_members(counts) + sum([self.meeting[fit] for fit in fits])
+
+    def is_enough(self, counts, fits):
+        """Whether there is a choice if some members fit."""
+        return self.are_even(self.slack_of(counts, fits))
 
     def are_even(self, slack):
         """Whether no slack is below 0."""

@@ -1,6 +1,6 @@
 """Jobs: what they want, and for how long."""
 
-from toldstarts.base.amounts import Amounts, MAX_AMOUNT, MAX_KINDS
+from toldstarts.base.amounts import Amounts, MAX_AMOUNT, MAX_KINDS, sure_amounts
 from toldstarts.base.checks import is_between, is_name
 from toldstarts.base.ticks import text_of_ticks
 from toldstarts.errors import InvalidJob
@@ -36,6 +36,7 @@ class Job:
         self._grade = grade
         self._after = after
         self._total = _total_of(groups, self._tokens)
+        self._size = max(1, sum([count * number for count, _, amounts in groups for _, number in amounts.pairs]))
 
     @property
     def name(self):
@@ -90,8 +91,7 @@ class Job:
     @property
     def size(self):
         """What the job uses in each tick: the numbers of all amounts of all machines, but at least 1."""
-        numbers = [count * number for count, _, amounts in self._groups for _, number in amounts.pairs]
-        return max(1, sum(numbers))
+        return self._size
 
     @property
     def total(self):
@@ -144,4 +144,4 @@ def _total_of(groups, tokens):
             numbers[kind] = numbers.get(kind, 0) + count * number
     if len(numbers) > MAX_KINDS or not all([number <= MAX_AMOUNT for number in numbers.values()]):
         raise InvalidJob("the job wants too much in all")
-    return Amounts(tuple([(kind, numbers[kind]) for kind in sorted(numbers)]))
+    return sure_amounts(tuple([(kind, numbers[kind]) for kind in sorted(numbers)]))

@@ -9,13 +9,15 @@ index i asks are looked at in the copy i.
 from toldstarts.base.amounts import Amounts
 from toldstarts.base.checks import is_ascending, is_between
 from toldstarts.house.choices import is_groups
-from toldstarts.house.slack import SetFields, least_choice
+from toldstarts.house.slack import least_choice
 from toldstarts.plan.layout import house_tops, packed_house
 
 MAX_KEY = 1000000
 MAX_LENGTH = 1000000
 MAX_START = 10 ** 9
 MAX_WANTS = 4
+
+MOST_KNOWN = 64
 
 
 def is_key(value):
@@ -149,25 +151,29 @@ class Side:
         self.bottom = bottom
         self.strides = [bottom + layout.stride * at for at in range(len(groups))]
         self.group_rows = [layout.wanted_of(formula, amounts) for _, formula, amounts in groups]
-        self.fields = SetFields(len(groups))
-        self.lacking = self.fields.slack_without_members(self.counts)
+        # Jobs that wait are looked at again and again: what was found for some members that fit is kept.
+        self.known_answers = {}
+        self.known_choices = {}
 
     def has_choice(self, fits):
         """Whether there is a choice if just some members fit."""
         if len(self.counts) == 1:
             bits = f"{(fits >> self.bottom) & self.layout.all_guards:b}"
             return bits.count("1") >= self.counts[0]
-        slack = self.lacking + sum([self.fields.meeting(fit) for fit in self.fit_sets(fits)])
-        return self.fields.are_even(slack)
+        if fits not in self.known_answers:
+            if len(self.known_answers) >= MOST_KNOWN:
+                self.known_answers = {}
+            self.known_answers[fits] = self._fields().is_enough(self.counts, self._fit_sets(fits))
+        return self.known_answers[fits]
 
     def choice_of(self, fits):
         """The best choice if just some members fit."""
-        return least_choice(self.counts, self.fit_sets(fits), self.layout.racks)
-
-    def fit_sets(self, fits):
-        """For each machine the set of the groups that it fits, as house/slack.py uses them."""
-        masks = [fits >> stride for stride in self.strides]
-        return [sum([1 << at for at, mask in enumerate(masks) if mask & guard]) for guard in self.layout.guards]
+        if fits not in self.known_choices:
+            if len(self.known_choices) >= MOST_KNOWN:
+                self.known_choices = {}
+            fit_sets = self._fit_sets(fits)
+            self.known_choices[fits] = least_choice(self.counts, fit_sets, self.layout.racks, self._fields())
+        return self.known_choices[fits]
 
     def has_members(self, choice, fits):
         """Whether all machines of a choice are among those that fit its groups."""
@@ -176,6 +182,19 @@ class Side:
             if not all([mask & self.layout.guards[member] for member in members]):
                 return False
         return True
+
+    def _fields(self):
+        """The fields of all sets of so many groups."""
+        return self.layout.set_fields(len(self.counts))
+
+    def _fit_sets(self, fits):
+        """For each machine the set of the groups that it fits, as house/slack.py uses them."""
+        guards = self.layout.guards
+        found = [0] * len(guards)
+        for at, stride in enumerate(self.strides):
+            mask, own = fits >> stride, 1 << at
+            found = [fit | own if mask & guard else fit for fit, guard in zip(found, guards)]
+        return found
 
 
 def _sides_of(layout, ask):

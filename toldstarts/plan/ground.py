@@ -3,7 +3,6 @@
 A stay is a tuple (place, length, ask, held) with the integer that the place holds in its span.
 """
 
-from toldstarts.base.amounts import Amounts
 from toldstarts.base.checks import place_of
 from toldstarts.base.steps import lowered_steps
 from toldstarts.errors import TooMany
@@ -17,14 +16,14 @@ MOST_LOOKED = 20000
 class Ground:
     """Machines and a house with places, shut spans and windows."""
 
-    def __init__(self, layout, cycle):
+    def __init__(self, layout, cycle, stock, shifts, bases):
         self.layout = layout
         self.cycle = cycle
         # What the house has, and where the numbers of its kinds stand.
-        self.stock = Amounts()
-        self.house_shifts = {}
+        self.stock = stock
+        self.house_shifts = shifts
         self.ticks = [0]
-        self.bases = [layout.empty_base]
+        self.bases = bases
         self.stays = {}
         self.span_rows = ()
         self.turn_rows = ()
@@ -35,10 +34,10 @@ class Ground:
     def with_stay(self, key, place, length, asked, held):
         """The ground with one place more."""
         made = self._copied()
-        made.stays[key] = (place, length, asked, held)
-        if len(self.stays) > 0 and key < max(self.stays):
-            stays = made.stays
-            made.stays = {one: stays[one] for one in sorted(stays)}
+        stays = {**self.stays, key: (place, length, asked, held)}
+        if self.stays and key < max(self.stays):
+            stays = {one: stays[one] for one in sorted(stays)}
+        made.stays = stays
         start = place[0]
         made.ticks, made.bases = lowered_steps(self.ticks, self.bases, start, start + length, held)
         made.top = max(self.top, start + length)
@@ -47,7 +46,8 @@ class Ground:
     def without_stay(self, key):
         """The ground without the place of a key."""
         made = self._copied()
-        place, length, _, held = made.stays.pop(key)
+        place, length, _, held = self.stays[key]
+        made.stays = {one: self.stays[one] for one in self.stays if one != key}
         start = place[0]
         made.ticks, made.bases = lowered_steps(self.ticks, self.bases, start, start + length, -held)
         if start + length == self.top:
@@ -144,12 +144,9 @@ class Ground:
 
     def _copied(self):
         """The same ground once more, to be changed before it is passed on."""
-        made = Ground(self.layout, self.cycle)
-        made.stock = self.stock
-        made.house_shifts = self.house_shifts
+        made = Ground(self.layout, self.cycle, self.stock, self.house_shifts, self.bases)
         made.ticks = self.ticks
-        made.bases = self.bases
-        made.stays = dict(self.stays)
+        made.stays = self.stays
         made.span_rows = self.span_rows
         made.turn_rows = self.turn_rows
         made.top = self.top
@@ -159,7 +156,9 @@ class Ground:
 
 def new_ground(machines, amounts, cycle):
     """A ground in which nothing is shut or placed."""
-    return Ground(Layout(machines), cycle).with_stock(amounts)
+    layout = Layout(machines)
+    shifts = more_shifts(layout, {}, amounts)
+    return Ground(layout, cycle, amounts, shifts, raised_bases([layout.empty_base], {}, shifts, amounts))
 
 
 def check_looked(ground, since):

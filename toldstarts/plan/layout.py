@@ -8,6 +8,7 @@ are the fields of the kinds of the house, in the order in which the house got th
 
 from toldstarts.base.amounts import MAX_KINDS, sure_amounts
 from toldstarts.house.formulas import is_true
+from toldstarts.house.slack import SetFields
 from toldstarts.room.fields import EVEN, FIELD
 
 
@@ -15,21 +16,26 @@ class Layout:
     """The segments of some machines."""
 
     def __init__(self, crew):
-        bottoms, shifts, guards, base, fillers, bottom, alike = [], [], [], 0, 0, 0, {}
+        bottoms = []
+        shifts = []
+        guards = []
+        alike = {}
+        base = fillers = bottom = 0
         for machine in crew:
             kinds = machine.amounts.kinds
             bottoms.append(bottom)
-            shifts.append({kind: bottom + FIELD * (at + 1) for at, kind in enumerate(kinds)})
+            own = {kind: bottom + FIELD * (at + 1) for at, kind in enumerate(kinds)}
+            shifts.append(own)
             top = bottom + FIELD * (len(kinds) + 1)
             guards.append(1 << top)
             base = base + (EVEN << bottom)
-            base = base + sum([(EVEN + number) << shifts[-1][kind] for kind, number in machine.amounts.pairs])
+            base = base + sum([(EVEN + number) << own[kind] for kind, number in machine.amounts.pairs])
             fillers = fillers + (1 << top) - (1 << bottom)
-            ones, some = alike.get((machine.marks, kinds), (0, 0))
-            alike[(machine.marks, kinds)] = (ones + (1 << bottom), some + (1 << top))
+            first, ones, some = alike.get((machine.marks, kinds), (len(shifts) - 1, 0, 0))
+            alike[(machine.marks, kinds)] = (first, ones + (1 << bottom), some + (1 << top))
             bottom = top + 1
         self.crew = crew
-        # For all machines with the same marks and kinds: a one at the bottom of each, and their guards.
+        # For all machines with the same marks and kinds: the first one, a one at the bottom of each, and their guards.
         self.alike = alike
         self.racks = [machine.rack for machine in crew]
         self.bottoms = bottoms
@@ -42,6 +48,8 @@ class Layout:
         self.house_bottom = bottom
         # How far two copies of such an integer must stand apart, whatever kinds the house will get.
         self.stride = bottom + FIELD * MAX_KINDS
+        # The fields of all sets of groups, by the number of the groups.
+        self.known_fields = {}
 
     def packed(self, at, amounts):
         """What a machine gives away if it gives some amounts of kinds that it has."""
@@ -54,13 +62,20 @@ class Layout:
         These are their guards, the amounts themselves, and the tops that are set if they are open and have enough.
         """
         members = wanted = tops = 0
-        for (marks, kinds), (ones, guards) in self.alike.items():
-            if all([kind in kinds for kind in amounts.kinds]) and is_true(formula, marks):
-                shifts = {kind: FIELD * (at + 1) for at, kind in enumerate(kinds)}
+        pairs = amounts.pairs
+        for (marks, kinds), (first, ones, guards) in self.alike.items():
+            if all([kind in kinds for kind, _ in pairs]) and is_true(formula, marks):
+                shifts, bottom = self.shifts[first], self.bottoms[first]
                 members = members + guards
-                wanted = wanted + ones * sum([number << shifts[kind] for kind, number in amounts.pairs])
-                tops = tops + ones * (EVEN + sum([EVEN << shifts[kind] for kind, _ in amounts.pairs]))
+                wanted = wanted + ones * (sum([number << shifts[kind] for kind, number in pairs]) >> bottom)
+                tops = tops + ones * (EVEN + (sum([EVEN << shifts[kind] for kind, _ in pairs]) >> bottom))
         return (members, wanted, tops)
+
+    def set_fields(self, many):
+        """The fields of all sets of so many groups."""
+        if many not in self.known_fields:
+            self.known_fields[many] = SetFields(many)
+        return self.known_fields[many]
 
     def shut_one(self, at):
         """What is held of a machine by one shut span."""

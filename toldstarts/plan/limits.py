@@ -1,9 +1,9 @@
 """Doors through which jobs come in, and limits of what runs at the same time."""
 
-from toldstarts.base.amounts import Amounts, MAX_AMOUNT, is_kind
+from toldstarts.base.amounts import MAX_AMOUNT, MAX_KINDS, is_kind, sure_amounts
 from toldstarts.base.checks import is_between, is_name, is_same, is_word
 from toldstarts.base.ticks import check_tick
-from toldstarts.errors import InvalidAmounts, InvalidHouse, InvalidJob, InvalidNumber, UnknownName
+from toldstarts.errors import InvalidHouse, InvalidJob, InvalidNumber, UnknownName
 from toldstarts.jobs.jobs import MAX_LIMIT, check_job
 from toldstarts.rank.accounts import Accounts
 from toldstarts.room.rooms import check_room, first_lacks
@@ -69,6 +69,7 @@ class Limits:
                 raise UnknownName(name)
         self._accounts = accounts
         self._rows = rows
+        self._amounts = sure_amounts(tuple(sorted([(_kind_of(index), row[2]) for index, row in enumerate(rows)])))
 
     @property
     def accounts(self):
@@ -83,36 +84,56 @@ class Limits:
     @property
     def amounts(self):
         """What the house has of the kinds of all limits."""
-        return Amounts(tuple(sorted([(_kind_of(index), most) for index, (_, _, most) in enumerate(self._rows)])))
+        return self._amounts
 
     def need(self, index, job):
         """How much of a limit a job needs, if its row covers it."""
         if not is_between(index, 0, len(self._rows) - 1):
             raise InvalidNumber(index)
         check_job(job)
-        return self._need(index, job)
+        what = self._rows[index][1]
+        return 1 if what == JOBS else job.total[what]
 
     def covering(self, job, door):
         """The indices of the rows that cover a job at a door, and of which it needs something."""
         self._check(job, door)
-        return self._covering(job, door)
+        return tuple([index for index, _ in self.needs_at(job, door)])
 
     def beyond(self, job, door):
         """The indices of those rows of which a job needs more at a door than there ever is."""
         self._check(job, door)
-        return tuple([index for index in self._covering(job, door) if self._rows[index][2] < self._need(index, job)])
+        return self.too_great(self.needs_at(job, door))
 
     def house_amounts(self, job, door):
         """What a job holds of the whole house if it comes in through a door."""
         self._check(job, door)
-        return self._house_amounts(job, door)
+        return _with_needs(job.tokens, self.needs_at(job, door))
 
     def ask(self, doors, job):
         """What a job wants of machines and of the house, for each usable door."""
         check_doors(doors)
         check_job(job)
         self._check_account(job)
-        return tuple([(job.groups, self._house_amounts(job, door)) for door in doors.usable(job)])
+        return ask_of(job, [self.needs_at(job, door) for door in doors.usable(job)])
+
+    def needs_at(self, job, door):
+        """The pairs (index, need) of the rows that cover a job of an account that there is, if it needs something."""
+        line, total = self._accounts.line(job.account), dict(job.total.pairs)
+        total[JOBS] = 1
+        found = []
+        for index, ((where, name), what, _) in enumerate(self._rows):
+            if what in total:
+                if where == "account":
+                    is_covered = name in line
+                else:
+                    is_covered = name == (door if where == "door" else job.person)
+                if is_covered:
+                    found.append((index, total[what]))
+        return found
+
+    def too_great(self, needs):
+        """The indices of those needs that are above what there ever is."""
+        return tuple([index for index, need in needs if self._rows[index][2] < need])
 
     def __len__(self):
         return len(self._rows)
@@ -122,27 +143,6 @@ class Limits:
 
     def __str__(self):
         return f"{len(self._rows)} limits"
-
-    def _need(self, index, job):
-        """How much of a limit a job needs."""
-        what = self._rows[index][1]
-        return 1 if what == JOBS else job.total[what]
-
-    def _covering(self, job, door):
-        """The indices of the rows that cover a job at a door, and of which it needs something."""
-        covered = {("person", job.person): True, ("door", door): True}
-        for name in self._accounts.line(job.account):
-            covered[("account", name)] = True
-        return tuple([index for index, (where, _, _) in enumerate(self._rows)
-                      if where in covered and self._need(index, job) > 0])
-
-    def _house_amounts(self, job, door):
-        """The tokens of a job, and what it needs of the limits that cover it at a door."""
-        needs = sorted([(_kind_of(index), self._need(index, job)) for index in self._covering(job, door)])
-        try:
-            return job.tokens + Amounts(tuple(needs))
-        except InvalidAmounts:
-            raise InvalidJob("the job wants more of the house than amounts can tell")
 
     def _check(self, job, door):
         """Refuse what is no job, none of its doors, and an account that there is not."""
@@ -165,7 +165,9 @@ def broken_limits(limits, room, job, door, tick):
     if door not in job.doors:
         raise UnknownName(door)
     check_tick(tick)
-    return _broken(limits, room, job, door, tick, limits.covering(job, door))
+    if job.account not in limits.accounts:
+        raise UnknownName(job.account)
+    return _broken(limits, room, job, door, tick)
 
 
 def least_broken(limits, doors, room, job, tick):
@@ -179,7 +181,7 @@ def least_broken(limits, doors, room, job, tick):
         raise UnknownName(job.account)
     found = {}
     for door in doors.usable(job):
-        broken = _broken(limits, room, job, door, tick, limits.covering(job, door))
+        broken = _broken(limits, room, job, door, tick)
         found.setdefault(tuple([index for index, _ in broken]), door)
     return tuple(sorted([(some, found[some]) for some in found if not _has_part(some, found)]))
 
@@ -201,12 +203,28 @@ def check_limits(value):
         raise InvalidHouse("the value is no object of Limits")
 
 
-def _broken(limits, room, job, door, tick, indices):
-    """The pairs (index, first tick) of some limits that are broken for a start."""
-    kinds = {_kind_of(index): index for index in indices}
-    want = Amounts(tuple(sorted([(kind, limits.need(index, job)) for kind, index in kinds.items()])))
+def ask_of(job, needs):
+    """The ask of a job with the needs at each of its usable doors."""
+    return tuple([(job.groups, _with_needs(job.tokens, pairs)) for pairs in needs])
+
+
+def _with_needs(tokens, needs):
+    """Tokens, and beside them the needs of a job at a door."""
+    numbers = dict(tokens.pairs)
+    for index, need in needs:
+        kind = _kind_of(index)
+        numbers[kind] = numbers.get(kind, 0) + need
+    if len(numbers) > MAX_KINDS or not all([number <= MAX_AMOUNT for number in numbers.values()]):
+        raise InvalidJob("the job wants more of the house than amounts can tell")
+    return sure_amounts(tuple([(kind, numbers[kind]) for kind in sorted(numbers)]))
+
+
+def _broken(limits, room, job, door, tick):
+    """The pairs (index, first tick) of the limits that are broken for a job at a door and a start."""
+    needs = limits.needs_at(job, door)
+    want = sure_amounts(tuple(sorted([(_kind_of(index), need) for index, need in needs])))
     lacks = first_lacks(room, want, tick, tick + job.limit)
-    return tuple(sorted([(kinds[kind], first) for kind, first in lacks.items()]))
+    return tuple([(index, lacks[_kind_of(index)]) for index, _ in needs if _kind_of(index) in lacks])
 
 
 def _has_part(some, others):

@@ -8,7 +8,21 @@ from toldstarts.base.checks import place_of
 
 
 def first_place(ground, bid, length, since, end):
-    """The place with the least start from a tick up to an end, of these the least door and choice; None if none fits.
+    """The place with the least start from a tick up to an end, of these the least door and choice, or None."""
+    found = _first_start(ground, bid, length, since, end)
+    if found is None:
+        return None
+    start, door, fits = found
+    return (start, door, bid.choice_at(door, fits))
+
+
+def is_ever_free(ground, bid, length, since):
+    """Whether there is a place from a tick on."""
+    return _first_start(ground, bid, length, since, ground.horizon(since)) is not None
+
+
+def _first_start(ground, bid, length, since, end):
+    """The start and the door of the first place, and the guards of the members that fit there; None if none fits.
 
     An end beyond the horizon is none: a bid that has no place ahead of the horizon never has one.
     """
@@ -117,17 +131,19 @@ def _turned(rows, tops):
 
 
 def _first_beside_windows(ground, bid, length, region, doors, fits):
-    """The earliest place in a region of which some doors are open while no window is there, or None."""
-    if not ground.turn_rows:
-        return (region[0], doors[0], bid.choice_at(doors[0], fits))
+    """What `_first_start` tells of a region in which some doors are open but for windows."""
+    begin, _ = region
+    some = _open_fits(ground, bid, length, begin, fits) if ground.turn_rows else fits
+    if some == fits:
+        return (begin, doors[0], fits)
     seen = {}
-    for start in _starts(ground, region):
+    for start in [begin] + _ends_behind(ground, region):
         some = _open_fits(ground, bid, length, start, fits)
         if some not in seen:
             seen[some] = True
             door = bid.first_with_choice(doors, some)
             if door is not None:
-                return (start, door, bid.choice_at(door, some))
+                return (start, door, some)
     return None
 
 
@@ -136,11 +152,11 @@ def _open_fits(ground, bid, length, start, fits):
     return fits - (fits & (ground.shut_mask(start, start + length) * bid.repeat))
 
 
-def _starts(ground, region):
-    """The begin of a region, and all ends of windows in it, ascending; behind two periods they come again."""
+def _ends_behind(ground, region):
+    """All ends of windows in a region behind its begin, ascending; behind two periods they come again."""
     begin, stop = region
     last = min(stop, begin + 2 * ground.cycle)
-    found = {begin: True}
+    found = {}
     for _, (low, length) in ground.guarded_turns:
         tick = begin + 1 + (low + length - begin - 1) % ground.cycle
         for start in range(tick, last, ground.cycle):

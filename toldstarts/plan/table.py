@@ -3,6 +3,7 @@
 What comes in here is surely right. A job is told by its key, its bid and its length.
 """
 
+from toldstarts.base.checks import without_key
 from toldstarts.errors import Refused, TooMany
 from toldstarts.plan.asks import members_of
 from toldstarts.plan.bars import bars_from
@@ -15,7 +16,7 @@ MOST_MOVES = 1000
 
 
 class Table:
-    """The runs and the told jobs at a tick."""
+    """The runs and the told jobs at a tick. The dicts and the list in it never change."""
 
     def __init__(self, ground, most_told, is_filling):
         self.ground = ground
@@ -36,10 +37,10 @@ class Table:
         """The same table, which goes on by itself."""
         made = Table(self.ground, self.most_told, self.is_filling)
         made.clock = self.clock
-        made.running = dict(self.running)
-        made.told_keys = list(self.told_keys)
-        made.bids = dict(self.bids)
-        made.failures = dict(self.failures)
+        made.running = self.running
+        made.told_keys = self.told_keys
+        made.bids = self.bids
+        made.failures = self.failures
         made.is_drawn = self.is_drawn
         made.is_tight = self.is_tight
         return made
@@ -54,18 +55,20 @@ class Table:
 
     def next_change(self):
         """The present tick if a told job starts there, else the next one at which a run ends or a told job starts."""
-        starts = [self.start_of(key) for key in self.told_keys]
-        ends = [self.ground.end_of(key) for key in self.running]
-        return min(starts + [end for end in ends if end > self.clock], default=None)
+        ticks = [self.start_of(key) for key in self.told_keys]
+        for key in self.running:
+            end = self.ground.end_of(key)
+            if end > self.clock:
+                ticks.append(end)
+        return min(ticks, default=None)
 
     def settle(self, now, waiting):
         """Go to a tick and settle there, with the jobs that wait; tell the events."""
         events, left = [], list(waiting)
         self.clock = now
-        for key in sorted(self.running):
-            if self.ground.end_of(key) <= now:
-                self._take_out(key)
-                events.append(("ended", key))
+        for key in sorted([one for one in self.running if self.ground.end_of(one) <= now]):
+            self._take_out(key)
+            events.append(("ended", key))
         self._draw(events)
         self._tell(left, events)
         while self._begin_due(events):
@@ -96,7 +99,7 @@ class Table:
         for key in gone:
             self._take_out(key)
         is_own = span not in self.ground.span_rows
-        self.failures[machine] = (self.clock, is_own)
+        self.failures = {**self.failures, machine: (self.clock, is_own)}
         broken = [key for key in self.told_keys if machine in members_of(self.ground.stays[key][0][2])]
         return tuple(gone), self._break(broken, span if is_own else None)
 
@@ -107,7 +110,8 @@ class Table:
 
     def mend(self, machine):
         """Open a machine that has failed."""
-        begin, is_own = self.failures.pop(machine)
+        begin, is_own = self.failures[machine]
+        self.failures = without_key(self.failures, machine)
         if is_own:
             self.lift(machine, begin, None)
 
@@ -120,8 +124,7 @@ class Table:
         place = self._earliest(bid, length)
         if place is None:
             raise Refused(("never", key))
-        self.bids[key] = (bid, length)
-        self._put(key, place)
+        self._put(key, place, bid, length)
         self.told_keys = [key] + others
         return self._tell_anew(others, starts)
 
@@ -159,7 +162,7 @@ class Table:
             self.is_drawn = self.is_tight = self._draw_up_to(MOST_MOVES, events)
         elif not are_surely_few(self.ground, self.clock):
             # Nobody moves, but all are looked at.
-            for key in list(self.told_keys):
+            for key in self.told_keys:
                 check_looked(self.ground.without_stay(key), self.clock)
 
     def _draw_up_to(self, most, events):
@@ -173,7 +176,7 @@ class Table:
                 if place is not None:
                     events.append(("drawn", key, self.start_of(key), place[0]))
                     self.ground = ground
-                    self._put(key, place)
+                    self._move(key, place)
                     many = many + 1
                 if many == most:
                     return False
@@ -193,18 +196,18 @@ class Table:
             if place is None:
                 events.append(("never", key))
             else:
-                self.bids[key] = (bid, length)
-                self._put(key, place)
-                self.told_keys.append(key)
+                self._put(key, place, bid, length)
+                self.told_keys = self.told_keys + [key]
                 events.append(("told", key, place[0]))
 
     def _begin_due(self, events):
         """Let the told jobs begin that start now, and tell whether there was one."""
         due = [key for key in self.told_keys if self.start_of(key) == self.clock]
         for key in due:
-            self.told_keys.remove(key)
-            self.running[key] = True
+            self.running = {**self.running, key: True}
             events.append(("began", key, self.ground.stays[key][0]))
+        if due:
+            self.told_keys = [key for key in self.told_keys if key not in due]
         return len(due) > 0
 
     def _begin_at_once(self, left, events):
@@ -235,10 +238,10 @@ class Table:
             bid, length = self.bids[key]
             place = self._earliest(bid, length)
             if place is None:
-                self.told_keys.remove(key)
-                del self.bids[key]
+                self.told_keys = [one for one in self.told_keys if one != key]
+                self.bids = without_key(self.bids, key)
             else:
-                self._put(key, place)
+                self._move(key, place)
             if place is None or place[0] > starts[key]:
                 put_off.append((key, None if place is None else place[0]))
         return tuple(put_off)
@@ -250,11 +253,15 @@ class Table:
 
     def _run(self, key, place, bid, length):
         """Let a job run at a place."""
-        self.bids[key] = (bid, length)
-        self._put(key, place)
-        self.running[key] = True
+        self._put(key, place, bid, length)
+        self.running = {**self.running, key: True}
 
-    def _put(self, key, place):
+    def _put(self, key, place, bid, length):
+        """Put in a job at a place."""
+        self.bids = {**self.bids, key: (bid, length)}
+        self._move(key, place)
+
+    def _move(self, key, place):
         """Put in the place of a job that has a bid."""
         if len(self.ground.stays) >= MOST_STAYS:
             raise TooMany(MOST_STAYS)
@@ -266,7 +273,7 @@ class Table:
         """Take out a run, or a told job."""
         self.ground = self.ground.without_stay(key)
         if key in self.running:
-            del self.running[key]
+            self.running = without_key(self.running, key)
         else:
-            self.told_keys.remove(key)
-        del self.bids[key]
+            self.told_keys = [one for one in self.told_keys if one != key]
+        self.bids = without_key(self.bids, key)

@@ -20,13 +20,12 @@ class Board:
         check_depth(depth)
         check_fill(fill)
         self._first_yard = yard
-        self._yard = yard
         self._table = Table(ground_of(yard), depth, fill)
 
     @property
     def yard(self):
         """The yard with the places of all runs and told jobs."""
-        return self._yard
+        return yard_of(self._table.ground)
 
     @property
     def now(self):
@@ -79,7 +78,7 @@ class Board:
             raise InvalidJob("a job that waits is on the board")
         made = table.copied()
         events = made.settle(now, _bids_of(made.ground, waiting))
-        self._become(made)
+        self._table = made
         return events
 
     def end(self, key):
@@ -107,7 +106,7 @@ class Board:
             raise Refused(("twice",))
         made = self._table.copied()
         put_off = made.shut(machine, begin, end)
-        self._become(made)
+        self._table = made
         return put_off
 
     def lift(self, machine, begin, end):
@@ -117,7 +116,7 @@ class Board:
             raise UnknownName(span)
         made = table.copied()
         made.lift(machine, begin, end)
-        self._become(made)
+        self._table = made
 
     def fail(self, machine):
         """Let a machine fail; tell the keys of the runs that it had, and the jobs that are put off."""
@@ -126,16 +125,16 @@ class Board:
             raise Refused(("twice",))
         made = self._table.copied()
         found = made.fail(machine)
-        self._become(made)
+        self._table = made
         return found
 
     def mend(self, machine):
         """Open a machine again that has failed."""
-        if not is_between(machine, 0, len(self._yard.machines) - 1) or machine not in self._table.failures:
+        if not is_between(machine, 0, len(self._first_yard.machines) - 1) or machine not in self._table.failures:
             raise UnknownName(machine)
         made = self._table.copied()
         made.mend(machine)
-        self._become(made)
+        self._table = made
 
     def raised(self, key, ask, length):
         """Tell a job ahead of all others; tell the jobs that are put off."""
@@ -145,7 +144,7 @@ class Board:
             raise Refused(("depth",))
         made = table.copied()
         put_off = made.raise_up(key, self._bid(ask), length)
-        self._become(made)
+        self._table = made
         return put_off
 
     def begin(self, key, ask, length):
@@ -153,7 +152,7 @@ class Board:
         self._check_job(key, ask, length)
         made = self._table.copied()
         place = made.begin(key, self._bid(ask), length)
-        self._become(made)
+        self._table = made
         return place
 
     def earlier(self, key):
@@ -171,12 +170,12 @@ class Board:
         check_amounts(amounts)
         made = self._table.copied()
         made.more(amounts)
-        self._become(made)
+        self._table = made
 
     def twin(self):
         """An equal board that goes on by itself."""
         made = Board(self._first_yard)
-        made._become(self._table.copied())
+        made._table = self._table.copied()
         return made
 
     def __contains__(self, x):
@@ -194,18 +193,13 @@ class Board:
 
     def _key(self):
         """What is equal for equal boards."""
-        return (self._yard, self.now, self.depth, self.fill, self.told, self.runs)
-
-    def _become(self, table):
-        """Go on with another table."""
-        self._table = table
-        self._yard = yard_of(table.ground)
+        return (self.yard, self.now, self.depth, self.fill, self.told, self.runs)
 
     def _take_out(self, key):
         """Take out a run, or a told job."""
         made = self._table.copied()
         made.end_early(key)
-        self._become(made)
+        self._table = made
 
     def _bid(self, ask):
         """The bid of an ask."""
@@ -213,7 +207,7 @@ class Board:
 
     def _check_machine(self, machine):
         """Refuse what is no index of a machine."""
-        if not is_between(machine, 0, len(self._yard.machines) - 1):
+        if not is_between(machine, 0, len(self._first_yard.machines) - 1):
             raise InvalidNumber(machine)
 
     def _check_told(self, key):

@@ -2,6 +2,7 @@
 
 from toldstarts.base.checks import is_between
 from toldstarts.errors import InvalidHouse, InvalidNumber, UnknownName
+from toldstarts.rank.areas import Areas, weighed
 from toldstarts.rank.tree import ROOT, Tree, are_account_rows
 
 MAX_ACCOUNTS = 40
@@ -21,9 +22,7 @@ class Accounts:
         if not are_account_rows(rows, MAX_ACCOUNTS, MAX_LEVELS):
             raise InvalidHouse("the rows are no account rows")
         self._tree = Tree(rows)
-        self._newest = -1
-        # For each account the areas of all accounts below it, by periods. The dicts in it never change.
-        self._areas = {}
+        self._areas = Areas(self._tree, -1, {})
 
     @property
     def names(self):
@@ -33,7 +32,7 @@ class Accounts:
     @property
     def newest(self):
         """The greatest period in which an area is above 0, or -1."""
-        return self._newest
+        return self._areas.newest_period
 
     @property
     def levels(self):
@@ -47,27 +46,13 @@ class Accounts:
             raise InvalidNumber(period)
         if not is_between(area, 0, MAX_AREA):
             raise InvalidNumber(area)
-        return self.with_areas(name, {period: area} if area > 0 else {})
-
-    def with_areas(self, name, areas):
-        """The accounts with areas above 0 more for an account that there is, told by their periods."""
-        # Rows that are right need not be looked at again.
-        made = Accounts(ONE_ROW)
-        made._tree = self._tree
-        made._newest = max([self._newest] + list(areas))
-        made._areas = {other: self._areas[other] for other in self._areas}
-        for one in self._tree.account_lines[name]:
-            kept = self._kept_areas(one, made._newest)
-            for period in areas:
-                kept[period] = kept.get(period, 0) + areas[period]
-            made._areas[one] = kept
-        return made
+        return accounts_with(self._areas.with_more({name: {period: area} if area > 0 else {}}))
 
     def use_of(self, name, period):
         """The use of an account in a period."""
         self._check_name(name)
         self._check_period(period)
-        return self._use(name, period)
+        return self._areas.use(name, period)
 
     def fraction_of(self, name):
         """The fraction of an account, in lowest terms."""
@@ -77,23 +62,23 @@ class Accounts:
     def fair_order(self, period):
         """The fair order of the names in a period."""
         self._check_period(period)
-        return self._tree.ordered({name: self._use(name, period) for name in self._areas})
+        return self._areas.order_at(period)
 
     def turns(self, period):
         """The pairs (later period, fair order) of all later periods with another order than the one ahead."""
         self._check_period(period)
-        forgets = {}
-        for name in self._areas:
-            for used in self._kept_areas(name, period):
-                forgets.setdefault(used, []).append(name)
+        areas, forgets = self._areas, {}
+        for name in areas.area_rows:
+            for used, area in areas.kept(name, period).items():
+                forgets.setdefault(used, []).append((name, weighed(area, used, period)))
         # Seen from one period all uses are halved alike, so only what is forgotten changes their order.
-        uses = {name: self._use(name, period) for name in self._areas}
-        order = self._tree.ordered(uses)
+        uses = {name: areas.use(name, period) for name in areas.area_rows}
+        order = areas.tree.ordered(uses)
         found = []
         for used in sorted(forgets):
-            for name in forgets[used]:
-                uses[name] = uses[name] - _weighed(self._areas[name][used], used, period)
-            later = self._tree.ordered(uses)
+            for name, share in forgets[used]:
+                uses[name] = uses[name] - share
+            later = areas.tree.ordered(uses)
             if later != order:
                 found.append((used + KEPT_PERIODS + 1, later))
             order = later
@@ -130,25 +115,10 @@ class Accounts:
         return iter(self._tree.tree_rows)
 
     def __eq__(self, other):
-        return isinstance(other, Accounts) and self._key() == other._key()
+        return isinstance(other, Accounts) and self._areas.key() == other._areas.key()
 
     def __str__(self):
         return f"accounts {len(self._tree.tree_rows)}, levels {self.levels}"
-
-    def _key(self):
-        """What is equal for equal accounts."""
-        areas = {name: self._kept_areas(name, self._newest) for name in self._areas}
-        return (self._tree.tree_rows, {name: areas[name] for name in areas if areas[name]})
-
-    def _kept_areas(self, name, period):
-        """A copy of the areas of an account that are not forgotten in a period."""
-        areas = self._areas.get(name, {})
-        return {used: areas[used] for used in areas if period - used <= KEPT_PERIODS}
-
-    def _use(self, name, period):
-        """The use of an account in a period that may be asked."""
-        areas = self._kept_areas(name, period)
-        return sum([_weighed(areas[used], used, period) for used in areas])
 
     def _check_name(self, name):
         """Refuse what is none of the names."""
@@ -157,10 +127,18 @@ class Accounts:
 
     def _check_period(self, period):
         """Refuse a period that is not asked."""
-        if not is_between(period, max(0, self._newest), MAX_ASKED_PERIOD):
+        if not is_between(period, max(0, self._areas.newest_period), MAX_ASKED_PERIOD):
             raise InvalidNumber(period)
 
 
-def _weighed(area, used, period):
-    """How much an area counts, seen from a period."""
-    return area << (KEPT_PERIODS - (period - used))
+def accounts_with(areas):
+    """The accounts with areas that are surely right."""
+    made = Accounts(ONE_ROW)
+    made._tree = areas.tree
+    made._areas = areas
+    return made
+
+
+def areas_of(accounts):
+    """The areas of accounts."""
+    return accounts._areas

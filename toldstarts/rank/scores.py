@@ -92,6 +92,11 @@ def ranked(weights, entries, tick, order):
     _check_score_tick(entries, tick)
     _check_order(order)
     _check_accounts(entries, order)
+    return ranked_surely(weights, entries, tick, order)
+
+
+def ranked_surely(weights, entries, tick, order):
+    """The same for what is surely right. Without a weight of places the order can be empty."""
     return rank(_rows_of(weights, entries, order), tick, weights.age, weights.cap)
 
 
@@ -150,7 +155,7 @@ def _rows_of(weights, entries, order):
 def _row_of(weights, entry, places):
     """The row of an entry: its number, the tick at which it came, and the part of its score that stays."""
     number, came, size, grade, account = entry
-    return (number, came, weights.size * size + weights.grade * grade + weights.place * places[account])
+    return (number, came, weights.size * size + weights.grade * grade + weights.place * places.get(account, 0))
 
 
 def _places_of(order):

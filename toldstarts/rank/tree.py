@@ -16,20 +16,9 @@ class Tree:
         self.tree_rows = ascending
         self.parents = {name: parent for name, parent, _ in ascending}
         self.shares = {name: share for name, _, share in ascending}
-        below = {name: [] for name in [ROOT] + list(self.parents)}
-        for name, parent, _ in ascending:
-            below[parent].append(name)
-        self.below = below
+        self.below = _children_of(ascending)
         self.account_lines = {name: line_of(self.parents, name) for name in self.parents}
-        factors = {}
-        for names in below.values():
-            whole = 1
-            for name in names:
-                whole = lcm(whole, self.shares[name])
-            for name in names:
-                # Uses times these are in the order of uses divided by shares.
-                factors[name] = whole // self.shares[name]
-        self.factors = factors
+        self.factors = _factors_of(self.below, self.shares)
 
     def fraction(self, name):
         """The fraction of an account, in lowest terms."""
@@ -59,6 +48,28 @@ def are_account_rows(value, most, levels):
     if len(parents) < len(value) or not all([parent == ROOT or parent in parents for parent in parents.values()]):
         return False
     return all([_is_short_line(parents, name, levels) for name in parents])
+
+
+def _children_of(rows):
+    """For each account of ascending rows, and for the roots, the ascending names of the children."""
+    below = {ROOT: []}
+    for name, _, _ in rows:
+        below[name] = []
+    for name, parent, _ in rows:
+        below[parent].append(name)
+    return below
+
+
+def _factors_of(below, shares):
+    """For each account a factor: the uses of children times theirs are in the order of the uses divided by shares."""
+    factors = {}
+    for names in below.values():
+        whole = 1
+        for name in names:
+            whole = lcm(whole, shares[name])
+        for name in names:
+            factors[name] = whole // shares[name]
+    return factors
 
 
 def line_of(parents, name):

@@ -42,6 +42,22 @@ def is_true(f, words):
     return word in words[rest]
 
 
+def is_true_in(f, states):
+    """Whether a formula is true in the states of some jobs, of which those that are not told wait."""
+    word, rest = f
+    if word == "and":
+        for part in rest:
+            if not is_true_in(part, states):
+                return False
+        return True
+    if word == "or":
+        for part in rest:
+            if is_true_in(part, states):
+                return True
+        return False
+    return word in TRUE_WORDS[states.get(rest, "waiting")]
+
+
 def may_be_true(f, states, held):
     """Whether a formula is true in some outcome of states while the jobs of a dict are held."""
     choices = []

@@ -1,6 +1,6 @@
 """Desks: a log that is changed, pledges that are kept, and changes that are taken back."""
 
-from toldstarts.base.checks import is_whole
+from toldstarts.base.checks import is_between, is_whole
 from toldstarts.base.ticks import is_tick
 from toldstarts.errors import InvalidNumber, InvalidPaper, Refused, TooMany, UnknownName
 from toldstarts.work.log import check_log
@@ -49,7 +49,7 @@ class Desk:
         """Demand a pledge."""
         if not _is_pledge(pledge) or pledge in self._pledges:
             raise InvalidPaper("the value is no pledge, or is demanded already")
-        if pledge[1] not in self._log.last_house():
+        if not is_between(pledge[1], 1, len(self._log.last_inside().comers)):
             raise UnknownName(pledge[1])
         if len(self._pledges) >= MAX_PLEDGES:
             raise TooMany(MAX_PLEDGES)
@@ -156,25 +156,27 @@ def _is_pledge(value):
     return value[0] == "start" and is_tick(value[2])
 
 
-def _is_kept(house, pledge):
+def _is_kept(inside, pledge):
     """Whether a pledge holds."""
     word, number = pledge[0], pledge[1]
-    if number not in house:
+    if number not in inside.comers:
         return False
     if word == "kept":
-        return not house.was_put_off(number)
+        return number not in inside.put_off
+    stands = inside.stands(number)
     if word == "runs":
-        return house.stands(number) in ("runs", "over")
-    start = house.told_starts.get(number, house.begun_tick(number))
+        return stands in ("runs", "over")
+    start = inside.table.start_of(number) if stands == "told" else inside.begun_at.get(number)
     return start is not None and start <= pledge[2]
 
 
 def _refuse_broken(log, pledges):
     """Refuse a log behind which a pledge does not hold."""
-    house = log.last_house()
-    for pledge in pledges:
-        if not _is_kept(house, pledge):
-            raise Refused(("pledge", pledge))
+    if pledges:
+        inside = log.last_inside()
+        for pledge in pledges:
+            if not _is_kept(inside, pledge):
+                raise Refused(("pledge", pledge))
 
 
 def _first_difference(one, other):

@@ -4,7 +4,7 @@ What does a deed is called with a copy of the inside, which is thrown away behin
 deed itself.
 """
 
-from toldstarts.base.amounts import Amounts
+from toldstarts.base.checks import without_key
 from toldstarts.errors import InvalidDeed, InvalidJob, Refused, TooMany, UnknownName
 from toldstarts.jobs.likes import Row
 from toldstarts.plan.asks import Bid
@@ -19,7 +19,7 @@ MOST_AT_ONCE_ROWS = 24
 def done(inside, deed):
     """Do what has the form of a deed; tell all events."""
     action = ACTIONS[deed[0]]
-    starts = inside.table.starts_told()
+    starts = {} if deed[0] == "wait" else inside.table.starts_told()
     events = list(action(inside, deed))
     inside.deeds_done = inside.deeds_done + 1
     if deed[0] != "wait":
@@ -39,7 +39,7 @@ def _moves(inside, starts, deed):
         if new is not None and new < old:
             found.append((now, "drawn", number, old, new))
         else:
-            inside.put_off[number] = True
+            inside.put_off = {**inside.put_off, number: True}
             found.append((now, "put off", number, old, new, inside.deeds_done))
     return found
 
@@ -47,51 +47,39 @@ def _moves(inside, starts, deed):
 def _come(inside, deed):
     """A job comes."""
     job = deed[1]
-    _check_comer(inside, job, job, Amounts())
+    reason, bid = inside.rules.answer(job)
+    if reason is not None:
+        raise Refused(reason)
     _refuse_many(inside, 1)
-    return _let_come(inside, job, 1)
+    return _let_come(inside, job, bid, 1)
 
 
 def _row(inside, deed):
     """A row of like jobs comes."""
     _, job, indices, once = deed
     row = Row(len(inside.comers) + 1, indices, at_once=once)
-    _check_comer(inside, job, _part_of(row, job), row.amounts)
+    reason, bid = inside.rules.answer(job) if once is None else _answer_beside(inside, job, row)
+    if reason is not None:
+        raise Refused(reason)
     _refuse_many(inside, len(row))
     if once is not None:
         if len([one for one in inside.like_rows if one.at_once is not None]) >= MOST_AT_ONCE_ROWS:
             raise TooMany(MOST_AT_ONCE_ROWS)
         inside.table.more(row.amounts)
+        # The bid of the settings does not tell where the house has the kind of the row.
+        ground = inside.table.ground
+        bid = Bid(ground.layout, ground.house_shifts, bid.asked)
     inside.like_rows = inside.like_rows + (row,)
-    return _let_come(inside, row.part(job), len(row))
+    return _let_come(inside, row.part(job), bid, len(row))
 
 
-def _check_comer(inside, job, part, amounts):
-    """Refuse a job that cannot come in; `part` is what comes of it, or None, with amounts more for the house."""
-    rules = inside.rules
-    kinds = [kind for _, _, some in job.groups for kind in some.kinds] + list(job.tokens.kinds)
-    odd = [kind for kind in kinds if not kind.isalpha()]
-    if odd:
-        raise Refused(("kinds", min(odd)))
-    limits = rules.house_limits
-    if job.account not in limits.accounts:
-        raise Refused(("account", job.account))
-    doors = rules.house_doors.usable(job)
-    if not doors:
-        raise Refused(("doors",))
-    beyond = [(door, limits.beyond(job, door)) for door in doors]
-    if all([indices for _, indices in beyond]):
-        raise Refused(("limits", tuple(beyond)))
-    if part is None or not rules.can_start(part, amounts):
-        raise Refused(("never",))
-
-
-def _part_of(row, job):
-    """The job that each part of a row is, or None if there is no such job."""
+def _answer_beside(inside, job, row):
+    """The pair of the reason to refuse a row of a job with an at once, or None, and of a bid of its parts."""
     try:
-        return row.part(job)
+        part = row.part(job)
     except InvalidJob:
-        return None
+        part = None
+    return inside.rules.answer_beside(job, part, inside.rules.first_ground.with_stock(row.amounts))
 
 
 def _refuse_many(inside, many):
@@ -102,16 +90,19 @@ def _refuse_many(inside, many):
         raise TooMany(MOST_NUMBERS)
 
 
-def _let_come(inside, job, many):
+def _let_come(inside, job, bid, many):
     """Let so many like jobs come."""
-    ground, now = inside.table.ground, inside.table.clock
-    bid = Bid(ground.layout, ground.house_shifts, inside.rules.ask_of(job))
-    first = len(inside.comers) + 1
+    now, first = inside.table.clock, len(inside.comers) + 1
+    comers, arrivals, states, bids = dict(inside.comers), dict(inside.arrivals), dict(inside.states), dict(inside.bids)
     for number in range(first, first + many):
-        inside.comers[number] = job
-        inside.arrivals[number] = now
-        inside.states[number] = "waiting"
-        inside.bids[number] = bid
+        comers[number] = job
+        arrivals[number] = now
+        states[number] = "waiting"
+        bids[number] = bid
+    inside.comers = comers
+    inside.arrivals = arrivals
+    inside.states = states
+    inside.bids = bids
     return [(now, "came", number) for number in range(first, first + many)]
 
 
@@ -137,7 +128,7 @@ def _hold(inside, deed):
         raise Refused(("held", number))
     if inside.stands(number) == "told":
         inside.table.end_early(number)
-    inside.held_numbers[number] = True
+    inside.held_numbers = {**inside.held_numbers, number: True}
     return []
 
 
@@ -147,7 +138,7 @@ def _let(inside, deed):
     _check_number(inside, number)
     if number not in inside.held_numbers:
         raise Refused(("held", number))
-    del inside.held_numbers[number]
+    inside.held_numbers = without_key(inside.held_numbers, number)
     return []
 
 

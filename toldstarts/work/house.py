@@ -4,11 +4,12 @@ from toldstarts.base.checks import is_between
 from toldstarts.errors import InvalidDeed, UnknownName
 from toldstarts.jobs.likes import fold_states
 from toldstarts.plan.places import yard_of
+from toldstarts.rank.accounts import accounts_with
 from toldstarts.rank.scores import order_turns
 from toldstarts.work.deeds import is_deed
 from toldstarts.work.doing import done
-from toldstarts.work.inside import Inside
-from toldstarts.work.rules import Rules, check_setting
+from toldstarts.work.inside import new_inside
+from toldstarts.work.rules import check_setting
 from toldstarts.work.whys import reasons_of
 
 MAX_OPEN = 60
@@ -23,8 +24,7 @@ class House:
     def __init__(self, machines, tokens, doors, limits, weights, depth=5, fill=False, period=100, windows=()):
         setting = (machines, tokens, doors, limits, weights, depth, fill, period, windows)
         check_setting(setting)
-        self._inside = Inside(Rules(setting))
-        self._yard = yard_of(self._inside.table.ground)
+        self._inside = new_inside(setting)
 
     @property
     def setting(self):
@@ -76,7 +76,7 @@ class House:
     @property
     def yard(self):
         """The yard of the board."""
-        return self._yard
+        return yard_of(self._inside.table.ground)
 
     @property
     def rows(self):
@@ -86,7 +86,7 @@ class House:
     @property
     def accounts(self):
         """The accounts with all uses."""
-        return self._inside.used
+        return accounts_with(self._inside.used)
 
     def do(self, deed):
         """Do a deed; tell its events."""
@@ -94,14 +94,12 @@ class House:
             raise InvalidDeed("the value is no deed")
         made = self._inside.copied()
         events = done(made, deed)
-        self._become(made)
+        self._inside = made
         return events
 
     def twin(self):
         """An equal house that goes on by itself."""
-        made = House(*self._inside.rules.all_settings)
-        made._become(self._inside.copied())
-        return made
+        return house_with(self._inside.copied())
 
     def row(self):
         """The numbers of the ready jobs, ranked."""
@@ -131,7 +129,7 @@ class House:
         """The turns of the row behind the present tick, without further uses."""
         inside = self._inside
         rules = inside.rules
-        return order_turns(rules.score_weights, inside.entries(), inside.used, inside.table.clock, rules.cycle)
+        return order_turns(rules.score_weights, inside.entries(), self.accounts, inside.table.clock, rules.cycle)
 
     def earlier(self, number):
         """The earliest place to which a told job can come, or None."""
@@ -147,14 +145,6 @@ class House:
         """Why a job does not run."""
         self._check_number(number)
         return reasons_of(self._inside, number)
-
-    def begun_tick(self, number):
-        """The tick at which a job has begun that was not put back since, or None."""
-        return self._inside.begun_at.get(number)
-
-    def was_put_off(self, number):
-        """Whether a job was ever put off."""
-        return number in self._inside.put_off
 
     def __contains__(self, x):
         return is_between(x, 1, len(self._inside.comers))
@@ -172,13 +162,9 @@ class House:
     def _key(self):
         """What is equal for equal houses."""
         inside = self._inside
-        board = (self._yard, self.now, self.told, self.runs)
-        return (self.setting, self.deeds, inside.comers, inside.states, self.held, self.untold, inside.used, board)
-
-    def _become(self, inside):
-        """Go on with another inside."""
-        self._inside = inside
-        self._yard = yard_of(inside.table.ground)
+        board = (self.yard, self.now, self.told, self.runs)
+        jobs = (inside.comers, inside.states, self.held, self.untold)
+        return (self.setting, self.deeds, jobs, inside.used.key(), board)
 
     def _check_number(self, number):
         """Refuse what is no number of a job."""
@@ -189,3 +175,10 @@ class House:
         """Refuse what is no number of a told job."""
         if number not in self or number not in self._inside.table.told_keys:
             raise UnknownName(number)
+
+
+def house_with(inside):
+    """The house with an inside that is surely right, which is that of the house alone."""
+    made = House(*inside.rules.all_settings)
+    made._inside = inside
+    return made

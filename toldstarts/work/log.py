@@ -7,16 +7,18 @@ from toldstarts.jobs.reader import write_job
 from toldstarts.plan.limits import Doors, Limits
 from toldstarts.rank.accounts import Accounts
 from toldstarts.work.deeds import is_deed
-from toldstarts.work.house import House
+from toldstarts.work.doing import done
+from toldstarts.work.house import house_with
+from toldstarts.work.inside import new_inside
 from toldstarts.work.reading import read_parts
+from toldstarts.work.rules import check_setting
 from toldstarts.work.writing import deed_lines, setting_lines
 
 MAX_DEEDS = 1000
 MAX_JOB_TEXT = 4000
 
 SETTINGS = 9
-# A house is kept behind each so many deeds: from the next one behind it an edited log is done anew.
-KEPT_DEEDS = 25
+JOBS_PER_STEP = 8
 
 
 class Log:
@@ -25,13 +27,16 @@ class Log:
     def __init__(self, setting, deeds=()):
         if not isinstance(setting, tuple) or len(setting) != SETTINGS:
             raise InvalidHouse("the setting is no tuple of nine")
+        check_setting(setting)
+        _check_deeds(deeds)
         self._setting = setting
-        self._house = House(*setting)
         self._deeds = ()
         self._events = ()
-        self._kept = [self._house]
-        _check_deeds(deeds)
-        self._go_on(deeds)
+        # The pairs (number of deeds, inside of the house behind them) that are kept, ascending. None of these insides
+        # changes: a log that begins with the same deeds is made from them.
+        self._kept = ()
+        if deeds:
+            self._go_on(deeds)
 
     @property
     def setting(self):
@@ -50,27 +55,27 @@ class Log:
 
     def house(self):
         """The house behind all deeds, each time another one."""
-        return self._house.twin()
+        return house_with(self.last_inside().copied())
 
     def with_deed(self, deed):
         """The log with one more deed."""
-        house = self._house.twin()
-        events = house.do(deed)
+        if not is_deed(deed):
+            raise InvalidDeed("the value is no deed")
+        inside = self.last_inside().copied()
+        events = done(inside, deed)
         if len(self._deeds) >= MAX_DEEDS:
             raise TooMany(MAX_DEEDS)
-        made = self._part(len(self._deeds) // KEPT_DEEDS)
-        made._house = house
+        made = self._part(len(self._deeds))
         made._deeds = self._deeds + (deed,)
         made._events = self._events + (events,)
-        if len(made._deeds) % KEPT_DEEDS == 0:
-            made._kept.append(house)
+        made._kept = _with_kept(made._kept, len(made._deeds), inside)
         return made
 
     def until(self, count):
         """The log of the first deeds."""
         if not is_between(count, 0, len(self._deeds)):
             raise InvalidNumber(count)
-        return self._redone(count, ())
+        return self._part(count)
 
     def edited(self, index, gone, deeds):
         """The log in which, from an index on, some deeds are replaced by others."""
@@ -79,11 +84,13 @@ class Log:
         if not is_between(gone, 0, len(self._deeds) - index):
             raise InvalidNumber(gone)
         _check_deeds(deeds)
-        return self._redone(index, deeds + self._deeds[index + gone:])
+        made = self._part(index)
+        made._go_on(deeds + self._deeds[index + gone:])
+        return made
 
     def history(self, number):
         """The pairs (deed, event) of all events of a job."""
-        if number not in self._house:
+        if not is_between(number, 1, len(self.last_inside().comers)):
             raise UnknownName(number)
         return tuple([(deed, event) for deed, events in enumerate(self._events, start=1) for event in events
                       if event[2] == number])
@@ -100,40 +107,40 @@ class Log:
     def __str__(self):
         return f"log of {len(self._deeds)} deeds"
 
-    def last_house(self):
-        """The house behind all deeds itself, which must not be changed."""
-        return self._house
+    def last_inside(self):
+        """The inside of the house behind all deeds itself, which must not be changed."""
+        many = len(self._deeds)
+        if not self._kept:
+            self._kept = ((0, new_inside(self._setting)),)
+        count, inside = self._kept[-1]
+        if count < many:
+            inside = inside.copied()
+            for deed in self._deeds[count:]:
+                done(inside, deed)
+            self._kept = self._kept + ((many, inside),)
+        return inside
 
-    def _part(self, many):
-        """The log up to a kept house, which is to be gone on with before it is passed on."""
+    def _part(self, count):
+        """The log of the first deeds."""
         made = Log(self._setting)
-        made._kept = self._kept[:many + 1]
-        made._house = made._kept[many]
-        made._deeds = self._deeds[:many * KEPT_DEEDS]
-        made._events = self._events[:many * KEPT_DEEDS]
-        return made
-
-    def _redone(self, count, deeds):
-        """The log of the first deeds with others behind them."""
-        many = count // KEPT_DEEDS
-        made = self._part(many)
-        made._go_on(self._deeds[many * KEPT_DEEDS:count] + deeds)
+        made._deeds = self._deeds[:count]
+        made._events = self._events[:count]
+        made._kept = tuple([row for row in self._kept if row[0] <= count])
         return made
 
     def _go_on(self, deeds):
         """Do further deeds, which have the right form."""
         if len(self._deeds) + len(deeds) > MAX_DEEDS:
             raise TooMany(MAX_DEEDS)
-        house, found, kept = self._house.twin(), list(self._events), list(self._kept)
+        inside, found, kept = self.last_inside(), list(self._events), self._kept
         for deed in deeds:
+            inside = inside.copied()
             try:
-                events = house.do(deed)
+                events = done(inside, deed)
             except (HouseError, UnknownName, Refused, TooMany, InvalidNumber, Lacking):
                 raise Refused(("deed", len(found)))
             found.append(events)
-            if len(found) % KEPT_DEEDS == 0:
-                kept.append(house.twin())
-        self._house = house
+            kept = _with_kept(kept, len(found), inside)
         self._deeds = self._deeds + deeds
         self._events = tuple(found)
         self._kept = kept
@@ -171,3 +178,13 @@ def _check_deeds(value):
     """Refuse what is no tuple of deeds by their forms."""
     if not isinstance(value, tuple) or not all([is_deed(deed) for deed in value]):
         raise InvalidDeed("the value is no tuple of deeds")
+
+
+def _with_kept(kept, count, inside):
+    """The kept insides with that behind all deeds, of which the one ahead of it stays only if it lies far enough ahead.
+
+    The more jobs have come, the more an inside holds, and the fewer are kept.
+    """
+    if len(kept) > 1 and kept[-1][0] - kept[-2][0] <= len(inside.comers) // JOBS_PER_STEP:
+        kept = kept[:-1]
+    return kept + ((count, inside),)

@@ -6,15 +6,17 @@ from toldstarts.errors import InvalidHouse, InvalidJob, InvalidNumber
 from toldstarts.house.machines import is_machine_name
 from toldstarts.plan.asks import Bid
 from toldstarts.plan.ground import new_ground
-from toldstarts.plan.limits import check_doors, check_limits
+from toldstarts.plan.limits import ask_of, check_doors, check_limits
 from toldstarts.plan.places import check_machines
-from toldstarts.plan.search import earliest_at_all
+from toldstarts.plan.search import is_ever_free
 from toldstarts.plan.told import check_depth, check_fill
 from toldstarts.rank.scores import check_weights
 from toldstarts.room.rooms import MAX_PERIOD
 
 MOST_TOKENS = 12
 MOST_WINDOWS = 40
+
+MOST_KNOWN = 64
 
 
 class Rules:
@@ -32,23 +34,52 @@ class Rules:
         self.is_filling = fill
         self.cycle = period
         self.places_by_name = places
-        self.first_ground = new_ground(machines, tokens + limits.amounts, period).with_turns(turns)
+        ground = new_ground(machines, tokens + limits.amounts, period)
+        self.first_ground = ground.with_turns(turns) if turns else ground
+        # What was answered to jobs, by what the answer hangs on: many jobs that come are alike.
+        self.known_answers = {}
 
-    def ask_of(self, job):
-        """What a job asks, or None if its amounts of the house are too many."""
-        try:
-            return self.house_limits.ask(self.house_doors, job)
-        except InvalidJob:
-            return None
+    def answer(self, job):
+        """The pair of the reason to refuse a job that comes, or None, and of its bid."""
+        mark = (job.account, job.person, job.limit, job.doors)
+        rows = self.known_answers.get(mark, ())
+        for groups, tokens, found in rows:
+            if groups == job.groups and tokens == job.tokens:
+                return found
+        if len(self.known_answers) >= MOST_KNOWN or len(rows) >= MOST_KNOWN:
+            self.known_answers = {}
+            rows = ()
+        found = self.answer_beside(job, job, self.first_ground)
+        self.known_answers[mark] = rows + ((job.groups, job.tokens, found),)
+        return found
 
-    def can_start(self, job, amounts):
-        """Whether a job ever has a place in the yard of the settings, with some amounts more for the house."""
-        asked = self.ask_of(job)
-        if asked is None:
-            return False
-        ground = self.first_ground.with_stock(amounts)
-        bid = Bid(ground.layout, ground.house_shifts, asked)
-        return earliest_at_all(ground, bid, job.limit, 0) is not None
+    def answer_beside(self, job, part, ground):
+        """The same if a part, or None, is what comes of the job, and the settings make another ground."""
+        kinds = [kind for _, _, some in job.groups for kind, _ in some.pairs] + list(job.tokens.kinds)
+        odd = [kind for kind in kinds if not kind.isalpha()]
+        if odd:
+            return (("kinds", min(odd)), None)
+        limits = self.house_limits
+        if job.account not in limits.accounts:
+            return (("account", job.account), None)
+        needs = [(door, limits.needs_at(job, door)) for door in self.house_doors.usable(job)]
+        if not needs:
+            return (("doors",), None)
+        beyond = [(door, limits.too_great(pairs)) for door, pairs in needs]
+        if all([indices for _, indices in beyond]):
+            return (("limits", tuple(beyond)), None)
+        bid = None if part is None else _bid_in(ground, part, [pairs for _, pairs in needs])
+        return (("never",), None) if bid is None else (None, bid)
+
+
+def _bid_in(ground, job, needs):
+    """The bid of a job with its needs at each usable door, or None if there is no place for it from the tick 0 on."""
+    try:
+        asked = ask_of(job, needs)
+    except InvalidJob:
+        return None
+    bid = Bid(ground.layout, ground.house_shifts, asked)
+    return bid if is_ever_free(ground, bid, job.limit, 0) else None
 
 
 def check_setting(setting):

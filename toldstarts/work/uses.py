@@ -4,7 +4,7 @@ from toldstarts.rank.accounts import KEPT_PERIODS
 
 
 def with_run_uses(inside, end):
-    """The accounts of a house with what its runs use from the present tick up to an end."""
+    """The areas of the accounts of a house with what its runs use from the present tick up to an end."""
     now, cycle = inside.table.clock, inside.rules.cycle
     sizes = {}
     for number in inside.table.running:
@@ -13,11 +13,11 @@ def with_run_uses(inside, end):
     # Whatever is older than the kept periods is never seen.
     last = (end - 1) // cycle
     first = max(now // cycle, last - KEPT_PERIODS)
-    used = inside.used
+    ticks = {period: _ticks_in(period, cycle, now, end) for period in range(first, last + 1)}
+    more = {}
     for name, size in sizes.items():
-        areas = {period: size * _ticks_in(period, cycle, now, end) for period in range(first, last + 1)}
-        used = used.with_areas(name, areas)
-    return used
+        more[name] = {period: size * ticks[period] for period in ticks}
+    return inside.used.with_more(more)
 
 
 def _ticks_in(period, cycle, begin, end):
