@@ -34,17 +34,22 @@ def least_choice(counts, fits, racks, fields):
         members = _members_in_one_rack(counts[0], fits, racks)
         if members is not None:
             return (members,)
-    useful = sorted(set([rack for fit, rack in zip(fits, racks) if fit]))
+    covers = {}
+    for fit, rack in zip(fits, racks):
+        if fit:
+            covers[rack] = covers.get(rack, 0) + fields.meeting[fit]
+    useful = sorted(covers)
     slacks, sizes = [fields.slack_without_members(counts)], [0]
     for rack in useful:
-        cover = sum([fields.meeting[fit] for fit, other in zip(fits, racks) if other == rack])
+        cover = covers[rack]
         slacks = slacks + [slack + cover for slack in slacks]
         sizes = sizes + [size + 1 for size in sizes]
-    enough = [(size, some, slack) for some, (size, slack) in enumerate(zip(sizes, slacks)) if fields.are_even(slack)]
+    tops = fields.tops
+    enough = [some for some, slack in enumerate(slacks) if slack & tops == tops]
     if not enough:
         return None
-    fewest = min([size for size, _, _ in enough])
-    alive = [(some, slack) for size, some, slack in enough if size == fewest]
+    fewest = min([sizes[some] for some in enough])
+    alive = [(some, slacks[some]) for some in enough if sizes[some] == fewest]
     places = {rack: 1 << at for at, rack in enumerate(useful)}
     return _first_choice(counts, fits, [places.get(rack, 0) for rack in racks], alive, fields)
 
@@ -97,7 +102,7 @@ def _first_choice(counts, fits, places, alive, fields):
 
     Pairs of a set of racks and its slacks are alive while all that has been chosen leaves a choice there.
     """
-    left = list(fits)
+    left, tops = list(fits), fields.tops
     choice = []
     for group, count in enumerate(counts):
         members = []
@@ -106,7 +111,7 @@ def _first_choice(counts, fits, places, alive, fields):
                 cost = fields.cost(left[member], group)
                 rest = [(some, slack - cost) for some, slack in alive if some & places[member]]
                 # The groups that do not get this member must be able to do without it.
-                rest = [row for row in rest if fields.are_even(row[1])]
+                rest = [row for row in rest if row[1] & tops == tops]
                 if rest:
                     alive = rest
                     members.append(member)

@@ -10,7 +10,7 @@ from toldstarts.base.amounts import Amounts
 from toldstarts.base.checks import is_ascending, is_between
 from toldstarts.house.choices import is_groups
 from toldstarts.house.slack import least_choice
-from toldstarts.plan.layout import house_tops, packed_house
+from toldstarts.plan.layout import packed_house, packed_with_tops
 
 MAX_KEY = 1000000
 MAX_LENGTH = 1000000
@@ -67,8 +67,7 @@ class Bid:
     def __init__(self, layout, shifts, ask):
         sides, places = _sides_of(layout, ask)
         copies = max(len(ask), sum([len(side.counts) for side in sides]))
-        strides = [layout.stride * at for at in range(copies)]
-        repeat = sum([1 << stride for stride in strides])
+        strides, repeat, fillers, guards = layout.copies(copies)
         members = wanted = tops = 0
         doors = []
         for side in sides:
@@ -78,9 +77,10 @@ class Bid:
                 tops = tops + (row[2] << stride)
         for stride, (_, amounts), place in zip(strides, ask, places):
             own = None
-            if all([kind in shifts for kind in amounts.kinds]):
-                own = house_tops(shifts, amounts) << stride
-                wanted = wanted + (packed_house(shifts, amounts) << stride)
+            house_row = packed_with_tops(shifts, amounts.pairs)
+            if house_row is not None:
+                wanted = wanted + (house_row[0] << stride)
+                own = house_row[1] << stride
                 tops = tops + own
             doors.append((place, own))
         self.layout = layout
@@ -92,8 +92,8 @@ class Bid:
         self.bid_members = members
         self.bid_wanted = wanted
         self.bid_tops = tops
-        self.bid_fillers = layout.fillers * repeat
-        self.bid_guards = layout.all_guards * repeat
+        self.bid_fillers = fillers
+        self.bid_guards = guards
 
     def tops_at(self, base):
         """The tops that are set where the integer of the yard is this one."""
@@ -151,6 +151,8 @@ class Side:
         self.bottom = bottom
         self.strides = [bottom + layout.stride * at for at in range(len(groups))]
         self.group_rows = [layout.wanted_of(formula, amounts) for _, formula, amounts in groups]
+        self.fields = layout.set_fields(len(groups))
+        self.lacking = self.fields.slack_without_members(self.counts)
         # Jobs that wait are looked at again and again: what was found for some members that fit is kept.
         self.known_answers = {}
         self.known_choices = {}
@@ -163,7 +165,9 @@ class Side:
         if fits not in self.known_answers:
             if len(self.known_answers) >= MOST_KNOWN:
                 self.known_answers = {}
-            self.known_answers[fits] = self._fields().is_enough(self.counts, self._fit_sets(fits))
+            meeting, tops = self.fields.meeting, self.fields.tops
+            slack = self.lacking + sum([meeting[fit] for fit in self._fit_sets(fits)])
+            self.known_answers[fits] = slack & tops == tops
         return self.known_answers[fits]
 
     def choice_of(self, fits):
@@ -172,7 +176,7 @@ class Side:
             if len(self.known_choices) >= MOST_KNOWN:
                 self.known_choices = {}
             fit_sets = self._fit_sets(fits)
-            self.known_choices[fits] = least_choice(self.counts, fit_sets, self.layout.racks, self._fields())
+            self.known_choices[fits] = least_choice(self.counts, fit_sets, self.layout.racks, self.fields)
         return self.known_choices[fits]
 
     def has_members(self, choice, fits):
@@ -182,10 +186,6 @@ class Side:
             if not all([mask & self.layout.guards[member] for member in members]):
                 return False
         return True
-
-    def _fields(self):
-        """The fields of all sets of so many groups."""
-        return self.layout.set_fields(len(self.counts))
 
     def _fit_sets(self, fits):
         """For each machine the set of the groups that it fits, as house/slack.py uses them."""

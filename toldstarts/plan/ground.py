@@ -8,6 +8,7 @@ from toldstarts.base.steps import lowered_steps
 from toldstarts.errors import TooMany
 from toldstarts.plan.asks import members_of
 from toldstarts.plan.layout import Layout, more_shifts, raised_bases
+from toldstarts.room.fields import EVEN
 from toldstarts.plan.shutters import Shutter, meets_window, window_end
 
 MOST_LOOKED = 20000
@@ -158,7 +159,8 @@ def new_ground(machines, amounts, cycle):
     """A ground in which nothing is shut or placed."""
     layout = Layout(machines)
     shifts = more_shifts(layout, {}, amounts)
-    return Ground(layout, cycle, amounts, shifts, raised_bases([layout.empty_base], {}, shifts, amounts))
+    base = layout.empty_base + sum([(EVEN + number) << shifts[kind] for kind, number in amounts.pairs])
+    return Ground(layout, cycle, amounts, shifts, [base])
 
 
 def check_looked(ground, since):
@@ -169,8 +171,10 @@ def check_looked(ground, since):
 
 def are_surely_few(ground, since):
     """Whether there are surely not more ticks to be looked at than the most; so it is with fewer places, too."""
-    turns = (ground.horizon(since) - since) // ground.cycle + 1
-    return turns * len(ground.turn_rows) + len(ground.stays) + len(ground.span_rows) <= MOST_LOOKED
+    many = len(ground.stays) + len(ground.span_rows)
+    if ground.turn_rows:
+        many = many + len(ground.turn_rows) * ((ground.horizon(since) - since) // ground.cycle + 1)
+    return many <= MOST_LOOKED
 
 
 def _looked_ticks(ground, since):

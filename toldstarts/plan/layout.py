@@ -19,36 +19,33 @@ class Layout:
         bottoms = []
         shifts = []
         guards = []
-        alike = {}
-        base = fillers = bottom = 0
+        base = bottom = 0
         for machine in crew:
-            kinds = machine.amounts.kinds
-            bottoms.append(bottom)
-            own = {kind: bottom + FIELD * (at + 1) for at, kind in enumerate(kinds)}
-            shifts.append(own)
-            top = bottom + FIELD * (len(kinds) + 1)
-            guards.append(1 << top)
+            own, top = {}, bottom + FIELD
             base = base + (EVEN << bottom)
-            base = base + sum([(EVEN + number) << own[kind] for kind, number in machine.amounts.pairs])
-            fillers = fillers + (1 << top) - (1 << bottom)
-            first, ones, some = alike.get((machine.marks, kinds), (len(shifts) - 1, 0, 0))
-            alike[(machine.marks, kinds)] = (first, ones + (1 << bottom), some + (1 << top))
+            for kind, number in machine.amounts.pairs:
+                own[kind] = top
+                base = base + ((EVEN + number) << top)
+                top = top + FIELD
+            bottoms.append(bottom)
+            shifts.append(own)
+            guards.append(1 << top)
             bottom = top + 1
         self.crew = crew
-        # For all machines with the same marks and kinds: the first one, a one at the bottom of each, and their guards.
-        self.alike = alike
         self.racks = [machine.rack for machine in crew]
         self.bottoms = bottoms
         self.shifts = shifts
         self.guards = guards
         self.all_guards = sum(guards)
         # All bits of each segment below its guard: added to some tops, they set the guards of their segments.
-        self.fillers = fillers
+        self.fillers = self.all_guards - sum([1 << own_bottom for own_bottom in bottoms])
+        self.alike = _alike(crew, bottoms, shifts, guards)
         self.empty_base = base
         self.house_bottom = bottom
         # How far two copies of such an integer must stand apart, whatever kinds the house will get.
         self.stride = bottom + FIELD * MAX_KINDS
-        # The fields of all sets of groups, by the number of the groups.
+        # What many bids use: copies by their number, and the fields of all sets of groups by the number of the groups.
+        self.known_copies = {}
         self.known_fields = {}
 
     def packed(self, at, amounts):
@@ -63,13 +60,21 @@ class Layout:
         """
         members = wanted = tops = 0
         pairs = amounts.pairs
-        for (marks, kinds), (first, ones, guards) in self.alike.items():
-            if all([kind in kinds for kind, _ in pairs]) and is_true(formula, marks):
-                shifts, bottom = self.shifts[first], self.bottoms[first]
+        for (marks, _), (fields, ones, guards) in self.alike.items():
+            own = packed_with_tops(fields, pairs)
+            if own is not None and is_true(formula, marks):
                 members = members + guards
-                wanted = wanted + ones * (sum([number << shifts[kind] for kind, number in pairs]) >> bottom)
-                tops = tops + ones * (EVEN + (sum([EVEN << shifts[kind] for kind, _ in pairs]) >> bottom))
+                wanted = wanted + ones * own[0]
+                tops = tops + ones * (EVEN + own[1])
         return (members, wanted, tops)
+
+    def copies(self, many):
+        """Where so many copies stand, a one at the begin of each, and the fillers and the guards in all of them."""
+        if many not in self.known_copies:
+            strides = [self.stride * at for at in range(many)]
+            repeat = sum([1 << stride for stride in strides])
+            self.known_copies[many] = (strides, repeat, self.fillers * repeat, self.all_guards * repeat)
+        return self.known_copies[many]
 
     def set_fields(self, many):
         """The fields of all sets of so many groups."""
@@ -80,6 +85,22 @@ class Layout:
     def shut_one(self, at):
         """What is held of a machine by one shut span."""
         return 1 << self.bottoms[at]
+
+
+def _alike(crew, bottoms, shifts, guards):
+    """For all machines with the same marks and kinds what they have in common.
+
+    This is where the numbers of the kinds stand above the bottom of each, a one at each bottom, and their guards.
+    """
+    found = {}
+    for machine, bottom, own, guard in zip(crew, bottoms, shifts, guards):
+        mark = (machine.marks, machine.amounts.kinds)
+        if mark in found:
+            fields, ones, some = found[mark]
+        else:
+            fields, ones, some = {kind: own[kind] - bottom for kind in own}, 0, 0
+        found[mark] = (fields, ones + (1 << bottom), some + guard)
+    return found
 
 
 def more_shifts(layout, shifts, amounts):
@@ -103,9 +124,15 @@ def packed_house(shifts, amounts):
     return sum([number << shifts[kind] for kind, number in amounts.pairs])
 
 
-def house_tops(shifts, amounts):
-    """The tops of the kinds of such amounts."""
-    return sum([EVEN << shifts[kind] for kind, _ in amounts.pairs])
+def packed_with_tops(shifts, pairs):
+    """The numbers of some pairs, and the tops of their kinds; None if there is no shift for one of these."""
+    numbers = tops = 0
+    for kind, number in pairs:
+        if kind not in shifts:
+            return None
+        numbers = numbers + (number << shifts[kind])
+        tops = tops + (EVEN << shifts[kind])
+    return (numbers, tops)
 
 
 def number_in(base, shift):

@@ -118,18 +118,11 @@ class Limits:
 
     def needs_at(self, job, door):
         """The pairs (index, need) of the rows that cover a job of an account that there is, if it needs something."""
-        line, total = self._accounts.line(job.account), dict(job.total.pairs)
-        total[JOBS] = 1
-        found = []
-        for index, ((where, name), what, _) in enumerate(self._rows):
-            if what in total:
-                if where == "account":
-                    is_covered = name in line
-                else:
-                    is_covered = name == (door if where == "door" else job.person)
-                if is_covered:
-                    found.append((index, total[what]))
-        return found
+        line, total = self._accounts.line(job.account), {**dict(job.total.pairs), JOBS: 1}
+        # All names that a row of each kind can have.
+        names = {"account": line, "person": (job.person,), "door": (door,)}
+        return [(index, total[what]) for index, ((where, name), what, _) in enumerate(self._rows)
+                if what in total and name in names[where]]
 
     def too_great(self, needs):
         """The indices of those needs that are above what there ever is."""

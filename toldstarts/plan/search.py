@@ -26,19 +26,18 @@ def _first_start(ground, bid, length, since, end):
 
     An end beyond the horizon is none: a bid that has no place ahead of the horizon never has one.
     """
+    has_windows, failed, start = len(ground.turn_rows) > 0, 0, since
+    last = min(end, ground.horizon(since))
     walk = Walk(ground, bid, length, since)
-    has_windows = len(ground.turn_rows) > 0
-    last, failed = min(end, ground.horizon(since)), 0
-    while walk.start_tick < last:
-        tops = walk.tops_here()
-        begin = walk.start_tick
-        stop = walk.step(last, has_windows)
+    while start < last:
+        tops, begin = walk.tops_from(start), start
+        start = walk.step(last, has_windows)
         # Where no more is free than where no door was open, none is open either.
         if tops & failed != tops:
             fits = bid.fits_of(tops)
             doors = bid.open_doors(tops, fits)
             if doors:
-                found = _first_beside_windows(ground, bid, length, (begin, stop), doors, fits)
+                found = _first_beside_windows(ground, bid, length, (begin, start), doors, fits)
                 if found is not None:
                     return found
             else:
@@ -80,28 +79,29 @@ class Walk:
     """
 
     def __init__(self, ground, bid, length, since):
-        self.ground = ground
+        self.ticks = ground.ticks
+        self.bases = ground.bases
         self.bid = bid
         self.run_length = length
-        self.start_tick = since
         self.at = place_of(ground.ticks, since)
         self.next_at = self.at
         self.front = []
         self.back = []
         self.back_tops = bid.bid_tops
 
-    def tops_here(self):
-        """The tops that are set in all parts of the run that begins here."""
-        ticks, bases = self.ground.ticks, self.ground.bases
-        while self.next_at < len(ticks) and ticks[self.next_at] < self.start_tick + self.run_length:
-            tops = self.bid.tops_at(bases[self.next_at])
+    def tops_from(self, start):
+        """The tops that are set in all parts of the run that begins at a tick, to which the last step led."""
+        ticks, at, end, bid = self.ticks, self.next_at, start + self.run_length, self.bid
+        while at < len(ticks) and ticks[at] < end:
+            tops = (self.bases[at] * bid.repeat - bid.bid_wanted) & bid.bid_tops
             self.back.append(tops)
             self.back_tops = self.back_tops & tops
-            self.next_at = self.next_at + 1
+            at = at + 1
+        self.next_at = at
         if not self.front:
-            self.front = _turned(self.back, self.bid.bid_tops)
+            self.front = _turned(self.back, bid.bid_tops)
             self.back = []
-            self.back_tops = self.bid.bid_tops
+            self.back_tops = bid.bid_tops
         return self.front[-1] & self.back_tops
 
     def step(self, last, is_split):
@@ -109,15 +109,16 @@ class Walk:
 
         A run that goes on into one more part, and leaves none, fits nowhere where it did not before.
         """
-        ticks, stop = self.ground.ticks, last
-        if self.at + 1 < len(ticks):
-            stop = min(stop, ticks[self.at + 1])
+        ticks, stop, leaves = self.ticks, last, False
+        if self.at + 1 < len(ticks) and ticks[self.at + 1] <= stop:
+            stop, leaves = ticks[self.at + 1], True
         if is_split and self.next_at < len(ticks):
-            stop = min(stop, ticks[self.next_at] - self.run_length + 1)
-        if self.at + 1 < len(ticks) and ticks[self.at + 1] == stop:
+            enters = ticks[self.next_at] - self.run_length + 1
+            if enters < stop:
+                stop, leaves = enters, False
+        if leaves:
             self.at = self.at + 1
             self.front.pop()
-        self.start_tick = stop
         return stop
 
 

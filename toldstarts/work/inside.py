@@ -73,7 +73,7 @@ class Inside:
     def entries(self):
         """The entries of the ready jobs, ascending."""
         found = []
-        for number in self.bids:
+        for number in [one for one in self.bids if one not in self.table.ground.stays]:
             if self.is_ready(number):
                 job = self.comers[number]
                 found.append((number, self.arrivals[number], job.size, job.grade, job.account))
