@@ -8,6 +8,7 @@ from toldstarts.errors import InvalidAmounts, InvalidDeed, InvalidHouse, Invalid
 from toldstarts.house.machines import Machine
 from toldstarts.jobs.jobs import Job
 from toldstarts.jobs.likes import Row
+from toldstarts.plan import table
 from toldstarts.plan.limits import Doors, Limits, is_least_broken, least_broken
 from toldstarts.plan.places import earliest_place, is_place_bars
 from toldstarts.rank.accounts import Accounts
@@ -16,6 +17,7 @@ from toldstarts.wait.formulas import is_lost_tree, jobs_named, may_come, true_no
 from toldstarts.wait.stuck import is_stuck_set, stuck_set
 from toldstarts.work import deeds as forms, doing, house as module, inside, rules
 from toldstarts.work.house import House
+from boards import PlainBoard
 from helper import Case, a_job, some
 from houses import ENDS, PlainHouse, some_after, some_deed, some_job, some_setting
 from odd import EVERY, all_but, no_integers
@@ -539,6 +541,29 @@ class Plain(Case):
         self.assertEqual((len(many), len([word for word in words if not word.startswith("why")])), (13, 7))
         self.assertEqual(len([word for word in words if word.startswith("why")]), 6)
         self.assertGreater(min(list(many.values()) + list(words.values())), 2, (many, words))
+
+    def test_against_a_plain_house_that_draws_little_at_once(self):
+        """The house settles as often as the board has to draw its told jobs together further."""
+        chance, many = random.Random(152), {}
+        self.addCleanup(setattr, table, "MOST_MOVES", table.MOST_MOVES)
+        self.addCleanup(setattr, PlainBoard, "most_moves", PlainBoard.most_moves)
+        for at in range(200):
+            table.MOST_MOVES = PlainBoard.most_moves = 1 + at % 2
+            setting = ONE_MACHINE[:4] + (Weights(age=0, grade=1), chance.randrange(1, 6), chance.random() < 0.3, 100, ())
+            house, plain = House(*setting), PlainHouse(*setting)
+            for _ in range(30):
+                number = chance.randrange(1, len(house) + 2)
+                job = SMALL.changed(groups=((1, ALL, some(core=chance.choice((2, 4, 4)))),), limit=chance.randrange(1, 9), grade=chance.randrange(9),
+                                    after=("begun", number) if number <= len(house) and chance.random() < 0.4 else None)
+                deed = ("come", job) if len(house) == 0 or chance.random() < 0.5 else chance.choice((("wait", 1), ("wait", 2), ("leave", number), ("end", (house.runs + (1,))[0], "well"), ("fail", "a"), ("mend", "a")))
+                if (deed[0] == "leave" and number > len(house)) or self.refused_alike(house, plain, deed):
+                    continue
+                events = house.do(deed)
+                self.assertEqual(events, plain.do(deed), deed)
+                self.assertEqual((house.told_starts, house.is_settled), (plain.board.starts(), plain.board.is_settled))
+                drawn = len([event for event in events if event[1] == "drawn"])
+                many[drawn] = many.get(drawn, 0) + 1
+        self.assertGreater(sum([many[drawn] for drawn in many if drawn > 2]), 100, many)
 
     def refused_alike(self, house, plain, deed):
         """Whether a deed is refused, as the plain house tells it; then nothing has changed."""

@@ -96,12 +96,14 @@ class Kept(Case):
     def test_jobs_that_are_nearly_alike(self):
         """A house that has answered to many jobs answers to each further one as a new house does."""
         chance, seen, found = random.Random(191), House(*SETTING), {}
-        for _ in range(1200):
-            group = (chance.choice((1, 1, 2)), chance.choice((ALL, BIG)), chance.choice((some(core=chance.randrange(1, 5)), some(core=1, gpu=1), some(x2=1))))
-            job = JOB.changed(name=chance.choice(("sim", "fit")), account=chance.choice(("team", "team", "lab", "web", "nix")), person=chance.choice(("ada", "bob")),
-                              doors=chance.choice((("day",), ("night",), ("day", "night"), ("night", "day"), ("other", "day"))), grade=chance.randrange(2),
-                              groups=(group,) if chance.random() < 0.7 else (group, JOB.groups[1]), tokens=chance.choice((Amounts(), some(lic=1), some(lic=2), some(lic=3))),
-                              limit=chance.choice((1, 4, 5, 9)), after=chance.choice((None, None, ("begun", 1))))
+        two = ((1, ALL, some(core=1)), (1, BIG, some(core=1)))
+        changes = (("account", ("lab", "web", "nix")), ("person", ("bob",)), ("doors", (("day",), ("night",), ("night", "day"), ("other", "day"))), ("grade", (0,)), ("name", ("fit",)),
+                   ("groups", (two, two[:1], ((2, ALL, some(core=2)),), ((1, BIG, some(core=4)),), ((1, ALL, some(core=9)),), ((1, ALL, some(gpu=1)),), ((1, ALL, some(x2=1)),))),
+                   ("tokens", (Amounts(), some(lic=2), some(lic=3), some(seat=1))), ("limit", (1, 5, 9)), ("after", (("begun", 1), ("ill", 2))))
+        for _ in range(1500):
+            job = JOB.changed(groups=two[1:])
+            for name, others in chance.sample(changes, chance.choice((0, 1, 1, 1, 2, 2, 3))):
+                job = job.changed(**{name: chance.choice(others)})
             deed = chance.choice((("come", job), ("come", job), ("row", job, (1, 2), None), ("row", job, (1, 2, 5), chance.choice((1, 2)))))
             answers = []
             for house in (seen.twin(), House(*SETTING)):

@@ -24,6 +24,7 @@ class House:
     def __init__(self, machines, tokens, doors, limits, weights, depth=5, fill=False, period=100, windows=()):
         setting = (machines, tokens, doors, limits, weights, depth, fill, period, windows)
         check_setting(setting)
+        # No inside that a house has changes: a deed makes another one of it, so houses and logs can share it.
         self._inside = new_inside(setting)
 
     @property
@@ -99,7 +100,7 @@ class House:
 
     def twin(self):
         """An equal house that goes on by itself."""
-        return house_with(self._inside.copied())
+        return house_with(self._inside)
 
     def row(self):
         """The numbers of the ready jobs, ranked."""
@@ -178,7 +179,7 @@ class House:
 
 
 def house_with(inside):
-    """The house with an inside that is surely right, which is that of the house alone."""
+    """The house with an inside that is surely right."""
     made = House(*inside.rules.all_settings)
     made._inside = inside
     return made

@@ -15,7 +15,10 @@ MOST_SETTLINGS = 1000
 
 
 class Inside:
-    """The jobs that have come, how they stand, the board, and the uses. The dicts in it never change."""
+    """The jobs that have come, how they stand, the board, and the uses. The dicts in it never change.
+
+    An inside changes only until it is passed on: a house does each deed with a copy.
+    """
 
     def __init__(self, rules, table):
         self.rules = rules

@@ -55,7 +55,7 @@ class Log:
 
     def house(self):
         """The house behind all deeds, each time another one."""
-        return house_with(self.last_inside().copied())
+        return house_with(self.last_inside())
 
     def with_deed(self, deed):
         """The log with one more deed."""
