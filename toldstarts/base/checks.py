@@ -88,21 +88,18 @@ def word_end(text, begin):
 
 def is_word(value):
     """Whether the value is a word: one to eight letters."""
-    return isinstance(value, str) and 1 <= len(value) <= MAX_WORD and value.isalpha() and _is_small(value)
+    return (isinstance(value, str) and 1 <= len(value) <= MAX_WORD and value.isascii() and value.isalpha()
+            and value.islower())
 
 
 def is_short_name(value, most):
     """Whether the value has one to `most` letters and digits, with a letter first."""
     if not isinstance(value, str) or not 1 <= len(value) <= most:
         return False
-    return value.isalnum() and value[0].isalpha() and _is_small(value)
+    return value.isascii() and value.isalnum() and value.islower() and value[0].isalpha()
 
 
 def is_name(value):
     """Whether the value is a name."""
     return is_short_name(value, MAX_NAME)
 
-
-def _is_small(text):
-    """Whether the letters of a text, of which there are some, are those of names."""
-    return text.isascii() and text.islower()

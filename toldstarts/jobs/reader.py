@@ -59,10 +59,13 @@ def _is_printable(text):
 
 def _read_line(content, at, begin, arguments, groups):
     """Put what a line tells to the arguments or the groups; `begin` is where the line begins in the text."""
-    end = at
-    while is_letter(content[end:end + 1]):
-        end = end + 1
-    wish = content[at:end]
+    wish = content[at:].partition(" ")[0]
+    end = at + len(wish)
+    if wish not in WISHES:
+        end = at
+        while is_letter(content[end:end + 1]):
+            end = end + 1
+        wish = content[at:end]
     is_group = wish == "group"
     if wish not in WISHES or wish in arguments or (is_group and len(groups) == MAX_GROUPS):
         raise ParseError(begin + at)

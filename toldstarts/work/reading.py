@@ -44,16 +44,22 @@ def read_parts(text):
 
 def _read_deeds(lines, begin):
     """The deeds that stand in lines from an index on."""
-    deeds, at = [], begin
+    deeds, at, jobs = [], begin, {}
     while at < len(lines):
         end = at + 1
         while end < len(lines) and lines[end].startswith(INDENT):
             end = end + 1
         words = lines[at].split(" ")
-        has_job = words[0] in ("come", "row")
-        job = _job_of("\n".join([line[len(INDENT):] for line in lines[at + 1:end]])) if has_job else None
-        # Lines that should not be there are found to be wrong as deeds.
-        end = end if has_job else at + 1
+        job = None
+        if words[0] in ("come", "row"):
+            text = "\n".join([line[len(INDENT):] for line in lines[at + 1:end]])
+            # Many deeds tell the same job, which is read once.
+            if text not in jobs:
+                jobs[text] = _job_of(text)
+            job = jobs[text]
+        else:
+            # Lines that should not be there are found to be wrong as deeds.
+            end = at + 1
         deed = _deed_of(words, job)
         if deed is None or not is_deed(deed) or deed_lines(deed) != lines[at:end]:
             raise ParseError(at)
