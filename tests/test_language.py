@@ -104,6 +104,55 @@ def loose_reversals(tree):
     return found
 
 
+def is_new(value):
+    """Whether an expression makes a list or a dict."""
+    made = isinstance(value, ast.Call) and ast.unparse(value.func) in ("list", "dict", "sorted")
+    return made or isinstance(value, (ast.List, ast.Dict, ast.ListComp, ast.DictComp))
+
+
+def changes_of(node, classes):
+    """What a function changes that it has not made itself, as the rule for operators and properties tells it."""
+    given, found = {}, []
+    for part in ast.walk(node):
+        for target in part.targets if isinstance(part, ast.Assign) else ():
+            for one in ast.walk(target):
+                if isinstance(one, ast.Name) and isinstance(one.ctx, ast.Store):
+                    given.setdefault(one.id, []).append(part.value if one is target else None)
+    lists = [name for name, values in given.items() if all([is_new(value) for value in values])]
+    objects = [name for name, values in given.items()
+               if all([isinstance(value, ast.Call) and ast.unparse(value.func) in classes for value in values])]
+    # The names of what is new, and has nothing but what is new in it.
+    nests = [name for name in lists if all([ast.unparse(value) == "{}" for value in given[name]])
+             and all([is_new(part.value) for part in ast.walk(node) if isinstance(part, ast.Assign)
+                      and isinstance(part.targets[0], ast.Subscript) and ast.unparse(part.targets[0].value) == name])]
+    for part in ast.walk(node):
+        changed = None
+        if isinstance(part, (ast.Attribute, ast.Subscript)) and isinstance(part.ctx, (ast.Store, ast.Del)):
+            changed = part.value
+            fine = objects + (["self"] if node.name == "__init__" else []) if isinstance(part, ast.Attribute) else lists
+        elif isinstance(part, ast.Call) and isinstance(part.func, ast.Attribute) and part.func.attr in MODIFIERS:
+            changed, fine = part.func.value, lists
+            if isinstance(changed, ast.Subscript):
+                changed, fine = changed.value, nests
+            elif isinstance(changed, ast.Call) and isinstance(changed.func, ast.Attribute) and changed.func.attr == "setdefault":
+                changed, fine = changed.func.value, nests
+        if changed is not None and ast.unparse(changed) not in fine:
+            found.append(ast.unparse(part))
+    return found
+
+
+def called_by(node, classes):
+    """The names of the functions, the methods and the classes that a function may call."""
+    found = []
+    for part in ast.walk(node):
+        if isinstance(part, ast.Call):
+            name = part.func.attr if isinstance(part.func, ast.Attribute) else ast.unparse(part.func)
+            found.append("%s.__init__" % name if name in classes else name)
+        if isinstance(part, ast.Attribute) and isinstance(part.ctx, ast.Load):
+            found.append(part.attr)
+    return found
+
+
 def names_of(tree):
     """What a file binds at module level."""
     found = []
@@ -381,3 +430,32 @@ class Form(Case):
                 self.assertFalse(isinstance(part, ast.Attribute) and isinstance(part.ctx, ast.Store), (path, node.name))
                 if isinstance(part, ast.Subscript) and isinstance(part.ctx, ast.Store):
                     self.assertIn(ast.unparse(part.value), made, (path, node.name))
+
+    def test_what_properties_and_operators_run_changes_nothing(self):
+        """All that they call, by its names, changes only what it has made itself."""
+        classes = [node.name for _, node in all_nodes(ast.ClassDef)]
+        bodies, waiting = {}, []
+        for _, tree in trees():
+            for node in tree.body:
+                for one in node.body if isinstance(node, ast.ClassDef) else [node]:
+                    if isinstance(one, ast.FunctionDef):
+                        name = "%s.__init__" % node.name if one.name == "__init__" else one.name
+                        bodies.setdefault(name, []).append(one)
+                        is_property = "property" in [ast.unparse(mark) for mark in one.decorator_list]
+                        if is_property or one.name.startswith("__") and one.name not in ("__init__", "__enter__", "__exit__"):
+                            waiting.append(name)
+        reached = set()
+        while waiting:
+            name = waiting.pop()
+            if name in bodies and name not in reached:
+                reached.add(name)
+                for node in bodies[name]:
+                    self.assertEqual(changes_of(node, classes), [], name)
+                    waiting.extend(called_by(node, classes))
+        self.assertTrue({"yard_of", "Yard.__init__", "Layout.__init__", "sure_amounts", "_children_of"} <= reached)
+        for wrong in ("def f(a):\n    a.b = 1", "def f(a):\n    a.append(1)", "def f(a):\n    b = a\n    b[1] = 2", "def f(a):\n    b, c = {}, 1\n    b[c] = 2",
+                      "def f(self):\n    self.many = 1", "def f(self):\n    b = self.copied()\n    b.many = 1", "def f(a):\n    b = {}\n    b[1] = a\n    b[1].append(2)"):
+            self.assertEqual(len(changes_of(ast.parse(wrong).body[0], ["Box"])), 1, wrong)
+        for right in ("def f(a):\n    b = Box(a)\n    b.many = 1", "def f(a):\n    b = list(a)\n    b.append(1)", "def __init__(self):\n    self.many = 1",
+                      "def f(a):\n    b = {}\n    b[1] = []\n    b[1].append(2)", "def f(a):\n    b = {}\n    b.setdefault(a, []).append(2)"):
+            self.assertEqual(changes_of(ast.parse(right).body[0], ["Box"]), [], right)

@@ -21,7 +21,8 @@ class Layout:
         guards = []
         base = bottom = 0
         for machine in crew:
-            own, top = {}, bottom + FIELD
+            own = {}
+            top = bottom + FIELD
             base = base + (EVEN << bottom)
             for kind, number in machine.amounts.pairs:
                 own[kind] = top

@@ -118,9 +118,10 @@ class Limits:
 
     def needs_at(self, job, door):
         """The pairs (index, need) of the rows that cover a job of an account that there is, if it needs something."""
-        line, total = self._accounts.line(job.account), {**dict(job.total.pairs), JOBS: 1}
-        # All names that a row of each kind can have.
-        names = {"account": line, "person": (job.person,), "door": (door,)}
+        total = dict(job.total.pairs)
+        total[JOBS] = 1
+        # The names that rows have which cover the job.
+        names = {"account": self._accounts.line(job.account), "person": (job.person,), "door": (door,)}
         return [(index, total[what]) for index, ((where, name), what, _) in enumerate(self._rows)
                 if what in total and name in names[where]]
 

@@ -52,12 +52,12 @@ def are_account_rows(value, most, levels):
 
 def _children_of(rows):
     """For each account of ascending rows, and for the roots, the ascending names of the children."""
-    below = {ROOT: []}
-    for name, _, _ in rows:
-        below[name] = []
+    found = {}
+    for name in [ROOT] + [row[0] for row in rows]:
+        found[name] = []
     for name, parent, _ in rows:
-        below[parent].append(name)
-    return below
+        found[parent].append(name)
+    return found
 
 
 def _factors_of(below, shares):
