@@ -412,6 +412,9 @@ class Form(Case):
                     fine.add(id(node.iter))
                 if isinstance(node, ast.Call) and ast.unparse(node.func) in ("list", "tuple", "dict", "sorted", "sum", "any", "all", "enumerate", "zip"):
                     fine.update([id(arg) for arg in node.args[:1]])
+                # Alone, or beside a default.
+                if isinstance(node, ast.Call) and ast.unparse(node.func) in ("min", "max") and len(node.args) == 1:
+                    fine.add(id(node.args[0]))
             for node in ast.walk(tree):
                 if isinstance(node, ast.Call) and isinstance(node.func, ast.Attribute) and node.func.attr in ("items", "keys", "values"):
                     self.assertIn(id(node), fine, (path, node.lineno))

@@ -15,7 +15,7 @@ class Amounts:
     """How much there is, or is wanted, of some kinds."""
 
     def __init__(self, pairs=()):
-        if not _are_pairs(pairs):
+        if pairs != () and not _are_pairs(pairs):
             raise InvalidAmounts("the pairs are no ascending pairs of kinds and numbers")
         self._pairs = pairs
         self._numbers = dict(pairs)
@@ -97,7 +97,7 @@ class Amounts:
         numbers = dict(self._numbers)
         for kind, number in other._pairs:
             numbers[kind] = numbers.get(kind, 0) + number
-        if len(numbers) > MAX_KINDS or not all([number <= MAX_AMOUNT for number in numbers.values()]):
+        if len(numbers) > MAX_KINDS or max(numbers.values(), default=0) > MAX_AMOUNT:
             raise InvalidAmounts("the sum has too many kinds, or a number that is too great")
         return sure_amounts(_pairs_of(numbers))
 

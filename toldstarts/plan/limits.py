@@ -208,7 +208,7 @@ def _with_needs(tokens, needs):
     for index, need in needs:
         kind = _kind_of(index)
         numbers[kind] = numbers.get(kind, 0) + need
-    if len(numbers) > MAX_KINDS or not all([number <= MAX_AMOUNT for number in numbers.values()]):
+    if len(numbers) > MAX_KINDS or max(numbers.values(), default=0) > MAX_AMOUNT:
         raise InvalidJob("the job wants more of the house than amounts can tell")
     return sure_amounts(tuple([(kind, numbers[kind]) for kind in sorted(numbers)]))
 

@@ -180,6 +180,7 @@ class House:
 
 def house_with(inside):
     """The house with an inside that is surely right."""
-    made = House(*inside.rules.all_settings)
+    setting = inside.rules.all_settings
+    made = House(*setting)
     made._inside = inside
     return made

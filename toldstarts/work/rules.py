@@ -3,7 +3,6 @@
 from toldstarts.base.amounts import check_amounts
 from toldstarts.base.checks import is_ascending, is_between
 from toldstarts.errors import InvalidHouse, InvalidJob, InvalidNumber
-from toldstarts.house.machines import is_machine_name
 from toldstarts.plan.asks import Bid
 from toldstarts.plan.ground import new_ground
 from toldstarts.plan.limits import ask_of, check_doors, check_limits
@@ -117,6 +116,6 @@ def _is_window(value, names, period):
     if not isinstance(value, tuple) or len(value) != 3:
         return False
     name, begin, length = value
-    if not is_machine_name(name) or name not in names:
+    if not isinstance(name, str) or name not in names:
         return False
     return is_between(begin, 0, period - 1) and is_between(length, 1, period)
