@@ -223,6 +223,21 @@ class Deeds(Case):
         self.assertEqual(house.do(("come", both)), ((0, "came", 2),))
         self.assertEqual(self.reason(house, ("come", both.changed(limit=11))), ("never",))
 
+    def test_places_from_the_tick_0_on_alone(self):
+        """What fits in the settings at the tick 0 alone may come at any tick, and is never told when this is over."""
+        house = House(*ONE_MACHINE[:7], 10, (("a", 5, 10),))
+        early, late = house.twin(), house.twin()
+        self.assertEqual(early.do(("come", BIG_JOB)), ((0, "came", 1), (0, "told", 1, 0), (0, "began", 1, (0, 0, ((0,),)))))
+        self.assertEqual(self.reason(house, ("come", BIG_JOB.changed(limit=6))), ("never",))
+        late.do(("wait", 1))
+        self.assertEqual((late.do(("come", BIG_JOB)), late.untold), (((1, "came", 1),), (1,)))
+
+    def test_filling_goes_on_with_those_that_wait_for_a_begin(self):
+        """A round in which jobs only begin is not the last one: others may wait for just that."""
+        house = done(("come", SMALL.changed(groups=((1, ALL, some(core=2)),), limit=9)), ("come", BIG_JOB), ("come", SMALL.changed(after=("begun", 4))), setting=ONE_MACHINE[:5] + (1, True))
+        self.assertEqual((house.runs, house.told_starts, house.untold), ((1,), {2: 9}, (3,)))
+        self.assertEqual(house.do(("come", SMALL)), ((0, "came", 4), (0, "began", 4, (0, 0, ((0,),))), (0, "began", 3, (0, 0, ((0,),)))))
+
     def test_parts_that_are_none(self):
         kinds = Amounts(tuple([("t" + "abcdefghijklmnopqrstuvwxyz"[at // 26] + "abcdefghijklmnopqrstuvwxyz"[at % 26], 1) for at in range(60)]))
         wide = BIG_JOB.changed(groups=((1, ALL, kinds),))
@@ -468,6 +483,13 @@ class Deeds(Case):
         entries = tuple([(number, number - 1, 8, house.job(number).grade, house.job(number).account) for number in range(3, 7)])
         self.assertEqual(house.later_rows(), order_turns(Weights(age=1, grade=5, place=3), entries, house.accounts, 6, 10))
         self.assertTrue(is_order_turns(Weights(age=1, grade=5, place=3), entries, house.accounts, 6, 10, house.later_rows()))
+
+    def test_the_least_weight_of_places(self):
+        house = House(*SETTING[:4], Weights(age=0, place=1), 1, False, 10)
+        both = BIG_JOB.changed(groups=((2, ALL, AMOUNT),), limit=50)
+        for account in ("web", "web", "web", "lab"):
+            house.do(("come", both.changed(account=account)))
+        self.assertEqual((house.row(), house.twin().do(("leave", 2))[-1]), ((4, 3), (0, "told", 4, 50)))
 
     def test_earlier_and_bars(self):
         house = done(("come", BIG_JOB), ("come", BIG_JOB))
