@@ -166,6 +166,21 @@ class Settling(Case):
         self.assertEqual(board, before)
         self.assertEqual(board.settle(0, ()), ())
 
+    def test_filling_looks_at_all_places(self):
+        """The last job that fills is looked at beside all places, a told one beside those of the others alone."""
+        always = Yard((Machine("a", CORES), Machine("b", CORES)), period=1).with_window(0, 0, 1)
+        for length, is_fine in ((9999, True), (10000, False)):
+            board = Board(always, depth=1, fill=True)
+            board.settle(0, ((1, ONE, 10000), (2, ONE, length)))
+            self.assertEqual((board.runs, board.starts), ((1,), {2: 10000}))
+            before = board.twin()
+            if is_fine:
+                self.assertEqual(board.settle(0, ((3, ONE, 5),)), ())
+            else:
+                self.assertEqual(board.settle(0, ()), ())
+                self.assertEqual(self.refused(TooMany, board.settle, 0, ((3, ONE, 5),)).most, 20000)
+            self.assertEqual(board, before)
+
     def test_drawing_looks_at_all_told_jobs(self):
         """Also one that cannot come earlier is looked at, beside the places of all others."""
         always = Yard((Machine("a", CORES), Machine("b", CORES)), period=1).with_window(0, 0, 1)

@@ -213,6 +213,7 @@ class Rows(Case):
         self.assertEqual(LIMITS.ask(DOORS, JOB), ((JOB.groups, some(l1=8, l2=1)), (JOB.groups, some(l1=8, l3=8))))
         self.assertEqual(LIMITS.ask(DOORS, JOB.changed(limit=400)), ((JOB.groups, some(l1=8, l3=8)),))
         self.assertEqual(LIMITS.ask(DOORS, JOB.changed(limit=501)), ())
+        self.assertEqual(self.refused(UnknownName, LIMITS.ask, DOORS, JOB.changed(limit=501, account="nix")).wanted, "nix")
         # A door at which nothing could be told does not count if it is not usable.
         over = JOB.changed(tokens=some(l2=1000000), limit=400)
         self.assertEqual(len(LIMITS.ask(DOORS, over)), 1)

@@ -354,6 +354,12 @@ class Searching(Case):
         self.assertEqual([earliest_place(yard, ONE, length, since) for length, since in ((7, 0), (3, 1), (4, 1), (4, 8), (5, 0), (5, 3))],
                          [(0, 0, ((0,),)), (1, 0, ((0,),)), (1, 0, ((0,),)), (13, 0, ((0,),)), (0, 0, ((0,),)), None])
 
+    def test_one_window_ahead_of_a_place(self):
+        """A run that begins behind the window goes on into the place, one that would not begins in the window."""
+        yard = Yard(MACHINES[1:], period=20).with_place(1, (5, 0, ((0,),)), 3, ONE).with_window(0, 0, 3)
+        self.assertEqual([earliest_place(yard, ONE, length, 0)[0] for length in (1, 2, 3, 4, 12)], [3, 3, 8, 8, 8])
+        self.assertEqual([earliest_place(yard, ONE, 13, since)[0] for since in (0, 8, 9)], [23, 23, 23])
+
     def test_far_ahead(self):
         """Periods and ticks are not gone through one by one."""
         yard = Yard(MACHINES, period=10000).with_window(0, 9000, 900).with_window(1, 0, 8950).with_shut(0, 0, 1000000)
@@ -381,6 +387,12 @@ class Searching(Case):
             self.assertEqual(self.refused(TooMany, earliest_place, more, BOTH, 1, 0).most, 20000)
         self.refused(InvalidTick, earliest_place, half.with_shut(1, 7, 10), BOTH, 1, -1)
         self.assertIs(is_place_bars(half.with_shut(1, 7, 10), BOTH, 1, 39999, ()), True)
+
+    def test_a_place_that_ends_with_the_first_turn_of_a_window(self):
+        yard = Yard(MACHINES, period=10).with_window(0, 1, 2).with_place(1, (0, 0, ((1,),)), 3, ONE)
+        for length, many in ((3, 2), (2, 2), (13, 3)):
+            ends = module.ground_of(yard.without_place(1).with_place(1, (0, 0, ((1,),)), length, ONE))
+            self.assertEqual(ground._looked_ticks(ends, 0), many)
 
     def test_counted_ticks_against_the_words(self):
         chance = random.Random(115)

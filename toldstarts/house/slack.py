@@ -79,14 +79,6 @@ class SetFields:
         """The slacks if some members fit."""
         return self.slack_without_members(counts) + sum([self.meeting[fit] for fit in fits])
 
-    def is_enough(self, counts, fits):
-        """Whether there is a choice if some members fit."""
-        return self.are_even(self.slack_of(counts, fits))
-
-    def are_even(self, slack):
-        """Whether no slack is below 0."""
-        return slack & self.tops == self.tops
-
 
 def _members_in_one_rack(count, fits, racks):
     """The least ascending tuple of so many members that fit the only group and stand in one rack, or None."""
