@@ -216,6 +216,38 @@ class Trials(Case):
         # The changes that can be taken back and done again are there as well.
         self.assertEqual((desk.redo(), desk.pledges, desk.undo(many=2), desk == told_desk()), (4, (("kept", 2),), 3, True))
 
+    def test_pledges_behind_a_trial(self):
+        """Pledges that were demanded ahead of the block are demanded behind it, whatever was done with them in it."""
+        desk = told_desk()
+        desk.demand(("kept", 2))
+        desk.demand(("start", 3, 10))
+        desk.demand(("runs", 1))
+        desk.undo()
+        before = (desk.log, (("kept", 2), ("start", 3, 10)))
+        with desk.trial():
+            desk.waive(("kept", 2))
+            desk.do(("hold", 2))
+            self.assertEqual(desk.pledges, (("start", 3, 10),))
+        self.assertEqual(((desk.log, desk.pledges), ("kept", 2) in desk), (before, True))
+        with desk.trial():
+            desk.undo(many=2)
+            self.assertEqual(desk.pledges, ())
+        self.assertEqual((desk.log, desk.pledges), before)
+        self.assertEqual((desk.redo(), desk.pledges), (3, before[1] + (("runs", 1),)))
+        self.assertEqual(self.refused(Refused, desk.do, ("hold", 2)).reason, ("pledge", ("kept", 2)))
+
+    def test_twins_have_the_same_changes(self):
+        desk = told_desk()
+        desk.demand(("kept", 2))
+        desk.do(("wait", 1))
+        desk.demand(("runs", 1))
+        desk.undo(many=2)
+        twin = desk.twin()
+        self.assertEqual((twin, twin.pledges, len(twin)), (desk, (("kept", 2),), 3))
+        self.assertEqual((twin.redo(many=2), twin.pledges), (4, (("kept", 2), ("runs", 1))))
+        self.assertEqual((len(desk), desk.pledges, self.refused(Refused, twin.redo).reason), (3, (("kept", 2),), ("few", 0)))
+        self.assertEqual((twin.undo(many=3), twin.pledges, desk.redo(), desk.undo(many=2), desk == twin), (3, (), 4, 3, True))
+
     def test_trials_that_end_with_an_error(self):
         desk = told_desk()
         for error in (KeyError(7), Refused(("x",)), ValueError()):
