@@ -189,6 +189,28 @@ class Kept(Case):
                 self.assertEqual((log.house(), log.events), anew(setting, log.deeds))
         self.assertGreater(many, 120)
 
+    def test_logs_against_plain_houses(self):
+        """Logs that are cut and edited anywhere tell the events that a plain house tells of their deeds."""
+        chance, total = random.Random(195), 0
+        for _ in range(120):
+            setting = some_setting(chance)
+            house, log = House(*setting), Log(setting)
+            for _ in range(chance.randrange(10, 60)):
+                index = len(log) if chance.random() < 0.8 else chance.randrange(len(log) + 1)
+                deed = some_deed(chance, house)
+                # A plain house does not tell a machine that fails from one that is shut for ever.
+                if deed[0] == "shut" and deed[3] is None:
+                    continue
+                try:
+                    log = log.edited(index, min(chance.choice((0, 0, 1, 2)), len(log) - index), (deed,))
+                    house = log.house()
+                except Refused:
+                    log = log.until(len(log) - chance.choice((0, 0, 0, 0, 1)) * (len(log) > 0))
+            self.assertEqual(log.events, plain_events(setting, log.deeds))
+            self.assertEqual((log.house(), Desk(log).house()), (anew(setting, log.deeds)[0],) * 2)
+            total = total + len(log)
+        self.assertGreater(total, 1000)
+
     def test_boards_that_are_kept(self):
         """What a board has told stays what it was when the board goes on."""
         board = Board(Yard((Machine("a", some(core=4)), Machine("b", some(core=4)))), depth=3)
