@@ -99,7 +99,9 @@ def _first_choice(counts, fits, places, alive, fields):
     for group, count in enumerate(counts):
         members = []
         for member in range(len(left)):
-            if len(members) < count and left[member] >> group & 1:
+            if len(members) == count:
+                break
+            if left[member] >> group & 1:
                 cost = fields.cost(left[member], group)
                 rest = [(some, slack - cost) for some, slack in alive if some & places[member]]
                 # The groups that do not get this member must be able to do without it.

@@ -31,6 +31,9 @@ class Ground:
         # The head, and all windows of the machines as pairs (guard, (begin, length)).
         self.top = 0
         self.guarded_turns = []
+        # What was asked of the search last, and what it told: it has no effect on anything else.
+        self.last_asked = None
+        self.last_found = None
 
     def with_stay(self, key, place, length, asked, held):
         """The ground with one place more."""

@@ -97,33 +97,37 @@ class Limits:
     def covering(self, job, door):
         """The indices of the rows that cover a job at a door, and of which it needs something."""
         self._check(job, door)
-        return tuple([index for index, _ in self.needs_at(job, door)])
+        return tuple([index for index, _ in self.needs_at(job, (door,))[0]])
 
     def beyond(self, job, door):
         """The indices of those rows of which a job needs more at a door than there ever is."""
         self._check(job, door)
-        return self.too_great(self.needs_at(job, door))
+        return self.too_great(self.needs_at(job, (door,))[0])
 
     def house_amounts(self, job, door):
         """What a job holds of the whole house if it comes in through a door."""
         self._check(job, door)
-        return _with_needs(job.tokens, self.needs_at(job, door))
+        return _with_needs(job.tokens, self.needs_at(job, (door,))[0])
 
     def ask(self, doors, job):
         """What a job wants of machines and of the house, for each usable door."""
         check_doors(doors)
         check_job(job)
         self._check_account(job)
-        return ask_of(job, [self.needs_at(job, door) for door in doors.usable(job)])
+        return ask_of(job, self.needs_at(job, doors.usable(job)))
 
-    def needs_at(self, job, door):
-        """The pairs (index, need) of the rows that cover a job of an account that there is, if it needs something."""
+    def needs_at(self, job, doors):
+        """For each of some doors what a job of an account that there is needs of the rows that cover it there.
+
+        These are pairs (index, need), ascending, with a need above 0.
+        """
         total = dict(job.total.pairs)
         total[JOBS] = 1
         # The names that rows have which cover the job.
-        names = {"account": self._accounts.line(job.account), "person": (job.person,), "door": (door,)}
-        return [(index, total[what]) for index, ((where, name), what, _) in enumerate(self._rows)
-                if what in total and name in names[where]]
+        names = {"account": self._accounts.line(job.account), "person": (job.person,), "door": doors}
+        rows = [(index, total[what], name if where == "door" else None)
+                for index, ((where, name), what, _) in enumerate(self._rows) if what in total and name in names[where]]
+        return [[(index, need) for index, need, at in rows if at is None or at == door] for door in doors]
 
     def too_great(self, needs):
         """The indices of those needs that are above what there ever is."""
@@ -215,7 +219,7 @@ def _with_needs(tokens, needs):
 
 def _broken(limits, room, job, door, tick):
     """The pairs (index, first tick) of the limits that are broken for a job at a door and a start."""
-    needs = limits.needs_at(job, door)
+    needs = limits.needs_at(job, (door,))[0]
     want = sure_amounts(tuple(sorted([(_kind_of(index), need) for index, need in needs])))
     lacks = first_lacks(room, want, tick, tick + job.limit)
     return tuple([(index, lacks[_kind_of(index)]) for index, _ in needs if _kind_of(index) in lacks])

@@ -9,16 +9,34 @@ from toldstarts.base.checks import place_of
 
 def first_place(ground, bid, length, since, end):
     """The place with the least start from a tick up to an end, of these the least door and choice, or None."""
-    found = _first_start(ground, bid, length, since, end)
+    return _place_of_start(bid, _first_start(ground, bid, length, since, end))
+
+
+def earliest_at_all(ground, bid, length, since):
+    """The earliest place from a tick on, or None."""
+    return _place_of_start(bid, _first_at_all(ground, bid, length, since))
+
+
+def is_ever_free(ground, bid, length, since):
+    """Whether there is a place from a tick on."""
+    return _first_at_all(ground, bid, length, since) is not None
+
+
+def _place_of_start(bid, found):
+    """The place with what `_first_start` tells."""
     if found is None:
         return None
     start, door, fits = found
     return (start, door, bid.choice_at(door, fits))
 
 
-def is_ever_free(ground, bid, length, since):
-    """Whether there is a place from a tick on."""
-    return _first_start(ground, bid, length, since, ground.horizon(since)) is not None
+def _first_at_all(ground, bid, length, since):
+    """What `_first_start` tells without an end. A house asks this twice in a row of a job that comes."""
+    asked = (bid, length, since)
+    if ground.last_asked != asked:
+        ground.last_found = _first_start(ground, bid, length, since, ground.horizon(since))
+        ground.last_asked = asked
+    return ground.last_found
 
 
 def _first_start(ground, bid, length, since, end):
@@ -43,11 +61,6 @@ def _first_start(ground, bid, length, since, end):
             else:
                 failed = tops
     return None
-
-
-def earliest_at_all(ground, bid, length, since):
-    """The earliest place from a tick on, or None."""
-    return first_place(ground, bid, length, since, ground.horizon(since))
 
 
 def place_at(ground, bid, length, start):

@@ -61,13 +61,14 @@ class Rules:
         limits = self.house_limits
         if job.account not in limits.accounts:
             return (("account", job.account), None)
-        needs = [(door, limits.needs_at(job, door)) for door in self.house_doors.usable(job)]
-        if not needs:
+        doors = self.house_doors.usable(job)
+        if not doors:
             return (("doors",), None)
-        beyond = [(door, limits.too_great(pairs)) for door, pairs in needs]
+        needs = limits.needs_at(job, doors)
+        beyond = [(door, limits.too_great(pairs)) for door, pairs in zip(doors, needs)]
         if all([indices for _, indices in beyond]):
             return (("limits", tuple(beyond)), None)
-        bid = None if part is None else _bid_in(ground, part, [pairs for _, pairs in needs])
+        bid = None if part is None else _bid_in(ground, part, needs)
         return (("never",), None) if bid is None else (None, bid)
 
 
